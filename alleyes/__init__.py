@@ -1,0 +1,1 @@
+"""What pictures in perspective show for all eyes that fit."""

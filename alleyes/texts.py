@@ -1,0 +1,23 @@
+"""Texts: words with single blanks between."""
+
+from alleyes.errors import BadText
+
+
+def words_of(text):
+    """The words of a text; BadText(0, 0) for what is no string."""
+    if not isinstance(text, str):
+        raise BadText(0, 0)
+    return text.split(" ")
+
+
+def word_at(words, at):
+    """The word of this index; BadText if it is missing."""
+    if at >= len(words):
+        raise BadText(0, at)
+    return words[at]
+
+
+def end_at(words, at):
+    """BadText if there is still a word of this index."""
+    if at < len(words):
+        raise BadText(0, at)
