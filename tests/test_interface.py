@@ -1,0 +1,116 @@
+"""The interface: each name stands in its file, with its arguments, each method in the body of its class."""
+
+import importlib
+import inspect
+import unittest
+
+from alleyes.papers import Denial, Paper
+
+CLASSES = {
+    "ratios.Ratio": ("top bottom=1", "__add__ __sub__ __mul__ over(other) compared(other) is_below(other) __neg__ __abs__ "
+                     "__bool__ __eq__ __str__ __repr__ read(text) of(value)"),
+    "papers.Paper": ("word *parts", "__eq__ __bool__"),
+    "papers.Denial": ("word *parts", "__eq__ __bool__"),
+    "rows.Row": ("terms", "ratio_of(label) at(values) __add__ __sub__ __neg__ __mul__ __eq__ __str__ read(text)"),
+    "steps.Step": ("terms", "between(one,other) right_of(name) up_of(name) __add__ __sub__ __neg__ __mul__ __eq__ __str__ "
+                   "read(text)"),
+    "steps.Mark": ("terms", "of_point(label) on_way(one,other,ratio) __add__ __sub__ __eq__ __str__ read(text)"),
+    "pictures.Picture": ("name points", "place_of(label) __len__ __iter__ __contains__ __eq__ portion(names) moved(u,v) "
+                         "enlarged(m) turned() mirrored() renamed(name,names=None) __str__ read(text)"),
+    "scenes.Scene": ("depths", "depth_of(label) __len__ __contains__ __mul__ __eq__ __str__ read(text)"),
+    "eyes.Eye": ("a b s", "__eq__ __str__ read(text) moved(u,v) enlarged(m) turned() mirrored()"),
+    "cones.Cone": ("labels zeros aboves=()", "__len__ __contains__ __eq__ narrowed(zeros=(),aboves=())"),
+    "flats.EyeRow": ("a b c g", "at(eye) __add__ __sub__ __neg__ __mul__ __eq__ __str__ read(text)"),
+    "flats.Flat": ("lines", "__len__ __contains__ __eq__ narrowed(lines) weights_of(row)"),
+}
+PAPERS = {
+    "cones": {"Lies": "depths", "NoScene": "weights lifts depths", "Zero": "weights", "Above": "weights lifts depths",
+              "Below": "weights lifts depths", "Mixed": "below zero above", "AllZero": "weights", "Some": "zero apart",
+              "NeverAll": "weights lifts depths"},
+    "ranges": {"Even": "number weights above", "Stretch": "low high low_end high_end above"},
+    "bowl": {"Sees": "a b s", "NoEye": "weights a b t", "ZeroEyes": "weights", "AboveEyes": "eye bar",
+             "BelowEyes": "eye bar", "MixedEyes": "below zero above"},
+    "highest": {"Highest": "a b s weights", "Upward": "a b"},
+}
+DENIALS = ("NoScene", "NeverAll", "NoEye")
+FUNCTIONS = {
+    "checks": "is_integer(value) is_within(value,least,most) is_name(value) is_label(value)",
+    "ratios": "is_ratio(value) added(ratios) least_of(ratios) greatest_of(ratios)",
+    "papers": "fixed(value)",
+    "spans": "rank_of(rows) reduced(rows) rest_of(rows,row) summed(rows,weights) weights_for(rows,row) free_of(rows,labels) "
+             "solved(rows,values)",
+    "forms": "form_of(picture,value) form_at(form,scene) in_space(numbers,eye) product(one,other,eye) place_at(numbers) "
+             "placed(picture,scene,label,eye)",
+    "sheet": "cross(one,other) determinant(one,two,three) direction_of(numbers) on_line(picture,labels) "
+             "meet_of(picture,one,other)",
+    "cones": "some_scene(cone) signs_of(cone,row) signs_of_rows(cone,rows)",
+    "ranges": "stretch(cone,top,under)",
+    "check_cones": "shows_lies(cone,value) shows_signs(cone,row,value) shows_signs_of_rows(cone,rows,value) "
+                   "shows_stretch(cone,top,under,value)",
+    "flats": "product_row(one,other)",
+    "bowl": "some_eye(flat) signs_at_eyes(flat,row)",
+    "highest": "one_eye(flat) highest(flat)",
+    "check_eyes": "shows_sees(flat,value) shows_eye_signs(flat,row,value) shows_highest(flat,value)",
+}
+PROPERTIES = {"ratios.Ratio": "sign is_whole", "rows.Row": "is_nothing", "steps.Step": "is_plain", "eyes.Eye": "height",
+              "cones.Cone": "free", "cones.Lies": "scene", "flats.EyeRow": "left is_nothing", "flats.Flat": "rank reduced",
+              "bowl.Sees": "as_eye"}
+
+
+def found(path):
+    module, _, name = path.partition(".")
+    return getattr(importlib.import_module(f"alleyes.{module}"), name)
+
+
+def arguments(call, skipped=0):
+    parts = list(inspect.signature(call).parameters.values())[skipped:]
+    return ",".join([str(part) for part in parts])
+
+
+class InterfaceTest(unittest.TestCase):
+    def check_call(self, told, call, skipped):
+        name, _, rest = told.partition("(")
+        self.assertEqual(arguments(call, skipped), rest[:-1], told)
+
+    def test_classes(self):
+        for path, (made_with, methods) in CLASSES.items():
+            kind = found(path)
+            self.assertEqual([kind.__module__, kind.__name__], ["alleyes." + path.partition(".")[0], path.partition(".")[2]])
+            self.assertEqual(arguments(kind.__init__, 1), made_with.replace(" ", ","))
+            self.assertIn("__init__", vars(kind))
+            for told in methods.split():
+                name = told.partition("(")[0]
+                self.assertIn(name, vars(kind), path)
+                if "(" in told:
+                    static = isinstance(vars(kind)[name], staticmethod)
+                    self.check_call(told, getattr(kind, name), 0 if static else 1)
+
+    def test_papers(self):
+        for module, papers in PAPERS.items():
+            for name, parts in papers.items():
+                kind = found(f"{module}.{name}")
+                self.assertEqual([kind.__module__, arguments(kind.__init__, 1)], [f"alleyes.{module}", parts.replace(" ", ",")])
+                self.assertIn("__init__", vars(kind))
+                self.assertTrue(issubclass(kind, Paper))
+                self.assertIs(issubclass(kind, Denial), name in DENIALS)
+
+    def test_functions(self):
+        for module, functions in FUNCTIONS.items():
+            for told in functions.split():
+                call = found(f"{module}.{told.partition('(')[0]}")
+                self.assertEqual(call.__module__, f"alleyes.{module}")
+                self.check_call(told, call, 0)
+
+    def test_properties(self):
+        for path, names in PROPERTIES.items():
+            for name in names.split():
+                self.assertIsInstance(vars(found(path))[name], property)
+
+    def test_static_methods(self):
+        for path in ("ratios.Ratio", "rows.Row", "steps.Step", "steps.Mark", "pictures.Picture", "scenes.Scene", "eyes.Eye",
+                     "flats.EyeRow"):
+            self.assertIsInstance(vars(found(path))["read"], staticmethod)
+
+
+if __name__ == "__main__":
+    unittest.main()
