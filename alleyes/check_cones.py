@@ -62,6 +62,7 @@ def _is_end(cone, top, under, number, end):
     if not _are_depths(cone, told) or not _is_ray(cone, dict(told)):
         return False
     ray = dict(told)
+    # Depths that are all 0 are no ray; top and under would be 0 there, which is refused below.
     if number is None:
         return paper is None and value_at(under, ray) == 0 and value_at(top, ray).sign < 0
     if not is_ratio(number) or value_at(under, ray).sign <= 0:
@@ -122,9 +123,7 @@ def _is_scene(cone, value):
 
 
 def _is_ray(cone, depths):
-    """Whether depths from 0 on are not all 0, each zero row 0 at them, each above row from 0 on."""
-    if not [label for label in depths if depths[label] != 0]:
-        return False
+    """Whether each zero row is 0 at depths from 0 on, and each above row from 0 on."""
     if not all([value_at(row, depths) == 0 for row in cone.zeros]):
         return False
     return all([value_at(row, depths).sign >= 0 for row in cone.aboves])

@@ -56,7 +56,6 @@ class Cone:
         """The cone with these rows behind its own ones."""
         check_rows(zeros, "zeros")
         check_rows(aboves, "aboves")
-        check_labels_known([*zeros, *aboves], self.labels)
         return Cone(self.labels, [*self.zeros, *zeros], [*self.aboves, *aboves])
 
 
@@ -175,6 +174,7 @@ def signs_of_rows(cone, rows):
     if footing.found is None:
         bar = footing.bar
         return NeverAll(*bar)
+    # All rows are 0 at this scene, so one that is no sum of the zero rows is mixed.
     parting = [row for row, its_weights in zip(rows, weights) if its_weights is None]
     return Some(footing.found, _scene_apart(cone, parting[0]))
 
@@ -238,10 +238,6 @@ def _pushed(scene, row, ray):
 
 
 def _scene_apart(cone, row):
-    """A scene at which a row that is not zero is not 0."""
-    scene = cone.footing.found
-    if value_at(row, scene) != 0:
-        return scene
-    # At this scene it is 0, so it is mixed, and each ray at which it is below 0 leads away from there.
+    """A scene at which a mixed row is below 0."""
     _, _, ray = reading(cone.footing, cone.footing.board, row)
-    return _pushed(scene, row, ray)
+    return _pushed(cone.footing.found, row, ray)

@@ -21,7 +21,6 @@ def form_of(picture, value):
         if value.picture_name != picture.name:
             raise NoPicture(value.picture_name)
         return RIGHT_FORM if value.side == RIGHT else UP_FORM
-    _check_known([label for label, _ in value.terms], picture)
     places = [(label, ratio, picture.place_of(label)) for label, ratio in value.terms]
     across = Row({label: ratio * x for label, ratio, (x, _) in places})
     upward = Row({label: ratio * y for label, ratio, (_, y) in places})
@@ -37,7 +36,9 @@ def form_at(form, scene):
         raise BadScene("scene")
     if numbers is not None:
         return numbers
-    _check_known(sorted({label: True for row in form for label in row.labels}), scene)
+    for label in sorted({label: True for row in form for label in row.labels}):
+        if label not in scene:
+            raise NoLabel(label)
     depths = dict(scene.depths)
     return tuple([value_at(row, depths) for row in form])
 
@@ -75,10 +76,3 @@ def placed(picture, scene, label, eye):
     check_eye(eye)
     depth = scene.depth_of(label)
     return in_space((depth * x, depth * y, depth), eye)
-
-
-def _check_known(labels, holder):
-    """NoLabel for the first of the labels that a picture or a scene lacks."""
-    for label in labels:
-        if label not in holder:
-            raise NoLabel(label)

@@ -38,7 +38,6 @@ def one_eye(flat):
 
 def highest(flat):
     """A Highest, or an Upward if eyes of the flat are as high as one likes."""
-    check_flat(flat)
     eye_of_flat(flat)
     if is_upward(flat):
         a, b = foot_of(flat)

@@ -1,6 +1,6 @@
 """Ranges: between which ends the quotient of two rows lies over the scenes of a cone."""
 
-from alleyes.cones import Above, check_cone_row, check_possible, signs_of
+from alleyes.cones import Above, check_cone_row, signs_of
 from alleyes.errors import Unsettled
 from alleyes.footings import reading, zero_weights
 from alleyes.papers import Paper
@@ -26,7 +26,6 @@ class Stretch(Paper):
 def stretch(cone, top, under):
     """An Even or a Stretch of the quotients of top by under, a row that is above."""
     check_rows_of_quotient(cone, top, under)
-    check_possible(cone)
     above = signs_of(cone, under)
     if type(above) is not Above:
         raise Unsettled("under")

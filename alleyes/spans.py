@@ -61,7 +61,6 @@ def free_of(rows, labels):
 
 def solved(rows, values):
     """The values, and with them the one value of each leading label at which all rows are 0."""
-    check_rows(rows, "rows")
     reduced_rows = reduced(rows)
     found = _free_values(rows, reduced_rows, values)
     for row in reduced_rows:

@@ -106,6 +106,16 @@ class BowlTest(unittest.TestCase, Checks):
         for row in (EyeRow(999999, 1, 0, 0), EyeRow(1, Ratio(1, 999983), 0, Ratio(1, 10 ** 8)), EyeRow(0, -1, 5, 0)):
             self.assertIs(right_eye_signs(near, row, signs_at_eyes(near, row)), True)
 
+    def test_slanted_ways_near_the_bowl(self):
+        hair = Ratio(1, 100)
+        for a, b, slope in ((10, 0, 30), (10, 0, 10), (-10, 0, -30), (0, 10, 30), (0, -10, -30), (10, 0, 20), (0, 10, 0)):
+            across = EyeRow(1, 0, 0, -a) if a else EyeRow(0, 1, 0, -b)
+            still = EyeRow(0, 1, 0, 0) if a else EyeRow(1, 0, 0, 0)
+            flat = Flat([still, EyeRow(0, 0, 1, -hair - 100) + across * -slope])
+            found = signs_at_eyes(flat, across)
+            self.assertEqual([found.word, found.zero], ["mixedeyes", (a, b, hair + 100)])
+            self.assertIs(right_eye_signs(flat, across, found), True)
+
     def test_errors(self):
         for value in (None, True, [], HALF.lines, Odd()):
             self.bad(BadFlat, "flat", some_eye, value)

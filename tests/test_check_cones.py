@@ -2,6 +2,7 @@
 
 import random
 import unittest
+from unittest.mock import ANY
 
 from alleyes.check_cones import shows_lies, shows_signs, shows_signs_of_rows, shows_stretch
 from alleyes.cones import Above, AllZero, Below, Cone, Lies, Mixed, NeverAll, NoScene, Some, Zero
@@ -108,7 +109,7 @@ class CheckConesTest(unittest.TestCase, Checks):
                           (2, (None, {"one.a": 1, "one.b": 1})), (2, (above, {"one.a": 1, "one.b": 1})), (2, (low, {})),
                           (2, (low, {"one.a": 1})), (2, (low,)), (2, None), (3, (None, {"one.b": 1})), (3, (None, {})),
                           (3, (low, {"one.a": 1})), (3, (False, {"one.a": 1})), (3, (None, {"one.a": 0})), (4, low), (4, None),
-                          (3, (None, {"one.a": -1})), (0, (True,)), (3, (None, {"one.a": 1, "two.a": 0}))):
+                          (3, (None, {"one.a": -1})), (0, (True,)), (3, (None, {"one.a": 2, "one.b": 1})), (3, (None, {"one.a": 1, "two.a": 0}))):
             if at is None:
                 self.assertIs(shows_stretch(DEEP, A, B, Stretch(*right)), True)
                 continue
@@ -119,6 +120,15 @@ class CheckConesTest(unittest.TestCase, Checks):
                                               (3, (), above, False), (True, (), above, False), (None, (), above, False),
                                               (Ratio(2), [], Above([], [0], [("one.b", 1)]), True), (2, (), None, False)):
             self.assertIs(shows_stretch(DEEP, B * 2, B, Even(number, weights, over)), wanted)
+
+    def test_rays_of_labels_beside(self):
+        cone = Cone(["one.a", "one.b", "one.c"], [], [Row({"one.a": 1, "one.b": -1})])
+        above, low = Above((), (0,), {"one.b": 1}), Above((), (1,), {})
+        less = Above((), (1,), {"one.b": Ratio(1, 2)})
+        right = (1, None, (low, {"one.a": 1, "one.b": 1, "one.c": 4}), (None, {"one.a": 1, "one.c": 2}), above)
+        self.assertEqual([shows_stretch(cone, A, B, Stretch(*parts)) for parts in (
+            right, (HALF, None, (less, {"one.c": 1}), *right[3:]), (1, None, (low, {"one.c": 1}), *right[3:]),
+            (*right[:3], (None, {"one.c": 1}), above), (None, None, (None, {"one.c": 1}), *right[3:]))], [True] + [False] * 4)
 
     def test_high_ends(self):
         wide = Cone(["one.a", "one.b"], [], [Row({"one.a": 1, "one.b": -2}), Row({"one.b": 3, "one.a": -1})])
@@ -137,6 +147,8 @@ class CheckConesTest(unittest.TestCase, Checks):
         self.assertIs(shows_stretch(DEEP, A, Row({"one.b": -1}), Even(1, (), None)), False)
 
     def test_any_values(self):
+        self.assertIs(shows_lies(PAIR, Lies([("one.a", 1), (ANY, 1)])), False)
+        self.assertIs(shows_lies(DEEP, Lies({"one.a": 2, "one.b": 1, "one.z": 1})), False)
         for value in (None, True, 0, "lies", (), [], {}, Odd(), Ratio(1), Lies, A, DEEP, Paper("lies", ()), Denial("x")):
             self.assertIs(shows_lies(DEEP, value), False)
             self.assertIs(shows_signs(DEEP, A, value), False)

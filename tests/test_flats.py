@@ -77,6 +77,7 @@ class EyeRowsTest(unittest.TestCase, Checks):
     def test_sums(self):
         self.assertEqual([str(EVEN + SQUARE_ON), str(EVEN - SQUARE_ON), str(-EVEN), str(EVEN * Ratio(1, 3)), str(EVEN * 0)],
                          ["5 6 -1 -6", "7 6 -1 -12", "-6 -6 1 9", "2 2 -1/3 -3", "0 0 0 0"])
+        self.assertEqual([str(SQUARE_ON - EVEN), str(SQUARE_ON + EVEN)], ["-7 -6 1 12", "5 6 -1 -6"])
         self.assertEqual(str(EVEN), "6 6 -1 -9")
         for value in (None, 0, (0, 0, 0, 0), "0 0 0 0", Odd(), OVER, True):
             self.bad(BadEyeRow, "other", lambda: EVEN + value)

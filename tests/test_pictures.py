@@ -1,6 +1,7 @@
 """Pictures: points, places, new pictures, texts."""
 
 import unittest
+from unittest.mock import ANY
 
 from alleyes.errors import BadNumber, BadPicture, NoLabel, NoName, SamePlace, TooMany, Twice
 from alleyes.pictures import Picture
@@ -71,7 +72,7 @@ class PicturesTest(unittest.TestCase, Checks):
     def test_iteration(self):
         self.assertEqual([list(ONE), sorted(ONE), len(ONE)], [list(ONE.labels), list(ONE.labels), 4])
         self.assertEqual(["one.a" in ONE, "one.e" in ONE, "two.a" in ONE, "a" in ONE], [True, False, False, False])
-        for value in NO_LABELS:
+        for value in NO_LABELS + (ANY,):
             self.assertIs(value in ONE, False)
 
     def test_equality(self):
@@ -80,6 +81,7 @@ class PicturesTest(unittest.TestCase, Checks):
         self.assertEqual([ONE == ONE.renamed("two"), ONE == ONE.moved(0, 1), ONE == ONE.portion(["a"])], [False] * 3)
         swapped = Picture("one", {**POINTS, "a": (6, 0), "b": (0, 0)})
         self.assertIs(ONE == swapped, False)
+        self.assertIs(Picture("one", {"a": (0, 0)}) == Picture("one", {"b": (0, 0)}), False)
         for value in (None, "one", str(ONE), POINTS, Odd()):
             self.assertEqual([ONE == value, ONE != value], [False, True])
 
@@ -90,7 +92,7 @@ class PicturesTest(unittest.TestCase, Checks):
         self.assertEqual(ONE.portion(names=ONE.names), ONE)
         for value in NO_LISTS + ([], ()):
             self.bad(BadPicture, "names", ONE.portion, value)
-        for name in NO_NAMES + ("e", "one.a"):
+        for name in NO_NAMES + ("e", "one.a", ANY):
             self.raised(NoName, {"name": name}, ONE.portion, ["a", "a", name, "z"])
         self.raised(Twice, {"name": "b"}, ONE.portion, ["a", "b", "c", "b", "a"])
 

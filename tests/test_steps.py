@@ -145,6 +145,7 @@ class StepsTest(unittest.TestCase, Checks):
             self.bad(BadMark, "other", lambda: NEXT - value)
         there = Mark.of_point("two.a")
         self.raised(TwoPictures, {"one": "one", "other": "two"}, lambda: NEXT - there)
+        self.raised(TwoPictures, {"one": "two", "other": "one"}, lambda: there - NEXT)
         self.raised(TwoPictures, {"one": "two", "other": "one"}, lambda: there + FAR)
         self.bad(BadStep, "sum", lambda: NEXT - NEXT)
 
