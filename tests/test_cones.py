@@ -1,6 +1,7 @@
 """Cones: scenes, sums that read nothing, signs of rows; each paper reckoned anew in Fractions."""
 
 import random
+import time
 import unittest
 
 from alleyes.check_cones import shows_lies, shows_signs, shows_signs_of_rows
@@ -259,6 +260,21 @@ class ConesTest(unittest.TestCase, Checks):
             self.assertIs(right_signs(cone, told, signs_of(cone, told)), True)
             barred, _ = large_cone(seed, 24, 2, terms, scene=False)
             self.assertEqual([some_scene(barred).word, right_lies(barred, some_scene(barred))], ["noscene", True])
+
+    def test_short_times(self):
+        begun = time.monotonic()
+        cone, row = large_cone(9, 16, 8, 8)
+        for told in [row() for _ in range(3)]:
+            self.assertIs(shows_signs(cone, told, signs_of(cone, told)), True)
+        chain = sorted(f"p{at}.x" for at in range(60))
+        steps = [Row({one: 1, other: -2}) for one, other in zip(chain, chain[1:])]
+        self.assertEqual(some_scene(Cone(chain, [], steps)).word, "lies")
+        self.assertEqual(some_scene(Cone(chain, [], [*steps, Row({chain[-1]: 1, chain[0]: -1})])).word, "noscene")
+        self.assertLess(time.monotonic() - begun, 30)
+
+    def test_a_search_is_made_once(self):
+        cone = Cone(FOUR, TILED)
+        self.assertIs(cone.footing, cone.footing)
 
     def test_scenes_add_up(self):
         for _, cone in possible_cones(5, 20):

@@ -183,6 +183,7 @@ class FlatsTest(unittest.TestCase, Checks):
                          [(), None, None])
 
     def test_answers_do_not_change(self):
+        self.assertIs(HALF.table, HALF.table)
         flat = Flat([EVEN, SQUARE_ON])
         self.assertEqual([flat.reduced, flat.rank, flat.reduced, flat.rank], [HALF.reduced, 2, HALF.reduced, 2])
         self.assertEqual(value_of(flat.reduced[1].g), Fraction(3, 2))

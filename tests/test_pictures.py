@@ -92,7 +92,10 @@ class PicturesTest(unittest.TestCase, Checks):
         self.assertEqual(ONE.portion(names=ONE.names), ONE)
         for value in NO_LISTS + ([], ()):
             self.bad(BadPicture, "names", ONE.portion, value)
-        for name in NO_NAMES + ("e", "one.a", ANY):
+        with self.assertRaises(NoName) as caught:
+            ONE.portion([ANY])
+        self.assertIs(caught.exception.name, ANY)
+        for name in NO_NAMES + ("e", "one.a"):
             self.raised(NoName, {"name": name}, ONE.portion, ["a", "a", name, "z"])
         self.raised(Twice, {"name": "b"}, ONE.portion, ["a", "b", "c", "b", "a"])
 
