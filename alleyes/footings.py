@@ -16,7 +16,7 @@ class Frame:
     def __init__(self, labels, zeros, aboves):
         self.labels = labels
         self.spots = {label: at for at, label in enumerate(labels)}
-        self.table = table_of([pairs_at(row, self.spots) for row in zeros], len(labels))
+        self.zero_table = table_of([pairs_at(row, self.spots) for row in zeros], len(labels))
         lines = [whole_line(pairs_at(row, self.spots)) for row in aboves]
         self.lines = [[(at, 1)] for at in range(len(labels))] + [line for line, _ in lines]
         self.lift_scales = [scale for _, scale in lines]
@@ -101,7 +101,7 @@ def small_ratios(ratios):
 
 def _first_board(frame):
     """The board on which each depth of a label that leads no zero row is needed once."""
-    table = frame.table
+    table = frame.zero_table
     own = [at for at, maker in enumerate(table.makers) if maker is None]
     rows = [table.backs[at] + [0 if maker is not None else table.den] for at, maker in enumerate(table.makers)]
     heights = [sum([rows[at][k] for at in own]) for k in range(len(rows) + 1)]
@@ -201,7 +201,7 @@ def _parts_of(frame, amounts, factor):
     size, many = len(frame.labels), len(frame.lines)
     depths = {label: factor * amounts[at] for at, label in enumerate(frame.labels) if amounts.get(at, 0) != 0}
     lifts = [scale * factor * amounts.get(size + k, 0) for k, scale in enumerate(frame.lift_scales)]
-    weights = [scale * factor * amounts.get(many + k, 0) for k, scale in enumerate(frame.table.scales)]
+    weights = [scale * factor * amounts.get(many + k, 0) for k, scale in enumerate(frame.zero_table.scales)]
     return tuple(weights), tuple(lifts), depths
 
 

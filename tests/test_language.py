@@ -192,6 +192,19 @@ class LanguageTest(unittest.TestCase):
         for word in methods - set(SPECIAL):
             self.assertFalse(any(hasattr(kind, word) for kind in (str, int, list, dict, set, bytes)), word)
 
+    def test_properties_are_not_assigned(self):
+        """No attribute is stored anywhere under the name of a property, as no property has a setter."""
+        properties = set()
+        for name, tree in trees():
+            for node in ast.walk(tree):
+                if isinstance(node, ast.FunctionDef) and "property" in [getattr(word, "id", "") for word in node.decorator_list]:
+                    properties.add(node.name)
+        self.assertTrue(properties)
+        for name, tree in trees():
+            for node in ast.walk(tree):
+                if isinstance(node, ast.Attribute) and isinstance(node.ctx, ast.Store):
+                    self.assertNotIn(node.attr, properties, (name, node.lineno))
+
 
 if __name__ == "__main__":
     unittest.main()
