@@ -3,7 +3,7 @@
 from alleyes.checks import first_twice, is_label, is_list, is_name
 from alleyes.errors import BadNumber, BadPicture, BadText, NoLabel, NoName, SamePlace, TooMany, Twice
 from alleyes.ratios import check_ratio, is_positive, ratio_at, ratios_of
-from alleyes.texts import word_at, words_of
+from alleyes.texts import end_at, word_at, words_of
 
 MOST_POINTS = 40
 
@@ -94,11 +94,20 @@ class Picture:
     def read(text):
         """The picture with this text."""
         words = words_of(text)
-        if not is_name(words[0]):
-            raise BadText(0, 0)
-        if word_at(words, 1) != ":":
-            raise BadText(0, 1)
-        return Picture(words[0], _points_in(words, 2))
+        picture, behind = picture_at(words, 0)
+        end_at(words, behind)
+        return picture
+
+
+def picture_at(words, at):
+    """The picture that words from at on write, and the index behind it."""
+    name = word_at(words, at)
+    if not is_name(name):
+        raise BadText(0, at)
+    if word_at(words, at + 1) != ":":
+        raise BadText(0, at + 1)
+    points, behind = _points_in(words, at + 2)
+    return Picture(name, points), behind
 
 
 def check_picture(value):
@@ -148,7 +157,7 @@ def _points_text(picture):
 
 
 def _points_in(words, start):
-    """The points that the words from start on write, a / between two of them."""
+    """The points that words from start on write, a / between two of them, and the index behind."""
     points, spots = {}, {}
     before, at = "", start
     while True:
@@ -161,8 +170,6 @@ def _points_in(words, start):
         points[name] = place
         spots[_spot(place)] = True
         before, at = name, at + 3
-        if at == len(words):
-            return points
-        if words[at] != "/" or len(points) == MOST_POINTS:
-            raise BadText(0, at)
+        if at == len(words) or words[at] != "/" or len(points) == MOST_POINTS:
+            return points, at
         at = at + 1

@@ -4,7 +4,7 @@ from alleyes.checks import is_name, picture_of
 from alleyes.errors import BadMark, BadStep, BadText, NoPicture, TooMany, TwoPictures
 from alleyes.ratios import Ratio, check_ratio
 from alleyes.terms import MOST_TERMS, are_terms, check_labels, check_one_picture, joined_terms, kept_terms
-from alleyes.terms import scaled_terms, terms_of_one_picture, terms_sum, terms_text
+from alleyes.terms import scaled_terms, terms_at, terms_sum, terms_text
 from alleyes.texts import end_at, word_at, words_of
 
 RIGHT = "right"
@@ -81,7 +81,7 @@ class Step:
                 raise BadText(0, 1)
             end_at(words, 2)
             return _sided(words[0], words[1])
-        return Step(_terms_with_sum(words, 0))
+        return Step(_whole_terms(words, 0))
 
 
 class Mark:
@@ -129,7 +129,7 @@ class Mark:
     @staticmethod
     def read(text):
         """The mark with this text."""
-        return Mark(_terms_with_sum(words_of(text), 1))
+        return Mark(_whole_terms(words_of(text), 1))
 
 
 def _sided(side, name):
@@ -164,9 +164,8 @@ def _check_same_picture(one, other):
         raise TwoPictures(one.picture_name, other.picture_name)
 
 
-def _terms_with_sum(words, total):
-    """The terms that all words write; only the whole shows their sum, so the last word cannot stand if it is wrong."""
-    terms = terms_of_one_picture(words)
-    if terms_sum(list(terms.items())) != total:
-        raise BadText(0, len(words) - 1)
+def _whole_terms(words, total):
+    """The terms that all words write."""
+    terms, behind = terms_at(words, 0, None, total)
+    end_at(words, behind)
     return terms

@@ -3,7 +3,7 @@
 from alleyes.checks import is_label, picture_of
 from alleyes.errors import BadText, NoLabel, TwoPictures
 from alleyes.ratios import Ratio, added, is_ratio, ratio_at
-from alleyes.texts import word_at
+from alleyes.texts import check_known, is_end, word_at
 
 MOST_TERMS = 12
 
@@ -75,13 +75,19 @@ def nonzero_at(words, at):
     return ratio
 
 
-def terms_of_one_picture(words):
-    """The terms, other than 0 and at most 12, of one picture, that all words write."""
-    terms = {}
-    before = ""
-    for at in range(0, len(words), 2):
+def terms_at(words, start, known, total):
+    """The terms, other than 0 and at most 12, of one picture, that words from start on write, and the index behind.
+
+    They end where a | or a ; stands, or the words end; only there it shows whether they add up to the total.
+    """
+    terms, before, at = {}, "", start
+    while at == start or not is_end(words, at):
         before = label_at(words, at, before)
-        if len(terms) == MOST_TERMS or picture_of(before) != picture_of(words[0]):
+        check_known(known, words, at)
+        if len(terms) == MOST_TERMS or picture_of(before) != picture_of(words[start]):
             raise BadText(0, at)
         terms[before] = nonzero_at(words, at + 1)
-    return terms
+        at = at + 2
+    if terms_sum(list(terms.items())) != total:
+        raise BadText(0, min(at, len(words) - 1))
+    return terms, at

@@ -2,7 +2,9 @@
 
 from fractions import Fraction
 
+from alleyes.papers import Paper
 from alleyes.ratios import Ratio
+from alleyes.rows import Row
 from tests.support import Odd
 
 
@@ -16,6 +18,8 @@ def bent(value, source):
     if isinstance(value, tuple) and value and source.random() < 0.85:
         at = source.randrange(len(value))
         return value[:at] + (bent(value[at], source),) + value[at + 1:]
+    if isinstance(value, Paper) and value.parts and source.random() < 0.85:
+        return type(value)(*parts_bent(value.parts, source))
     return source.choice(bends_of(value, source))
 
 
@@ -33,6 +37,11 @@ def bends_of(value, source):
         bends = [value[:-1], value[1:], value + value[-1:], value + (Ratio(0),), value + (("one.a", Ratio(1)),),
                  tuple(shuffled), tuple(shuffled), list(value), (), None, 0, "", True, Odd(), value + (("one.z", 1),)]
         return bends
+    if isinstance(value, Row):
+        return [value * 2, value * Ratio(1, 3), -value, value + Row({"one.a": 1}), Row({}), Row({"one.zz": 1}) + value,
+                str(value), value.terms, None, 1]
+    if isinstance(value, Paper):
+        return [Paper(value.word, *value.parts), value.parts, value.word, None, True, Odd()]
     return [Ratio(1), 0, True, "x", (), Odd(), None, (None,)]
 
 

@@ -37,6 +37,28 @@ class Checks:
         from alleyes.errors import BadText
         self.raised(BadText, {"line": 0, "word": word}, call, text)
 
+    def bad_words(self, call, text, junk="?"):
+        """Each word of a right text made junk, the text with a word more, and its beginnings, are told at the word.
+
+        A beginning that ends behind a ratio of terms which do not add up yet is told at its last word.
+        """
+        words = text.split(" ")
+        self.assertEqual(str(call(text)), text)
+        for at in range(len(words)):
+            self.bad_text(at, call, " ".join([*words[:at], junk, *words[at + 1:]]))
+            self.bad_text(at, call, " ".join([*words[:at], "", *words[at + 1:]]))
+        self.bad_text(len(words), call, text + " " + junk)
+        self.bad_text(len(words), call, text + " ")
+        for value in NO_TEXTS:
+            self.bad_text(0, call, value)
+
+    def bad_beginnings(self, call, text, at_last=(), right=()):
+        """The beginnings of a text lack a word; some, by their number of words, are told at their last one."""
+        words = text.split(" ")
+        for many in range(1, len(words)):
+            if many not in right:
+                self.bad_text(many - 1 if many in at_last else many, call, " ".join(words[:many]))
+
     def all_ratios(self, values):
         for value in values:
             self.assertIs(type(value), Ratio)

@@ -22,6 +22,17 @@ CLASSES = {
     "cones.Cone": ("labels zeros aboves=()", "__len__ __contains__ __eq__ narrowed(zeros=(),aboves=())"),
     "flats.EyeRow": ("a b c g", "at(eye) __add__ __sub__ __neg__ __mul__ __eq__ __str__ read(text)"),
     "flats.Flat": ("lines", "__len__ __contains__ __eq__ narrowed(lines) weights_of(row)"),
+    "facts.Null": ("step", "__eq__ __str__"),
+    "facts.Along": ("one other", "__eq__ __str__"),
+    "facts.SameWay": ("one other", "__eq__ __str__"),
+    "facts.InPlane": ("step one other", "__eq__ __str__"),
+    "facts.Upright": ("one other", "__eq__ __str__"),
+    "facts.Lengths": ("one other p=1 q=1", "__eq__ __str__"),
+    "facts.Foot": ("name a b", "__eq__ __str__"),
+    "facts.Far": ("name s", "__eq__ __str__"),
+    "facts.Tie": ("one other", "__eq__ __str__"),
+    "books.Book": ("pictures facts=()", "picture_of(name) pairs(one,other) with_fact(fact) without(number) joined(other) __eq__ "
+                   "__str__ read(text)"),
 }
 PAPERS = {
     "cones": {"Lies": "depths", "NoScene": "weights lifts depths", "Zero": "weights", "Above": "weights lifts depths",
@@ -31,8 +42,11 @@ PAPERS = {
     "bowl": {"Sees": "a b s", "NoEye": "weights a b t", "ZeroEyes": "weights", "AboveEyes": "eye bar",
              "BelowEyes": "eye bar", "MixedEyes": "below zero above"},
     "highest": {"Highest": "a b s weights", "Upward": "a b"},
+    "ways": {"Way": "direction factor sums above"},
+    "standing": {"Possible": "scenes eyes", "NeverOne": "ties one other ways"},
+    "drawn": {"Drawn": "x y x_even y_even", "Spread": "x_range y_range", "Sometimes": "below zero above", "Hidden": "signs"},
 }
-DENIALS = ("NoScene", "NeverAll", "NoEye")
+DENIALS = ("NoScene", "NeverAll", "NoEye", "NeverOne", "Hidden")
 FUNCTIONS = {
     "checks": "is_integer(value) is_within(value,least,most) is_name(value) is_label(value)",
     "ratios": "is_ratio(value) added(ratios) least_of(ratios) greatest_of(ratios)",
@@ -51,10 +65,19 @@ FUNCTIONS = {
     "bowl": "some_eye(flat) signs_at_eyes(flat,row)",
     "highest": "one_eye(flat) highest(flat)",
     "check_eyes": "shows_sees(flat,value) shows_eye_signs(flat,row,value) shows_highest(flat,value)",
+    "ways": "way_in(cone,form)",
+    "maps": "mapped(lines,form) map_taking(others,ones) map_behind(one,other) map_back(lines)",
+    "standing": "stand(book) home_form(standing,value) place_in(standing,mark) way_of(standing,step) "
+                "together(standing,one,other)",
+    "check_standing": "shows_way(standing,step,value) shows_paper(standing,value)",
+    "marks_seen": "nth(one,other,number) middle(one,other) carried(top,foot,other) grid_mark(corner,one,other,m,n)",
+    "drawn": "drawn(standing,mark) seen_from(standing,place,mark) drawn_form(standing,name,form)",
+    "shapes": "tile_facts(a,b,c,d,*,upright=False,even=False) row_facts(*labels) stair_facts(*labels) "
+              "post_facts(top,foot,up) fence_facts(*posts)",
 }
 PROPERTIES = {"ratios.Ratio": "sign is_whole", "rows.Row": "is_nothing", "steps.Step": "is_plain", "eyes.Eye": "height",
               "cones.Cone": "free", "cones.Lies": "scene", "flats.EyeRow": "left is_nothing", "flats.Flat": "rank reduced",
-              "bowl.Sees": "as_eye"}
+              "bowl.Sees": "as_eye", "standing.Standing": "is_possible"}
 
 
 def found(path):
@@ -63,8 +86,8 @@ def found(path):
 
 
 def arguments(call, skipped=0):
-    parts = list(inspect.signature(call).parameters.values())[skipped:]
-    return ",".join([str(part) for part in parts])
+    parts = str(inspect.signature(call))[1:-1].replace(" ", "").split(",")
+    return ",".join(parts[skipped:])
 
 
 class InterfaceTest(unittest.TestCase):
@@ -101,6 +124,15 @@ class InterfaceTest(unittest.TestCase):
                 self.assertEqual(call.__module__, f"alleyes.{module}")
                 self.check_call(told, call, 0)
 
+    def test_other_classes(self):
+        for path, names in (("standing.Heap", ""), ("standing.Standing", "heap_of"), ("facts.Fact", "read")):
+            kind = found(path)
+            self.assertEqual(kind.__module__, "alleyes." + path.partition(".")[0])
+            self.assertTrue(all(name in vars(kind) for name in names.split()))
+        for path in CLASSES:
+            if path.startswith("facts."):
+                self.assertTrue(issubclass(found(path), found("facts.Fact")))
+
     def test_properties(self):
         for path, names in PROPERTIES.items():
             for name in names.split():
@@ -108,7 +140,7 @@ class InterfaceTest(unittest.TestCase):
 
     def test_static_methods(self):
         for path in ("ratios.Ratio", "rows.Row", "steps.Step", "steps.Mark", "pictures.Picture", "scenes.Scene", "eyes.Eye",
-                     "flats.EyeRow"):
+                     "flats.EyeRow", "facts.Fact", "books.Book"):
             self.assertIsInstance(vars(found(path))["read"], staticmethod)
 
 
