@@ -26,6 +26,7 @@ class Heap:
         self.sources = group.sources
         self.above_sources = group.above_sources
         self.eye_sources = group.eye_sources
+        self.group = group
 
 
 class Standing:
