@@ -5,7 +5,7 @@ from fractions import Fraction
 from alleyes.facts import Along, Far, Foot, InPlane, Lengths, Null, SameWay, Tie, Upright
 from alleyes.pictures import Picture
 from alleyes.ratios import Ratio
-from alleyes.steps import Mark, Step
+from alleyes.steps import Step
 from tests.support import value_of
 
 LETTERS = "abcdefghijklmnopqrstuvwxyz"
@@ -269,6 +269,30 @@ def box_nulls(world, name):
             for end, (one, other, start) in sums.items()]
 
 
-def mark_at_random(source, world, name):
-    one, other = [f"{name}.{point}" for point in source.sample(world.seen[name], 2)]
-    return Mark({one: 1 - source.randint(-2, 3), other: 0}) if False else Mark.on_way(one, other, source.randint(-2, 3))
+def holds(world, saying):
+    """Whether a saying holds in the world, at the painted depths and eyes."""
+    kind = type(saying).__name__
+    if kind == "Deeper":
+        look = world.looks[saying.one.partition(".")[0]]
+        return look.depth(world.spot(saying.one)) > look.depth(world.spot(saying.other))
+    if kind == "Before":
+        return world.looks[saying.mark.picture_name].depth(world.led(saying.mark)) > 0
+    if kind == "OnSide":
+        sides = [det(world.led(saying.one), world.led(saying.other), minus(world.spot(label), world.spot(saying.base)))
+                 for label in (saying.label, saying.mate)]
+        return sides[0] * sides[1] > 0
+    if kind == "AtLeast":
+        parts = [det(world.led(saying.side), world.led(saying.mate), minus(world.spot(label), world.spot(saying.one)))
+                 for label in (saying.label, saying.other)]
+        return parts[0] / parts[1] >= value_of(saying.ratio)
+    led = [world.led(step) for step in saying.steps]
+    if kind in ("Sharp", "Blunt"):
+        return dot(*led) > 0 if kind == "Sharp" else dot(*led) < 0
+    if kind in ("Longer", "Shorter"):
+        one, other = value_of(saying.q) * dot(led[0], led[0]), value_of(saying.p) * dot(led[1], led[1])
+        return one > other if kind == "Longer" else one < other
+    if kind == "Upright":
+        return dot(*led) == 0
+    if kind == "Lengths":
+        return value_of(saying.q) * dot(led[0], led[0]) == value_of(saying.p) * dot(led[1], led[1])
+    return world.is_true(saying)
