@@ -33,6 +33,19 @@ CLASSES = {
     "facts.Tie": ("one other", "__eq__ __str__"),
     "books.Book": ("pictures facts=()", "picture_of(name) pairs(one,other) with_fact(fact) without(number) joined(other) __eq__ "
                    "__str__ read(text)"),
+    "ready.Box": ("labels", "edge(number) right_angles() __eq__ __str__ read(text)"),
+    "sayings.Deeper": ("one other", "__eq__ __str__"),
+    "sayings.Before": ("mark", "__eq__ __str__"),
+    "sayings.OnSide": ("label base one other mate", "__eq__ __str__"),
+    "sayings.AtLeast": ("label one other ratio side mate", "__eq__ __str__"),
+    "sayings.Sharp": ("one other", "__eq__ __str__"),
+    "sayings.Blunt": ("one other", "__eq__ __str__"),
+    "sayings.Longer": ("one other p=1 q=1", "__eq__ __str__"),
+    "sayings.Shorter": ("one other p=1 q=1", "__eq__ __str__"),
+    "lights.Sun": ("pairs", "__len__ __eq__ __str__ read(text)"),
+    "lights.Lamp": ("one other foot posts", "__len__ __eq__ __str__ read(text)"),
+    "lights.Water": ("base one other upright pairs", "__len__ __eq__ __str__ read(text)"),
+    "lights.Mirror": ("base one other pairs", "__len__ __eq__ __str__ read(text)"),
 }
 PAPERS = {
     "cones": {"Lies": "depths", "NoScene": "weights lifts depths", "Zero": "weights", "Above": "weights lifts depths",
@@ -45,8 +58,10 @@ PAPERS = {
     "ways": {"Way": "direction factor sums above"},
     "standing": {"Possible": "scenes eyes", "NeverOne": "ties one other ways"},
     "drawn": {"Drawn": "x y x_even y_even", "Spread": "x_range y_range", "Sometimes": "below zero above", "Hidden": "signs"},
+    "words": {"Always": "papers", "Both": "papers", "Waits": "steps", "Never": "papers"},
+    "plans": {"Plan": "spots", "Metric": "square mixed"},
 }
-DENIALS = ("NoScene", "NeverAll", "NoEye", "NeverOne", "Hidden")
+DENIALS = ("NoScene", "NeverAll", "NoEye", "NeverOne", "Hidden", "Never")
 FUNCTIONS = {
     "checks": "is_integer(value) is_within(value,least,most) is_name(value) is_label(value)",
     "ratios": "is_ratio(value) added(ratios) least_of(ratios) greatest_of(ratios)",
@@ -74,6 +89,20 @@ FUNCTIONS = {
     "drawn": "drawn(standing,mark) seen_from(standing,place,mark) drawn_form(standing,name,form)",
     "shapes": "tile_facts(a,b,c,d,*,upright=False,even=False) row_facts(*labels) stair_facts(*labels) "
               "post_facts(top,foot,up) fence_facts(*posts)",
+    "ready": "cross_ratio(picture,p,q,r,s) part_way(standing,label,one,other,side,mate)",
+    "check_drawn": "shows_drawn(standing,mark,value) shows_seen(standing,place,mark,value) "
+                   "shows_drawn_form(standing,name,form,value) shows_part(standing,label,one,other,side,mate,value)",
+    "sayings": "is_saying(value)",
+    "words": "word_of(standing,saying)",
+    "plans": "plan_of(standing,base,one,other,labels) metric(standing,one,other) "
+             "area_ratio(standing,corners,others,base,one,other)",
+    "check_words": "shows_word(standing,saying,value) shows_plan(standing,base,one,other,labels,value) "
+                   "shows_metric(standing,one,other,value)",
+    "lights": "lit(book,*lights)",
+    "sun": "shadow_mark(standing,top,foot,lit_top,lit_foot,lit_end) sun_above(top,foot,end,p=1,q=1) sun_below(top,foot,end,p=1,q=1)",
+    "lamps": "lamp_times(standing,foot,post,end)",
+    "mirrors": "slid(standing,mark,base,one,other,ray) mirrored(standing,mark,base,one,other,upright) "
+               "slid_place(standing,mark,base,one,other,ray) mirrored_place(standing,mark,base,one,other,upright)",
 }
 PROPERTIES = {"ratios.Ratio": "sign is_whole", "rows.Row": "is_nothing", "steps.Step": "is_plain", "eyes.Eye": "height",
               "cones.Cone": "free", "cones.Lies": "scene", "flats.EyeRow": "left is_nothing", "flats.Flat": "rank reduced",
@@ -125,13 +154,14 @@ class InterfaceTest(unittest.TestCase):
                 self.check_call(told, call, 0)
 
     def test_other_classes(self):
-        for path, names in (("standing.Heap", ""), ("standing.Standing", "heap_of"), ("facts.Fact", "read")):
+        for path, names in (("standing.Heap", "__init__"), ("standing.Standing", "heap_of"), ("facts.Fact", "read"),
+                            ("sayings.Saying", "read"), ("lights.Light", "read __len__ __eq__ __str__")):
             kind = found(path)
             self.assertEqual(kind.__module__, "alleyes." + path.partition(".")[0])
             self.assertTrue(all(name in vars(kind) for name in names.split()))
         for path in CLASSES:
-            if path.startswith("facts."):
-                self.assertTrue(issubclass(found(path), found("facts.Fact")))
+            base = {"facts": "facts.Fact", "sayings": "sayings.Saying", "lights": "lights.Light"}.get(path.partition(".")[0])
+            self.assertTrue(base is None or issubclass(found(path), found(base)))
 
     def test_properties(self):
         for path, names in PROPERTIES.items():
@@ -140,7 +170,8 @@ class InterfaceTest(unittest.TestCase):
 
     def test_static_methods(self):
         for path in ("ratios.Ratio", "rows.Row", "steps.Step", "steps.Mark", "pictures.Picture", "scenes.Scene", "eyes.Eye",
-                     "flats.EyeRow", "facts.Fact", "books.Book"):
+                     "flats.EyeRow", "facts.Fact", "books.Book", "ready.Box", "sayings.Saying", "lights.Light", "lights.Sun",
+                     "lights.Lamp", "lights.Water", "lights.Mirror"):
             self.assertIsInstance(vars(found(path))["read"], staticmethod)
 
 
