@@ -50,6 +50,5 @@ def _shows(cone, form, value):
 
 def _is_even(cone, top, under, number, even):
     """Whether an Even shows that a number is the one quotient."""
-    if type(even) is not Even or not is_ratio(number) or not shows_stretch(cone, top, under, even):
-        return False
-    return number == even.number
+    # An integer may stand for the number of an Even, to which True may be equal.
+    return type(even) is Even and shows_stretch(cone, top, under, even) and is_ratio(number) and even.number == number

@@ -7,7 +7,7 @@ from alleyes.check_eyes import shows_sees
 from alleyes.checks import is_integer, is_label, picture_of
 from alleyes.cones import Above, Lies, NoScene, Zero
 from alleyes.groups import home_form_in, is_side, times_of
-from alleyes.ratios import Ratio, is_ratio
+from alleyes.ratios import Ratio
 from alleyes.rows import Row
 from alleyes.sheet import determinant, direction_of
 from alleyes.standing import NeverOne, Possible, check_standing, check_stands, check_step, form_in_heap, heap_among
@@ -93,8 +93,6 @@ def _is_never_one(standing, value):
     if not isinstance(value.ways, tuple) or len(value.ways) != 2 * (FOUR - 1):
         return False
     told = [value.one, value.other]
-    if not all([is_ratio(number) for number in told]):
-        return False
     halves = [value.ways[:FOUR - 1], value.ways[FOUR - 1:]]
     for side, (number, ways) in enumerate(zip(told, halves)):
         labels = [pair[side] for pair in value.ties]

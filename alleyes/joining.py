@@ -80,12 +80,15 @@ def _four_of(pairs, groups):
 
 
 def _threes_from(pairs, start, groups):
-    """For each pair behind the start, ascending, the threes with it whose steps from the start are together."""
+    """For each pair behind the start, ascending, the threes with it whose steps from the start are settled.
+
+    These are together, too: the depth of the label at the start is a multiple of the factor of each of them.
+    """
     others = range(start + 1, len(pairs))
     settled = [at for at in others if _are_settled(_steps_to(pairs, start, at), groups)]
     found = []
     for place, first in enumerate(settled):
-        mates = [at for at in settled[place + 1:] if _are_together(pairs, start, first, at, groups)]
+        mates = settled[place + 1:]
         found.append([(first, second, third) for k, second in enumerate(mates) for third in mates[k + 1:]])
     return found
 
@@ -97,12 +100,6 @@ def _steps_to(pairs, start, end):
 
 def _are_settled(steps, groups):
     return all([direction_found(group, step) is not None for group, step in zip(groups, steps)])
-
-
-def _are_together(pairs, start, one, other, groups):
-    """Whether in both pictures the steps from the start to two pairs are together."""
-    both = zip(groups, _steps_to(pairs, start, one), _steps_to(pairs, start, other))
-    return all([ratio_together(group, step, mate) is not None for group, step, mate in both])
 
 
 def _four_with(pairs, start, ends, groups):

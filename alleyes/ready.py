@@ -172,9 +172,8 @@ def _sum_of_corner(labels, kept, corner):
 
 
 def _corner_fact(labels, kept, corner):
-    """The fact that a corner less its sum is nothing."""
-    ahead = [other for other in kept if other < corner]
-    terms = {label: -weight for label, weight in _sum_of_corner(labels, ahead, corner).items()}
+    """The fact that a corner less its sum is nothing; kept ones behind it are not in this, as there is one sum."""
+    terms = {label: -weight for label, weight in _sum_of_corner(labels, kept, corner).items()}
     return Null(Step({**terms, labels[corner]: 1}))
 
 

@@ -11,6 +11,8 @@ from alleyes.errors import BadMark, BadRow, BadStanding, BadStep, Impossible, No
 from alleyes.forms import form_of
 from alleyes.marks_seen import middle, nth
 from alleyes.papers import Paper
+from alleyes.pictures import Picture
+from alleyes.ranges import Even
 from alleyes.ratios import Ratio
 from alleyes.ready import part_way
 from alleyes.rows import Row
@@ -73,10 +75,28 @@ class CheckDrawnTest(unittest.TestCase, Checks):
         self.assertIs(shows_drawn(PAVED, MARKS[1], Drawn(1, 2, spread.x_range, spread.y_range)), False)
         corner = drawn(PAVED, MARKS[5])
         self.assertIs(shows_drawn(PAVED, MARKS[5], Drawn(1, 5, corner.x_even, corner.y_even)), True)
+        whole = [Even(even.number.top, even.weights, even.above) for even in (corner.x_even, corner.y_even)]
+        for x, wanted in ((1, True), (Ratio(1), True), (True, False), (1.0, False), ("1", False), (None, False), (2, False)):
+            self.assertIs(shows_drawn(PAVED, MARKS[5], Drawn(x, 5, *whole)), wanted)
+            self.assertIs(shows_drawn(PAVED, MARKS[5], Drawn(x, Ratio(5), corner.x_even, whole[1])), wanted)
+        self.assertIs(shows_drawn(PAVED, MARKS[5], Drawn(1, True, *whole)), False)
         parts = drawn(PAVED, MARKS[2]).parts
         self.assertIs(shows_drawn(PAVED, MARKS[2], Mixed(*parts)), False)
         self.assertIs(shows_drawn(PAVED, MARKS[2], Sometimes(*parts[::-1])), False)
         self.assertIs(shows_drawn(PAVED, MARKS[2], Sometimes(*[[*part][::-1] for part in parts])), True)
+
+    def test_half_even(self):
+        """One number even and the other one not is a Spread, both even are none."""
+        for points in ({"a": (0, 0), "b": (0, 5)}, {"a": (0, 0), "b": (5, 0)}):
+            standing = stand(Book([Picture("one", points)]))
+            mark = middle("one.a", "one.b")
+            found = drawn(standing, mark)
+            self.assertIs(shows_drawn(standing, mark, found), True)
+            self.assertIs(shows_drawn(standing, mark, Spread(found.y_range, found.x_range)), False)
+            for one in (found.x_range, found.y_range):
+                self.assertIs(shows_drawn(standing, mark, Spread(one, one)), False)
+        sure = drawn(PAVED, MARKS[0])
+        self.assertIs(shows_drawn(PAVED, MARKS[0], Spread(sure.x_even, sure.y_even)), False)
 
     def test_bent_measures(self):
         source, taken = random.Random(3), 0

@@ -6,7 +6,7 @@ import unittest
 from alleyes.books import Book
 from alleyes.bowl import NoEye, Sees
 from alleyes.check_standing import shows_paper, shows_way
-from alleyes.cones import Above, Lies, NoScene
+from alleyes.cones import Above, Below, Lies, Mixed, NoScene, Zero
 from alleyes.errors import BadStanding, BadStep, Impossible, NoLabel, NoPicture
 from alleyes.facts import Far, Null
 from alleyes.papers import Denial, Paper
@@ -19,7 +19,7 @@ from tests.bending import parts_bent
 from tests.painting import box_nulls, cube_world, true_ties
 from tests.right_standing import is_right_way, right_paper
 from tests.support import Checks, Odd
-from tests.test_standing import AB, AD, AGAIN, CORNER, EDGES, HERE, IMPOSSIBLE, JOINED, ONE, RIGHT, TIES, UP, between
+from tests.test_standing import AB, AD, AGAIN, CORNER, EDGES, HERE, IMPOSSIBLE, JOINED, ONE, RIGHT, TIES, TILE, UP, between
 
 NO_PAPERS = (None, True, 1, "possible", (), [], {}, Odd(), Row({}), Paper("possible", (), ()), Denial("noeye", (), 1, 1, 1))
 
@@ -61,6 +61,19 @@ class CheckStandingTest(unittest.TestCase, Checks):
         self.assertFalse(shows_way(HERE, AB, Way((-1, 0, 0), -row, [[0, 0, 0], *way.sums[1:]], Above((0, 0, 0), (), {"one.b": 6}))))
         self.assertFalse(shows_way(HERE, AB, Way((2, 0, 0), row * Ratio(1, 2), [[0, 0, 0], *way.sums[1:]],
                                                  Above((0, 0, 0), (), {"one.b": 3}))))
+
+    def test_other_papers_of_a_factor(self):
+        """A step that is nothing, or a factor that is not above, has no Way, however right its other papers are."""
+        still = stand(Book([ONE], [Null(TILE)]))
+        weights = [[0, 0, 1], [0, 0, 0], [0, 0, 0]]
+        for sums in ([[1, 0, 0], [0, 1, 0], [0, 0, 1]], weights):
+            for above in (Zero((0, 0, 0)), Above((0, 0, 0), (), {}), Mixed((), (), ()), None):
+                self.assertIs(shows_way(still, TILE, Way((1, 0, 0), Row({}), sums, above)), False)
+        way = way_of(HERE, AB)
+        below = Below(*way.above.parts)
+        self.assertIs(shows_way(HERE, AB, Way((-1, 0, 0), -way.factor, way.sums, below)), False)
+        self.assertIs(shows_way(HERE, AB, Way(way.direction, way.factor, way.sums, below)), False)
+        self.assertIs(shows_way(HERE, AB, Way(way.direction, way.factor, way.sums, Zero(way.sums[0]))), False)
 
     def test_sides(self):
         right = Way((1, 0, 0), None, (), None)
@@ -136,6 +149,13 @@ class CheckStandingTest(unittest.TestCase, Checks):
                           (chosen, sizes[1], sizes[0], ways), (chosen[:3], *sizes, ways), (chosen, *sizes, ways[:5])):
                 self.assertIs(shows_paper(standing, NeverOne(*parts)), right_paper(standing, NeverOne(*parts)))
         self.assertEqual(seen, {True, False})
+        ties, one, other, ways = standing.paper.parts
+        for start, end in (("six.a", "two.a"), ("one.a", "six.a"), ("one.a", "one.b"), ("one.z", "two.z"), ("one", "two"), (3, 4)):
+            for told in ([(start, end), *ties[1:]], [*ties[:3], (start, end)], [(start, end)] * 4):
+                self.assertIs(shows_paper(standing, NeverOne(told, one, other, ways)), False)
+        for number in (True, None, "1", 1.0):
+            self.assertIs(shows_paper(standing, NeverOne(ties, number, other, ways)), False)
+            self.assertIs(shows_paper(standing, NeverOne(ties, one, number, ways)), False)
 
     def own_way(self, standing, step):
         """The Way of a step in the barred heap of its picture, which is a heap alone."""

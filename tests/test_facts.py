@@ -54,6 +54,10 @@ class FactsTest(unittest.TestCase, Checks):
         self.assertFalse(Along(AB, AD) == SameWay(AB, AD) or Along(AB, AD) == Upright(AB, AD) or Along(AB, AD) == Along(AD, AB))
         self.assertFalse(Lengths(AB, AD, 1, 2) == Lengths(AB, AD, 2, 4) or Foot("one", 1, 2) == Foot("one", 1, 3))
         self.assertEqual(Foot("one", Ratio(1), 2), Foot("one", 1, Ratio(2)))
+        others = [Null(AB), Along(AB, UP), SameWay(UP, AD), InPlane(TILE, AB, AD), Upright(UP, RIGHT), Lengths(AB, AD, 4, Ratio(1, 4)),
+                  Foot("one", 4, Ratio(-1, 2)), Far("two", 18), Tie("one.a", "two.q")]
+        for fact, other in zip(ALL, others):
+            self.assertTrue(fact != other and not fact == other)
 
     def test_steps(self):
         for value in NO_STEPS:

@@ -62,6 +62,8 @@ class LightsTest(unittest.TestCase, Checks):
                 self.assertEqual([light == other, light != other], [at == k, at != k])
             self.assertFalse(light == str(light) or light == light.facts or light is None)
         self.assertFalse(NOON == Sun([(U, C), (T, B)]) or Sun([(T, B)]) == Sun([(T, C)]))
+        self.assertFalse(Lamp(AB, AD, A, [(B, E)]) == Lamp(AB, AD, A, [(B, C)]) or Lamp(AB, AD, A, [(B, E)]) == Lamp(AB, UP, A, [(B, E)]))
+        self.assertFalse(Water(A, AB, AD, UP, [(T, U)]) == Water(B, AB, AD, UP, [(T, U)]) or Mirror(A, AB, UP, [(T, U)]) == Mirror(A, AB, AD, [(T, U)]))
         pairs = [[T, B]]
         kept = Sun(pairs)
         pairs[0][1] = C

@@ -143,6 +143,8 @@ class CrossRatioTest(unittest.TestCase, Checks):
             found = cross_ratio(picture, "one.p", "one.q", "one.r", "one.s")
             self.assertEqual(value_of(found), (r - p) * (s - q) / ((r - q) * (s - p)))
             self.all_ratios([found])
+        upright = Picture("one", {"p": (1, 0), "q": (1, 1), "r": (1, 3), "s": (1, 7)})
+        self.assertEqual(cross_ratio(upright, "one.p", "one.q", "one.r", "one.s"), Ratio(9, 7))
         self.assertIsNone(cross_ratio(WIDER, p="one.a", q="one.b", r="one.c", s="one.d"))
 
     def test_in_space(self):

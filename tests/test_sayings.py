@@ -44,6 +44,10 @@ class SayingsTest(unittest.TestCase, Checks):
             for k, other in enumerate(SAYINGS):
                 self.assertEqual([saying == other, saying != other], [at == k, at != k])
             self.assertFalse(saying == str(saying) or saying == saying.steps or saying is None)
+        others = [Deeper(A, C), Before(Mark.of_point(A)), OnSide(C, A, AB, UP, C), AtLeast(C, A, B, Ratio(1, 3), AB, UP), Sharp(AB, UP), Blunt(UP, AB),
+                  Longer(AD, AB, 5), Shorter(RIGHT, UP, 1, Ratio(1, 3))]
+        for saying, other in zip(SAYINGS, others):
+            self.assertTrue(saying != other and not saying == other)
         self.assertFalse(Sharp(AB, AD) == Blunt(AB, AD) or Sharp(AB, AD) == Upright(AB, AD) or Longer(AB, AD) == Shorter(AB, AD))
 
     def test_is_saying(self):

@@ -14,6 +14,7 @@ from alleyes.eyes import Eye
 from alleyes.facts import Along, Far, Foot, InPlane, Lengths, Null, SameWay, Tie, Upright
 from alleyes.flats import EyeRow, Flat, product_row
 from alleyes.forms import form_of
+from alleyes.maps import content_of
 from alleyes.papers import Denial, Paper
 from alleyes.pictures import Picture
 from alleyes.ratios import Ratio
@@ -151,6 +152,52 @@ class StandingTest(unittest.TestCase, Checks):
         self.assertEqual(way_of(standing, ae).direction, way)
         along = stand(Book([picture], [Along(bf, ae)]))
         self.assertEqual([along.rounds, along.heaps[0].cone.zeros, along.heaps[0].cone.aboves], [1, heap.cone.zeros, ()])
+
+    def test_a_picture_that_joins_later(self):
+        """Rows that a heap has when it joins come anew in the new home forms, above rows and lengths, too."""
+        source, seen = random.Random(21), 0
+        while seen < 5:
+            world = cube_world(source, ("one", "two", "zwo"))
+            sides = [dot(world.led(between("a", end)), world.led(between("a", end))) for end in "bce"]
+            facts = [fact for name in world.looks for fact in box_nulls(world, name)]
+            facts += [SameWay(between("a", "b", "zwo"), between("c", "d", "zwo")),
+                      SameWay(between("a", "c", "zwo"), Step({"zwo.b": -2, "zwo.d": 2})),
+                      Lengths(between("a", "b", "zwo"), between("a", "c", "zwo"), ratio_of(sides[0]), ratio_of(sides[1])),
+                      Lengths(between("a", "e", "zwo"), between("a", "c", "zwo"), ratio_of(sides[2]), ratio_of(sides[1])),
+                      Upright(between("a", "b", "zwo"), between("a", "e", "zwo")), Along(between("a", "e", "zwo"), between("d", "h", "zwo")),
+                      InPlane(between("a", "d", "zwo"), between("a", "b", "zwo"), between("a", "c", "zwo"))]
+            facts += [Foot("zwo", *[ratio_of(number) for number in world.looks["zwo"].eye()[:2]]), Far("zwo", ratio_of(world.looks["zwo"].eye()[2]))]
+            standing = self.check_painted(world, [*facts, *true_ties(world)])
+            heap = standing.heaps[0]
+            self.assertEqual([heap.names, standing.rounds, heap.above_sources], [("one", "two", "zwo"), 3, ((12, 3), (13, 3))])
+            contents = [content_of(form) for form in zip(*heap.maps["zwo"])]
+            seen += len(set(contents)) > 1
+
+    def test_pairs_whose_later_heap_comes_first(self):
+        """Of two pictures that join, the first one may be of the heap with the later home."""
+        source = random.Random(3)
+        world = cube_world(source, ("one", "two", "zwo"))
+        nulls = [fact for name in world.looks for fact in box_nulls(world, name)]
+        ties = [Tie(f"one.{letter}", f"zwo.{letter}") for letter in "abce"] + [Tie(f"zwo.{letter}", f"two.{letter}") for letter in "dfgh"]
+        standing = self.check_painted(world, [*nulls, *ties])
+        self.assertEqual([[heap.names for heap in standing.heaps], standing.rounds, standing.waiting], [[("one", "two", "zwo")], 3, ()])
+        one, two, zwo = world.pictures()
+        bars = stand(Book([one, two.mirrored(), zwo], [*nulls, *ties]))
+        self.assertEqual([bars.paper.word, bars.rounds, [heap.names for heap in bars.barred]], ["neverone", 2, [("one", "zwo"), ("two",)]])
+        self.assertEqual(bars.paper.ties, tuple((f"two.{letter}", f"zwo.{letter}") for letter in "dfgh"))
+        self.assertTrue(right_paper(bars, bars.paper) and shows_paper(bars, bars.paper))
+
+    def test_what_never_fits(self):
+        """Steps of two pictures do not meet, nor those that are not plain; ways that are alike tell no plane."""
+        world = box_world(("one", "two"), [SIX, Look((-1, 2, -5), SIX.axes, (1, 0), 2)])
+        world.spots.update({"p": (3, 1, 1), "q": (4, 1, 1)})
+        world.seen = {name: [*letters, "p", "q"] for name, letters in world.seen.items()}
+        facts = [*box_nulls(world, "one"), *box_nulls(world, "two"), *true_ties(world)[:8], Along(between("p", "q"), between("p", "q", "two")),
+                 Along(between("p", "q"), Step({"one.p": -2, "one.q": 1, "one.a": 1})), Along(Step({"one.p": -2, "one.q": 1, "one.a": 1}), between("p", "q")),
+                 InPlane(between("p", "a"), between("a", "b"), between("d", "c")), InPlane(between("p", "a"), RIGHT, RIGHT),
+                 SameWay(between("p", "q", "two"), between("p", "q"))]
+        standing = stand(Book(world.pictures(), facts))
+        self.assertEqual([standing.paper.word, len(standing.heaps), standing.waiting], ["possible", 1, tuple(range(16, 22))])
 
     def test_along_on_one_line(self):
         """Plain steps on one line, or steps that are not plain, wait until one of them is settled."""

@@ -84,6 +84,7 @@ class SunTest(unittest.TestCase, Checks):
         post, shadow = between("a", "t"), between("a", "b")
         self.assertEqual([sun_above("one.t", "one.a", "one.b"), sun_below(top="one.t", foot="one.a", end="one.b", p=2, q=Ratio(1, 3))],
                          [Longer(post, shadow), Shorter(post, shadow, 2, Ratio(1, 3))])
+        self.assertEqual([sun_below("one.t", "one.a", "one.b"), sun_above("one.t", "one.a", "one.b", 3)], [Shorter(post, shadow), Longer(post, shadow, 3, 1)])
         for call in (sun_above, sun_below):
             for value in NO_LABELS:
                 self.raised(NoLabel, {"name": value}, call, value, None, None, None, None)
