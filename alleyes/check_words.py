@@ -4,7 +4,7 @@ from alleyes.asking import ALL_ZERO, ROW, SAME_WAY, WAITING
 from alleyes.check_cones import shows_lies, shows_signs, shows_signs_of_rows
 from alleyes.check_eyes import shows_eye_signs
 from alleyes.cones import Above, AllZero, Lies, NeverAll, NoScene, Some
-from alleyes.plans import Metric, Plan, metric, plan_asked, spot_of
+from alleyes.plans import Plan, metric, plan_asked, spot_of
 from alleyes.ratios import is_ratio
 from alleyes.words import Always, Both, Never, Waits, saying_asked, word_with
 
@@ -45,7 +45,7 @@ def shows_plan(standing, base, one, other, labels, value):
 def shows_metric(standing, one, other, value):
     """Whether value is the Metric of two steps."""
     found = metric(standing, one, other)
-    return found is not None and type(value) is Metric and found == value
+    return found is not None and found == value
 
 
 def _is_word(value):

@@ -2,8 +2,8 @@
 
 from alleyes.groups import Group, direction_found, ratio_together
 from alleyes.maps import map_behind, map_taking
-from alleyes.ratios import Ratio
-from alleyes.sheet import determinant
+from alleyes.ratios import Ratio, added
+from alleyes.sheet import cross, determinant
 from alleyes.steps import Step
 from alleyes.uses import carried
 
@@ -71,26 +71,38 @@ def _by_homes(book, four):
 def _four_of(pairs, groups):
     """The first Four of these pairs that fits; None if there is none."""
     for at in range(len(pairs) - 3):
-        for threes in _threes_from(pairs, at, groups):
-            for ends in threes:
-                four = _four_with(pairs, at, ends, groups)
+        ends = [end for end in range(at + 1, len(pairs)) if _are_settled(_steps_to(pairs, at, end), groups)]
+        if _leave_a_plane(pairs, at, ends, groups):
+            for three in _threes_of(ends):
+                four = _four_with(pairs, at, three, groups)
                 if not four.is_flat:
                     return four
     return None
 
 
-def _threes_from(pairs, start, groups):
-    """For each pair behind the start, ascending, the threes with it whose steps from the start are settled.
+def _leave_a_plane(pairs, start, ends, groups):
+    """Whether in one of the pictures the steps from the start to the ends do not lie in one plane."""
+    steps = [_steps_to(pairs, start, end) for end in ends]
+    directions = [[direction_found(group, both[side]) for both in steps] for side, group in enumerate(groups)]
+    return any([_span_space(found) for found in directions])
 
-    These are together, too: the depth of the label at the start is a multiple of the factor of each of them.
+
+def _span_space(directions):
+    """Whether three of the directions do not lie in one plane."""
+    normals = [cross(directions[0], other) for other in directions[1:]]
+    normals = [normal for normal in normals if any([bool(number) for number in normal])]
+    if not normals:
+        return False
+    return any([added([a * b for a, b in zip(normals[0], other)]) != 0 for other in directions])
+
+
+def _threes_of(ends):
+    """All threes of the ends, ascending, pair by pair.
+
+    The steps to them are together, as the depth of the label at the start is a multiple of the factor of each.
     """
-    others = range(start + 1, len(pairs))
-    settled = [at for at in others if _are_settled(_steps_to(pairs, start, at), groups)]
-    found = []
-    for place, first in enumerate(settled):
-        mates = settled[place + 1:]
-        found.append([(first, second, third) for k, second in enumerate(mates) for third in mates[k + 1:]])
-    return found
+    return [(first, second, third) for at, first in enumerate(ends) for k, second in enumerate(ends[at + 1:])
+            for third in ends[at + k + 2:]]
 
 
 def _steps_to(pairs, start, end):

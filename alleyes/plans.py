@@ -70,7 +70,7 @@ def area_ratio(standing, corners, others, base, one, other):
         spots = [spot_of(heap, base, one, other, label) for label in labels]
         if None in spots:
             raise Unsettled(part)
-        areas.append(_area_of(spots))
+        areas.append(_doubled_area_of(spots))
     if areas[1] == 0:
         raise Nothing()
     return areas[0].over(areas[1])
@@ -150,9 +150,9 @@ def _even_at_eyes(flat, top, under):
     return number if flat.weights_of(top - under * number) is not None else None
 
 
-def _area_of(spots):
-    """Half the absolute value of what the spots add up to in the order round."""
+def _doubled_area_of(spots):
+    """Twice the area of the spots, in the order round; what is told is how two areas are to each other."""
     total = Ratio(0)
     for (m, n), (next_m, next_n) in zip(spots, [*spots[1:], spots[0]]):
         total = total + (m * next_n - next_m * n)
-    return abs(total) * Ratio(1, 2)
+    return abs(total)

@@ -7,7 +7,7 @@ from alleyes.parts import parts_at
 from alleyes.ratios import Ratio, check_ratio, is_positive
 from alleyes.steps import Mark, Step
 from alleyes.terms import check_one_picture
-from alleyes.texts import end_at, words_of
+from alleyes.texts import end_at, word_at, words_of
 
 ASKED = {
     "deeper": ("label", "alike"),
@@ -210,7 +210,7 @@ def is_saying(value):
 
 def saying_at(words, at, known):
     """The saying, of known labels and names, that words from at on write, and the index behind it."""
-    word = words[at] if at < len(words) else ""
+    word = word_at(words, at)
     if word in KINDS and word not in NO_SAYINGS:
         return fact_at(words, at, known)
     if word not in ASKED:

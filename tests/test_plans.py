@@ -62,6 +62,10 @@ class PlansTest(unittest.TestCase, Checks):
         loose = Picture("one", {**{label[-1]: ONE.place_of(label) for label in ONE.labels}, "e": (1, 5)})
         standing = stand(Book([loose], [Null(TILE)]))
         self.assertEqual([label for label, _, _ in plan_of(standing, "one.a", AB, AD, ["one.e", "one.c"]).spots], ["one.c"])
+        # A point drawn where the way of one step vanishes: only the number of that step hangs on its depth.
+        vanished = Picture("one", {**{label[-1]: ONE.place_of(label) for label in ONE.labels}, "e": (3, 3)})
+        for steps in ((AB, AD), (AD, AB)):
+            self.assertEqual(plan_of(stand(Book([vanished], [Null(TILE)])), "one.a", *steps, ["one.e"]).spots, ())
 
     def test_painted(self):
         """Sure labels lie where the told sum leads in space; areas and metrics are those of space."""
