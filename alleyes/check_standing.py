@@ -10,8 +10,8 @@ from alleyes.groups import home_form_in, is_side, times_of
 from alleyes.ratios import Ratio
 from alleyes.rows import Row
 from alleyes.sheet import determinant, direction_of
-from alleyes.standing import NeverOne, Possible, check_standing, check_stands, check_step, form_in_heap, heap_among
-from alleyes.steps import Step
+from alleyes.standing import NeverOne, Possible, check_standing, check_stands, form_in_heap, heap_among
+from alleyes.steps import Step, check_step
 from alleyes.ways import Way
 
 FOUR = 4

@@ -9,7 +9,7 @@ from alleyes.papers import Denial, Paper
 from alleyes.ranges import Even, stretch
 from alleyes.rows import are_rows, check_labels_known
 from alleyes.standing import check_standing, check_stands, heap_among
-from alleyes.steps import Mark
+from alleyes.steps import check_mark
 from alleyes.terms import check_one_picture
 
 
@@ -101,12 +101,6 @@ def cone_asked(standing, name, form):
             if picture_of(label) not in heap.names:
                 raise NotJoined(name, picture_of(label))
     return heap.cone
-
-
-def check_mark(value, part):
-    """BadMark with the name of an argument that is no mark."""
-    if not isinstance(value, Mark):
-        raise BadMark(part)
 
 
 def _cone_and_form(standing, mark):

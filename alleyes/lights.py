@@ -2,11 +2,11 @@
 
 from alleyes.books import Book, check_book
 from alleyes.checks import is_list, picture_of
-from alleyes.errors import BadLight, BadStep, BadText
+from alleyes.errors import BadLight, BadText
 from alleyes.facts import InPlane, SameWay, Upright, parts_text
 from alleyes.parts import behind_bar, label_word, parts_at
 from alleyes.ratios import Ratio
-from alleyes.steps import Step
+from alleyes.steps import Step, check_step
 from alleyes.terms import check_labels, joined_terms
 from alleyes.texts import end_at, word_at, words_of
 
@@ -71,8 +71,8 @@ class Lamp(Light):
     """A lamp over a floor along two steps, its foot there, and pairs of a post's foot and the end of its shadow."""
 
     def __init__(self, one, other, foot, posts):
-        _check_step(one, "one")
-        _check_step(other, "other")
+        check_step(one, "one")
+        check_step(other, "other")
         check_labels([foot])
         self.one = one
         self.other = other
@@ -104,9 +104,9 @@ class Water(Light):
 
     def __init__(self, base, one, other, upright, pairs):
         check_labels([base])
-        _check_step(one, "one")
-        _check_step(other, "other")
-        _check_step(upright, "upright")
+        check_step(one, "one")
+        check_step(other, "other")
+        check_step(upright, "upright")
         self.base = base
         self.one = one
         self.other = other
@@ -138,8 +138,8 @@ class Mirror(Light):
 
     def __init__(self, base, one, other, pairs):
         check_labels([base])
-        _check_step(one, "one")
-        _check_step(other, "other")
+        check_step(one, "one")
+        check_step(other, "other")
         self.base = base
         self.one = one
         self.other = other
@@ -243,8 +243,3 @@ def _middle_of(base, thing, seen):
     for label in (thing, seen):
         terms = joined_terms(list(terms.items()), [(label, Ratio(1, 2))], 1)
     return Step(terms)
-
-
-def _check_step(value, part):
-    if not isinstance(value, Step):
-        raise BadStep(part)

@@ -2,14 +2,14 @@
 
 from alleyes.books import check_label_known, check_part_known
 from alleyes.checks import picture_of
-from alleyes.drawn import check_mark, drawn_form
+from alleyes.drawn import drawn_form
 from alleyes.errors import NotJoined, TwoPictures, Unsettled
 from alleyes.forms import form_of
 from alleyes.groups import direction_found
 from alleyes.maps import map_back, mapped
 from alleyes.sheet import cross, determinant
-from alleyes.standing import check_standing, check_step, check_stands, heap_among
-from alleyes.steps import Mark
+from alleyes.standing import check_standing, check_stands, heap_among
+from alleyes.steps import Mark, check_mark, check_step
 from alleyes.uses import row_in_plane
 
 

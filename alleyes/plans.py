@@ -10,7 +10,8 @@ from alleyes.groups import is_side, ratio_together, times_of, way_found
 from alleyes.papers import Paper
 from alleyes.ratios import Ratio, check_ratio
 from alleyes.sheet import cross
-from alleyes.standing import check_standing, check_stands, check_step, heap_among
+from alleyes.standing import check_standing, check_stands, heap_among
+from alleyes.steps import check_step
 from alleyes.uses import turned_rows
 from alleyes.ways import rest_in_cone
 

@@ -12,8 +12,8 @@ from alleyes.ranges import stretch
 from alleyes.ratios import Ratio
 from alleyes.shapes import check_different
 from alleyes.sheet import cross, on_line
-from alleyes.standing import check_standing, check_stands, check_step, heap_among
-from alleyes.steps import Mark, Step
+from alleyes.standing import check_standing, check_stands, heap_among
+from alleyes.steps import Mark, Step, check_step
 from alleyes.tables import table_of, weights_in
 from alleyes.terms import check_labels, check_one_picture
 from alleyes.texts import end_at, word_at, words_of

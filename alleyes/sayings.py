@@ -1,11 +1,11 @@
 """Sayings: what is asked of what stands, and not told."""
 
 from alleyes.checks import is_label
-from alleyes.errors import BadMark, BadNumber, BadStep, BadText, NoLabel, Twice
+from alleyes.errors import BadNumber, BadText, NoLabel, Twice
 from alleyes.facts import KINDS, Along, InPlane, Lengths, Null, SameWay, Upright, fact_at, parts_text
 from alleyes.parts import parts_at
 from alleyes.ratios import Ratio, check_ratio, is_positive
-from alleyes.steps import Mark, Step
+from alleyes.steps import Step, check_mark, check_step
 from alleyes.terms import check_one_picture
 from alleyes.texts import end_at, word_at, words_of
 
@@ -67,8 +67,7 @@ class Before(Saying):
     """A mark is before the eye."""
 
     def __init__(self, mark):
-        if not isinstance(mark, Mark):
-            raise BadMark("mark")
+        check_mark(mark, "mark")
         super().__init__("before", mark)
         self.mark = mark
 
@@ -85,8 +84,8 @@ class OnSide(Saying):
     def __init__(self, label, base, one, other, mate):
         _check_label(label)
         _check_label(base)
-        _check_step(one, "one")
-        _check_step(other, "other")
+        check_step(one, "one")
+        check_step(other, "other")
         _check_label(mate)
         check_one_picture([label, base, mate])
         if mate == base:
@@ -113,8 +112,8 @@ class AtLeast(Saying):
         _check_label(one)
         _check_label(other)
         check_ratio(ratio, "ratio")
-        _check_step(side, "side")
-        _check_step(mate, "mate")
+        check_step(side, "side")
+        check_step(mate, "mate")
         check_one_picture([label, one, other])
         if one == other:
             raise Twice(other)
@@ -137,8 +136,8 @@ class Sharp(Saying):
     """The product of the steps is above 0."""
 
     def __init__(self, one, other):
-        _check_step(one, "one")
-        _check_step(other, "other")
+        check_step(one, "one")
+        check_step(other, "other")
         super().__init__("sharp", one, other)
         self.one = one
         self.other = other
@@ -154,8 +153,8 @@ class Blunt(Saying):
     """The product of the steps is below 0."""
 
     def __init__(self, one, other):
-        _check_step(one, "one")
-        _check_step(other, "other")
+        check_step(one, "one")
+        check_step(other, "other")
         super().__init__("blunt", one, other)
         self.one = one
         self.other = other
@@ -243,15 +242,10 @@ def _check_label(value):
         raise NoLabel(value)
 
 
-def _check_step(value, part):
-    if not isinstance(value, Step):
-        raise BadStep(part)
-
-
 def _check_compared(one, other, p, q):
     """The errors of two steps, and of p and q above 0."""
-    _check_step(one, "one")
-    _check_step(other, "other")
+    check_step(one, "one")
+    check_step(other, "other")
     if not is_positive(p):
         raise BadNumber("p")
     if not is_positive(q):

@@ -1,9 +1,9 @@
 """Shapes: the facts that tiles, rows, stairs, posts and fences tell."""
 
 from alleyes.checks import first_twice, is_list
-from alleyes.errors import BadFact, BadStep, Twice
+from alleyes.errors import BadFact, Twice
 from alleyes.facts import Lengths, Null, SameWay, Upright
-from alleyes.steps import Step
+from alleyes.steps import Step, check_step
 from alleyes.terms import check_labels, check_one_picture
 
 LEAST_ROW = 3
@@ -47,8 +47,7 @@ def stair_facts(*labels):
 def post_facts(top, foot, up):
     """A post that stands straight up."""
     check_labels([top, foot])
-    if not isinstance(up, Step):
-        raise BadStep("up")
+    check_step(up, "up")
     check_different([top, foot])
     return (SameWay(Step.between(foot, top), up),)
 

@@ -3,10 +3,10 @@
 from math import gcd, lcm
 
 from alleyes.checks import is_list
-from alleyes.errors import BadNumber, BadPicture, BadStep, NotPlain
+from alleyes.errors import BadNumber, BadPicture, NotPlain
 from alleyes.pictures import check_picture
 from alleyes.ratios import Ratio, added, triple_of
-from alleyes.steps import Step
+from alleyes.steps import check_step
 
 
 def cross(one, other):
@@ -52,10 +52,8 @@ def on_line(picture, labels):
 def meet_of(picture, one, other):
     """The direction in which two plain steps of the picture meet; None if they are on one line."""
     check_picture(picture)
-    if not isinstance(one, Step):
-        raise BadStep("one")
-    if not isinstance(other, Step):
-        raise BadStep("other")
+    check_step(one, "one")
+    check_step(other, "other")
     if not one.is_plain:
         raise NotPlain("one")
     if not other.is_plain:

@@ -3,13 +3,13 @@
 from alleyes.books import check_book, check_part_known, check_picture_name
 from alleyes.bowl import NO_EYE, some_eye
 from alleyes.cones import NO_SCENE, some_scene
-from alleyes.errors import BadMark, BadStanding, BadStep, Impossible
+from alleyes.errors import BadStanding, BadStep, Impossible
 from alleyes.groups import home_form_in, is_side, side_ratio, times_of
 from alleyes.papers import Denial, Paper
 from alleyes.rounds import POSSIBLE, run_of
 from alleyes.rows import Row
 from alleyes.sheet import direction_of
-from alleyes.steps import Mark, Step
+from alleyes.steps import Mark, Step, check_mark, check_step
 from alleyes.ways import Way, settled_in, way_in
 
 
@@ -90,8 +90,7 @@ def home_form(standing, value):
 def place_in(standing, mark):
     """The ratios of a mark times the places of its labels, added up."""
     check_standing(standing)
-    if not isinstance(mark, Mark):
-        raise BadMark("mark")
+    check_mark(mark, "mark")
     check_part_known(standing.book, mark)
     check_stands(standing)
     places = heap_among(standing.heaps, mark.picture_name).places
@@ -133,12 +132,6 @@ def check_standing(standing):
     """BadStanding for what is no standing."""
     if not isinstance(standing, Standing):
         raise BadStanding("standing")
-
-
-def check_step(value, part):
-    """BadStep with the name of an argument that is no step."""
-    if not isinstance(value, Step):
-        raise BadStep(part)
 
 
 def check_stands(standing):

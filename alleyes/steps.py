@@ -115,8 +115,7 @@ class Mark:
         return Mark(_moved_terms(self, other, 1))
 
     def __sub__(self, other):
-        if not isinstance(other, Mark):
-            raise BadMark("other")
+        check_mark(other, "other")
         _check_same_picture(self, other)
         return Step(joined_terms(self.terms, other.terms, -1))
 
@@ -132,6 +131,18 @@ class Mark:
         return Mark(_whole_terms(words_of(text), 1))
 
 
+def check_step(value, part):
+    """BadStep with the name of an argument that is no step."""
+    if not isinstance(value, Step):
+        raise BadStep(part)
+
+
+def check_mark(value, part):
+    """BadMark with the name of an argument that is no mark."""
+    if not isinstance(value, Mark):
+        raise BadMark(part)
+
+
 def _sided(side, name):
     """The step without terms to this side of the sheet."""
     if not is_name(name):
@@ -145,8 +156,7 @@ def _sided(side, name):
 
 def _moved_terms(value, step, times):
     """The terms of a step or a mark, and those of a step so many times."""
-    if not isinstance(step, Step):
-        raise BadStep("other")
+    check_step(step, "other")
     if isinstance(value, Step):
         _check_no_side(value)
     _check_no_side(step)

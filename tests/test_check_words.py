@@ -5,14 +5,14 @@ import unittest
 
 from alleyes.books import Book
 from alleyes.check_words import shows_metric, shows_plan, shows_word
-from alleyes.cones import Lies, Mixed, Some, Zero
+from alleyes.cones import Lies, Mixed, Some, Zero, signs_of, signs_of_rows
 from alleyes.errors import BadSaying, BadStanding, BadStep, Impossible, NoLabel, NotJoined, Twice, Unsettled
 from alleyes.facts import Along, InPlane, Lengths, Null, SameWay, Upright
 from alleyes.pictures import Picture
 from alleyes.plans import Metric, Plan, metric, plan_of
 from alleyes.ratios import Ratio
 from alleyes.sayings import AtLeast, Before, Blunt, Deeper, Longer, OnSide, Sharp, Shorter
-from alleyes.standing import stand
+from alleyes.standing import home_form, stand
 from alleyes.steps import Mark, Step
 from alleyes.words import Always, Both, Never, Waits, word_of
 from tests.bending import parts_bent
@@ -75,6 +75,22 @@ class CheckWordsTest(unittest.TestCase, Checks):
         self.assertIs(shows_word(FLAT, saying, Both([Lies(holding), Lies(failing)])), True)
         for papers in ([one, one], [other, other], [other, one], [one], [one, other, other], [one, Lies({A: 1})]):
             self.assertIs(shows_word(FLAT, saying, Both(papers)), False)
+
+    def test_papers_that_do_not_make_always(self):
+        """A same way is always only by an AllZero and an Above, not by other papers that are right."""
+        zeros, signs = signs_of_rows(FLAT.heaps[0].cone, self.rows(FLAT, MIDDLE)), signs_of(FLAT.heaps[0].cone, home_form(FLAT, MIDDLE)[0])
+        self.assertEqual([zeros.word, signs.word], ["allzero", "mixed"])
+        self.assertIs(shows_word(FLAT, SameWay(MIDDLE, RIGHT), Always([zeros, signs])), False)
+        some, above = signs_of_rows(LOOSE.heaps[0].cone, self.rows(LOOSE, AB)), signs_of(LOOSE.heaps[0].cone, home_form(LOOSE, AB)[0])
+        self.assertEqual([some.word, above.word], ["some", "above"])
+        for saying in (SameWay(RIGHT, AB), SameWay(AB, RIGHT)):
+            self.assertIs(shows_word(LOOSE, saying, Always([some, above])), False)
+            self.assertEqual(word_of(LOOSE, saying).word, "both")
+
+    def rows(self, standing, step):
+        """The rows that are 0 where a step goes along the right."""
+        _, upward, ahead = home_form(standing, step)
+        return [upward - upward, ahead, -upward]
 
     def test_painted(self):
         source = random.Random(5)
