@@ -28,6 +28,7 @@ from alleyes.steps import Mark, Step
 from tests.painting import LETTERS, Look, World, box_nulls, cross, cube_world, det, direction, dot, random_step, random_world
 from tests.painting import ratio_of, true_facts, true_ties
 from tests.right_standing import right_paper
+from tests.right_words import reading
 from tests.support import NO_LABELS, NO_NAMES, Checks, Odd, value_of
 
 ONE = Picture("one", {"a": (0, 0), "b": (6, 0), "c": (4, 2), "d": (2, 2)})
@@ -382,6 +383,7 @@ class StandingTest(unittest.TestCase, Checks):
         self.assertEqual(sorted([*standing.used, *standing.waiting]), list(range(len(facts))))
         self.assertTrue(shows_paper(standing, standing.paper) and right_paper(standing, standing.paper))
         self.assertEqual([heap.home for heap in standing.heaps], [heap.names[0] for heap in standing.heaps])
+        self.check_waiting(standing)
         for heap in standing.heaps:
             depths = self.scaled_depths(world, heap)
             self.assertIn(depths, heap.cone)
@@ -390,6 +392,17 @@ class StandingTest(unittest.TestCase, Checks):
             for name in heap.names:
                 self.check_ways(world, standing, heap, name, depths)
         return standing
+
+    def check_waiting(self, standing):
+        """What waits does not fit what stands, what is used does; a same way may have come by a meet."""
+        for number, fact in enumerate(standing.book.facts):
+            if isinstance(fact, (Foot, Far)):
+                fits = True
+            elif isinstance(fact, Tie):
+                fits = standing.heap_of(fact.one[:-2]) is standing.heap_of(fact.other[:-2])
+            else:
+                fits = reading(standing, Along(*fact.steps) if isinstance(fact, SameWay) else fact)[0] != "waits"
+            self.assertEqual(fits, number in standing.used, str(fact))
 
     def scaled_depths(self, world, heap):
         """The painted depths, in the scale that the map of each picture tells."""
