@@ -47,14 +47,12 @@ def with_due_above(group, use, stage):
 
 def turned_by(group, fact):
     """The step of an along or a same way that the settled other one turns, and its direction; None if none does."""
-    one, other = fact.one, fact.other
-    direction = direction_found(group, one)
-    if direction is not None and not is_side(other):
-        return other, direction
-    direction = direction_found(group, other)
-    if direction is not None and not is_side(one):
-        return one, direction
-    return None
+    direction = direction_found(group, fact.one)
+    if direction is not None and not is_side(fact.other):
+        return fact.other, direction
+    # A right or an up is settled, so here one has terms.
+    direction = direction_found(group, fact.other)
+    return None if direction is None else (fact.one, direction)
 
 
 def plane_of(group, one, other):
