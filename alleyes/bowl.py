@@ -101,6 +101,12 @@ def eye_of_flat(flat):
     return found.parts
 
 
+def eyes_around(flat):
+    """Triples of eyes of a flat that has one: an eye, and for each way that goes on in the flat one by it."""
+    seen = eye_of_flat(flat)
+    return (seen, *[_gone(seen, way, _length_in_bowl(seen, way)) for way in ways_in(flat)])
+
+
 def _mixed(flat, row, eye):
     """The MixedEyes of a row that is 0 at an eye, but not a sum of the lines."""
     slopes = [(way, row.a * way[0] + row.b * way[1] + row.c * way[2]) for way in ways_in(flat)]

@@ -19,7 +19,7 @@ def shows_eye_signs(flat, row, value):
     """Whether value is a right ZeroEyes, AboveEyes, BelowEyes or MixedEyes."""
     check_flat_row(flat, row)
     if type(value) is ZeroEyes:
-        return _adds_up(flat, value.weights, row)
+        return adds_up(flat, value.weights, row)
     if type(value) is AboveEyes:
         return _are_eyes(flat, row, [value.eye], [1]) and _is_bar(flat.narrowed([row]), value.bar)
     if type(value) is BelowEyes:
@@ -32,7 +32,7 @@ def shows_highest(flat, value):
     check_flat(flat)
     if type(value) is Highest:
         a, b, s, weights = value.parts
-        return _is_eye(flat, (a, b, s)) and _adds_up(flat, weights, circle_row(a, b, -height_over(a, b, s)))
+        return _is_eye(flat, (a, b, s)) and adds_up(flat, weights, circle_row(a, b, -height_over(a, b, s)))
     return type(value) is Upward and _is_upward(flat, value.parts)
 
 
@@ -67,13 +67,13 @@ def _is_bar(flat, value):
         return False
     weights, a, b, t = value
     if a is None and b is None and t is None:
-        return _adds_up(flat, weights, one_row())
+        return adds_up(flat, weights, one_row())
     if ratios_of((a, b, t), 3) is None or Ratio.of(t).sign < 0:
         return False
-    return _adds_up(flat, weights, circle_row(a, b, t))
+    return adds_up(flat, weights, circle_row(a, b, t))
 
 
-def _adds_up(flat, weights, row):
+def adds_up(flat, weights, row):
     """Whether the lines, times weights, add up to the row."""
     ratios = ratios_of(weights, len(flat.lines))
     if ratios is None:

@@ -7,6 +7,8 @@ from alleyes.sheet import cross, determinant
 from alleyes.steps import Step
 from alleyes.uses import carried
 
+THREE = 3
+
 
 class Four:
     """Four tied pairs, and of both pictures the groups, the steps, the triples of their ways, and the determinants."""
@@ -24,7 +26,7 @@ class Four:
         return not any([bool(number) for number in self.determinants])
 
     @property
-    def bars(self):
+    def is_barring(self):
         """Whether the determinants are not of one sign."""
         one, other = self.determinants
         return one.sign != other.sign
@@ -40,6 +42,11 @@ def first_four(book, groups):
                 if four is not None:
                     return four
     return None
+
+
+def has_settled_four(pairs, groups):
+    """Whether of some four pairs the steps from the first one to the others are settled in both pictures."""
+    return any([len(_settled_ends(pairs, at, groups)) >= THREE for at in range(len(pairs))])
 
 
 def joined_group(book, four):
@@ -70,14 +77,19 @@ def _by_homes(book, four):
 
 def _four_of(pairs, groups):
     """The first Four of these pairs that fits; None if there is none."""
-    for at in range(len(pairs) - 3):
-        ends = [end for end in range(at + 1, len(pairs)) if _are_settled(_steps_to(pairs, at, end), groups)]
+    for at in range(len(pairs) - THREE):
+        ends = _settled_ends(pairs, at, groups)
         if _leave_a_plane(pairs, at, ends, groups):
             for three in _threes_of(ends):
                 four = _four_with(pairs, at, three, groups)
                 if not four.is_flat:
                     return four
     return None
+
+
+def _settled_ends(pairs, start, groups):
+    """The pairs behind the start to which the steps from there are settled in both pictures."""
+    return [end for end in range(start + 1, len(pairs)) if _are_settled(_steps_to(pairs, start, end), groups)]
 
 
 def _leave_a_plane(pairs, start, ends, groups):

@@ -34,7 +34,7 @@ def run_of(book):
         if (dark := _first_dark(groups)) is not None:
             return Run(NO_SCENE, groups, stage, [dark])
         four = first_four(book, groups)
-        if four is not None and four.bars:
+        if four is not None and four.is_barring:
             return Run(NEVER_ONE, groups, stage, list(groups_by_homes(book, four)), four)
         if four is not None:
             groups = _with_joined(book, groups, four)

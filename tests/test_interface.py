@@ -46,6 +46,10 @@ CLASSES = {
     "lights.Lamp": ("one other foot posts", "__len__ __eq__ __str__ read(text)"),
     "lights.Water": ("base one other upright pairs", "__len__ __eq__ __str__ read(text)"),
     "lights.Mirror": ("base one other pairs", "__len__ __eq__ __str__ read(text)"),
+    "solids.Solid": ("corners", "spot_of(name) __len__ __iter__ __contains__ __eq__ portion(names) moved(by) enlarged(place,m)"),
+    "views.View": ("place right up ahead foot distance", "__eq__ numbers_of(place) moved(by) framed(foot,distance) "
+                   "level(place,foot,distance)"),
+    "desk.Desk": ("", "told(*lines) __call__(line) tried(*lines) undo() redo() twin() __len__ __iter__ __contains__ __eq__"),
 }
 PAPERS = {
     "cones": {"Lies": "depths", "NoScene": "weights lifts depths", "Zero": "weights", "Above": "weights lifts depths",
@@ -60,8 +64,16 @@ PAPERS = {
     "drawn": {"Drawn": "x y x_even y_even", "Spread": "x_range y_range", "Sometimes": "below zero above", "Hidden": "signs"},
     "words": {"Always": "papers", "Both": "papers", "Waits": "steps", "Never": "papers"},
     "plans": {"Plan": "spots", "Metric": "square mixed"},
+    "links": {"Joined": "lines", "Apart": "why"},
+    "lacks": {"Lacks": "home number leads eyes"},
+    "seconds": {"SecondEye": "a b s", "Several": "one other"},
+    "clashes": {"Clash": "numbers paper spared", "Against": "numbers paper"},
+    "bases": {"Cheapest": "numbers price eye axes closes apart", "Short": "rank eyes"},
+    "strikes": {"Strikes": "numbers paper clashes", "NoStrike": "most clashes"},
+    "offers": {"Offers": "follows bars opens waits", "Next": "number counts"},
 }
-DENIALS = ("NoScene", "NeverAll", "NoEye", "NeverOne", "Hidden", "Never")
+DENIALS = ("NoScene", "NeverAll", "NoEye", "NeverOne", "Hidden", "Never", "Apart", "Several", "Clash", "Against",
+           "Short", "NoStrike")
 FUNCTIONS = {
     "checks": "is_integer(value) is_within(value,least,most) is_name(value) is_label(value)",
     "ratios": "is_ratio(value) added(ratios) least_of(ratios) greatest_of(ratios)",
@@ -103,6 +115,28 @@ FUNCTIONS = {
     "lamps": "lamp_times(standing,foot,post,end)",
     "mirrors": "slid(standing,mark,base,one,other,ray) mirrored(standing,mark,base,one,other,upright) "
                "slid_place(standing,mark,base,one,other,ray) mirrored_place(standing,mark,base,one,other,upright)",
+    "check_light": "shows_shadow(standing,top,foot,lit_top,lit_foot,lit_end,value) shows_times(standing,foot,post,end,value) "
+                   "shows_slid(standing,mark,base,one,other,ray,value) shows_mirrored(standing,mark,base,one,other,upright,value)",
+    "links": "map_between(standing,one,other) direction_in(standing,step,name) form_in(standing,value,name) "
+             "drawn_in(standing,mark,name)",
+    "lacks": "lacking(standing) what_lowers(standing,facts)",
+    "seconds": "look_rows(standing,one,other) is_one_look(standing,one,other) is_new_look(standing,name) "
+               "mate_eye(standing,eye,one,other) second_eye(standing,name)",
+    "check_links": "shows_link(standing,one,other,value) shows_drawn_in(standing,mark,name,value) shows_second(standing,name,value) "
+                   "shows_lacks(standing,value)",
+    "clashes": "part_of(book,numbers) clash(book) fewest_lines(flat)",
+    "bases": "offered_row(standing,fact) cheapest(standing,offered,prices)",
+    "strikes": "strikes(book,most)",
+    "offers": "sorted_offers(standing,offered) next_measure(standing,offered,sayings)",
+    "check_choice": "shows_clash(book,value) shows_against(flat,value) shows_cheapest(standing,offered,prices,value) "
+                    "shows_strikes(book,most,value) shows_offers(standing,offered,value)",
+    "views": "eye_of(view)",
+    "painting": "painted(solid,view,name) scene_of(solid,view,name) ties_of(solid,one,other) book_of(solid,views,facts=())",
+    "truths": "led_by(solid,views,step) is_true(solid,views,fact) true_facts(solid,views,steps)",
+    "reader": "read_line(line)",
+    "desk_deeds": "changed(pictures,facts,line)",
+    "desk_asks": "answer_of(pictures,facts,line)",
+    "stories": "replay(lines) merged(one,other) parting(one,other)",
 }
 PROPERTIES = {"ratios.Ratio": "sign is_whole", "rows.Row": "is_nothing", "steps.Step": "is_plain", "eyes.Eye": "height",
               "cones.Cone": "free", "cones.Lies": "scene", "flats.EyeRow": "left is_nothing", "flats.Flat": "rank reduced",

@@ -15,10 +15,10 @@ METHODS = ("append clear copy count endswith extend find get index insert isalnu
            "setdefault split splitlines startswith strip update upper values zfill bit_length removeprefix removesuffix "
            "isascii").split()
 SPECIAL = ("__init__ __eq__ __repr__ __str__ __len__ __iter__ __contains__ __bool__ __neg__ __abs__ __add__ __sub__ "
-           "__mul__").split()
+           "__mul__ __call__").split()
 MATH = ("gcd", "lcm", "isqrt", "comb", "perm", "factorial")
 NODES = (ast.Module, ast.FunctionDef, ast.ClassDef, ast.Return, ast.Assign, ast.For, ast.While, ast.If, ast.Raise,
-         ast.ImportFrom, ast.Expr, ast.Pass, ast.Break, ast.Continue, ast.BoolOp, ast.NamedExpr, ast.BinOp, ast.UnaryOp,
+         ast.ImportFrom, ast.Expr, ast.Try, ast.ExceptHandler, ast.Pass, ast.Break, ast.Continue, ast.BoolOp, ast.NamedExpr, ast.BinOp, ast.UnaryOp,
          ast.IfExp, ast.Dict, ast.ListComp, ast.DictComp, ast.Compare, ast.Call, ast.JoinedStr, ast.FormattedValue,
          ast.Constant, ast.Attribute, ast.Subscript, ast.Starred, ast.Name, ast.List, ast.Tuple, ast.Slice, ast.Load,
          ast.Store, ast.And, ast.Or, ast.Add, ast.Sub, ast.Mult, ast.FloorDiv, ast.BitAnd, ast.Mod, ast.Pow, ast.Not, ast.USub, ast.Eq,
@@ -165,6 +165,14 @@ class LanguageTest(unittest.TestCase):
                     for part in node.args:
                         if isinstance(part, ast.Starred):
                             self.assertIsInstance(part.value, ast.Name, (name, node.lineno))
+
+    def test_tries(self):
+        """A try holds one line, and catches errors of the package alone."""
+        from alleyes import errors
+        for name, tree in trees():
+            for node in [node for node in ast.walk(tree) if isinstance(node, ast.Try)]:
+                self.assertEqual([len(node.body), len(node.handlers), node.orelse, node.finalbody], [1, 1, [], []], name)
+                self.assertTrue(issubclass(getattr(errors, node.handlers[0].type.id), errors.EyesError), name)
 
     def test_is(self):
         for name, tree in trees():
