@@ -57,7 +57,7 @@ class CheckChoiceTest(unittest.TestCase, Checks):
             if found is not None:
                 self.assertIs(shows_clash(book=book, value=found), True)
                 papers = [found, *[clash(other) for other in (BENT, TWICE)]]
-                taken += self.check(lambda value: shows_clash(book, value), lambda value: right_clash(book, value), papers, source, 40)
+                taken += self.check(lambda value: shows_clash(book, value), lambda value: right_clash(book, value), papers, source, 14)
         self.assertGreater(taken, 3)
         for value in (None, clash(BENT), *NO_PAPERS):
             self.assertIs(shows_clash(Book([ONE], [Null(TILE)]), value), False)
@@ -157,7 +157,7 @@ class CheckChoiceTest(unittest.TestCase, Checks):
                 found = strikes(book, most)
                 self.assertIs(shows_strikes(book=book, most=most, value=found), True)
                 papers = [found, *[strikes(TWICE, other) for other in range(3)], *[strikes(book, other) for other in range(3)]]
-                taken += self.check(lambda value: shows_strikes(book, most, value), lambda value: right_strikes(book, most, value), papers, source, 12)
+                taken += self.check(lambda value: shows_strikes(book, most, value), lambda value: right_strikes(book, most, value), papers, source, 5)
         self.assertGreater(taken, 3)
 
     def test_strikes_as_told(self):

@@ -63,7 +63,7 @@ class ClashesTest(unittest.TestCase, Checks):
     def test_clashes(self):
         """A clash is one of all those that there are."""
         source, words = random.Random(1), {}
-        for number in range(26):
+        for number in range(16):
             book = mirrored_book(source) if number % 5 == 0 else bent_book(source, ("one",) if number & 1 else ("one", "two"), source.randint(1, 3), 8)
             book = Book(book.pictures, book.facts[:9])
             found = clash(book=book)

@@ -106,7 +106,7 @@ class SecondsTest(unittest.TestCase, Checks):
     def test_any_eyes(self):
         """Each eye of the home's flat has mates; others are refused just if a look row is not 0."""
         source, refused = random.Random(3), 0
-        for _ in range(40):
+        for _ in range(24):
             world = copies(source, 2) if source.random() < 0.5 else cube_world(source, ("one", "two", "three"))
             standing = stand(book_of(world))
             names = list(world.looks)
@@ -121,7 +121,7 @@ class SecondsTest(unittest.TestCase, Checks):
                 self.bad(BadEye, "mate", mate_eye, standing, as_eye(eye), one, other)
             else:
                 self.assertEqual(three(mate_eye(standing, as_eye(eye), one, other)), mate)
-        self.assertTrue(0 < refused < 40)
+        self.assertTrue(0 < refused < 24)
 
     def test_one_look(self):
         """Parallel sheets are one look, both ways and on from picture to picture, others are not."""
@@ -144,7 +144,7 @@ class SecondsTest(unittest.TestCase, Checks):
         """Alone; a copy is none; of others the rank of the flat with and without their rows tells."""
         source, seen = random.Random(5), {}
         self.assertEqual([is_new_look(standing=LOOSELY, name=name) for name in ("one", "two")], [True, True])
-        for number in range(12):
+        for number in range(8):
             world = copies(source, 2) if number & 1 else cube_world(source, ("one", "two", "three"))
             if number % 3 == 0:
                 first = world.looks["one"]

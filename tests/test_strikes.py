@@ -40,7 +40,7 @@ class StrikesTest(unittest.TestCase, Checks):
     def test_strikes(self):
         """Beside all choices of facts, for each bound."""
         source, seen = random.Random(1), {}
-        for number in range(16):
+        for number in range(10):
             book = mirrored_book(source) if number % 8 == 0 else bent_book(source, ("one",) if number & 1 else ("one", "two"), source.randint(1, 4), 8)
             for most in range(3):
                 found = strikes(book=book, most=most)
