@@ -11,7 +11,7 @@ from alleyes.clashes import Against, Clash, part_of
 from alleyes.eyes import is_over
 from alleyes.flats import Flat, are_zero_at, check_flat, row_at
 from alleyes.offers import Offers, check_offered
-from alleyes.ratios import added, is_ratio, ratios_of
+from alleyes.ratios import added, ratios_of
 from alleyes.standing import stand
 from alleyes.strikes import NoStrike, Strikes, check_strikes_asked, choices, hits_each
 from alleyes.words import Always, Both, Never, Waits
@@ -119,7 +119,7 @@ def _is_eye(flat, value):
 
 def _is_enough(offer, value):
     """Whether the price and the eye of a Cheapest are right, and its axes show that there is no other eye."""
-    if not is_ratio(value.price) or added([offer.prices[number] for number in value.numbers]) != value.price:
+    if added([offer.prices[number] for number in value.numbers]) != value.price:
         return False
     if not _is_eye(offer.flat.narrowed(offer.rows), value.eye):
         return False

@@ -47,7 +47,6 @@ def check_fact_numbers(book, numbers):
 
 def clash(book):
     """A Clash of a book; None if it is possible."""
-    check_book(book)
     if stand(book).is_possible:
         return None
     numbers = clashing(book, list(range(len(book.facts))))

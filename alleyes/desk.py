@@ -11,7 +11,10 @@ class Desk:
     """Keeps pictures and facts, and the deed lines that are done and not taken back."""
 
     def __init__(self):
-        _keep(self, (), ())
+        self.pictures = ()
+        self.facts = ()
+        self.book = None
+        self.texts = ()
         self.story = ()
         # Pairs of pictures and facts: what was kept ahead of each line of the story.
         self.earlier = ()

@@ -46,8 +46,8 @@ def check_kept(pictures, facts):
 
 
 def book_kept(pictures, facts):
-    """The book of what is kept; None if nothing is."""
-    if len(pictures) == 0 and len(facts) == 0:
+    """The book of what is kept; None without a picture."""
+    if len(pictures) == 0:
         return None
     return Book(pictures, facts)
 

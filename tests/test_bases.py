@@ -145,6 +145,14 @@ class BasesTest(unittest.TestCase, Checks):
         self.assertEqual([against.numbers, len(against.paper.weights), some_eye(half.heaps[0].flat).word], [(0,), 2, "sees"])
         self.assertEqual(cheapest(PLAIN, [Far("one", 27), Far("one", 26), Far("one", 27)], [0, 0, 0]).numbers, (0, 1))
 
+    def test_apart(self):
+        """Where the row to spare is 0 at the highest eye that the others leave, another eye is told."""
+        centred = stand(Book([ONE.moved(-3, -3)], [Null(TILE)]))
+        offered = [Upright(AB, AD), Upright(UP, AD), Far("one", 9)]
+        found = cheapest(centred, offered, [1, 1, 1])
+        self.assertEqual([found.numbers, found.eye], [(0, 1, 2), (0, 0, 9)])
+        self.assertTrue(right_cheapest(centred, offered, [1, 1, 1], found))
+
     def test_prices(self):
         """Prices of 0, and equal ones, leave out what is to spare; the price is the least one."""
         twice = [*OFFERS, *OFFERS]

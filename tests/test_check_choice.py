@@ -69,7 +69,7 @@ class CheckChoiceTest(unittest.TestCase, Checks):
         for numbers, paper, told, wanted in (((1, 2), small, spared, True), ([1, 2], small, spared[::-1], False), ((2, 1), small, spared[::-1], False),
                                              ((0, 1, 2), bar, [part(BENT, [1, 2]).paper, *spared], False), ((1,), small, spared[:1], False),
                                              ((1, 2), spared[0], spared, False), ((1, 2), small, spared[:1], False), ((1, 2), small, (), False),
-                                             ((True, 2), small, spared, False), ((1, Ratio(2)), small, spared, False), ((1, 3), small, spared, False),
+                                             ((0,), part(BENT, [0]).paper, [part(BENT, []).paper], False), ((True, 2), small, spared, False), ((1, Ratio(2)), small, spared, False), ((1, 3), small, spared, False),
                                              ((1, 2), bar, spared, True), ((1, 2), None, spared, False), ((), Possible([], []), (), False),
                                              ((1, 1, 2), small, [small, small, small], False), ((1, 2), small, [small, small], False)):
             self.assertIs(right_clash(BENT, Clash(numbers, paper, told)), wanted, numbers)
@@ -174,7 +174,7 @@ class CheckChoiceTest(unittest.TestCase, Checks):
                                     (1, NoStrike(1, pairs[:2]), True), (1, NoStrike(True, pairs[:2]), False), (1, NoStrike(Ratio(1), pairs[:2]), False),
                                     (1, NoStrike(0, pairs[:2]), False), (1, NoStrike(2, pairs[:2]), False), (0, NoStrike(0, pairs[:1]), True),
                                     (0, NoStrike(0, ()), False), (1, NoStrike(1, pairs[2:]), False), (2, NoStrike(2, pairs), False), (0, NoStrike(0, pairs[3:]), True),
-                                    (0, NoStrike(False, pairs[:1]), False), (1, NoStrike(1, [pairs[0], pairs[0]]), False), (1, NoStrike(1, None), False)):
+                                    (0, NoStrike(False, pairs[:1]), False), (1, NoStrike(1, [pairs[0], pairs[0]]), False), (1, NoStrike(1, [pairs[0], ((2,), part(TWICE, [2]).paper)]), False), (1, NoStrike(1, None), False)):
             self.assertIs(shows_strikes(TWICE, most, value), wanted, value.parts)
             self.assertIs(right_strikes(TWICE, most, value), wanted, value.parts)
         one = Book([ONE], [Far("one", -1)])
@@ -199,6 +199,7 @@ class CheckChoiceTest(unittest.TestCase, Checks):
         for parts in (((), bars, opens, waits), (follows + follows, bars, opens, waits), (bars, follows, opens, waits), (follows, bars, waits, opens),
                       (((True, follows[0][1]),), bars, opens, waits), (((0, Always(())),), bars, opens, waits), (((0, Never(follows[0][1].papers)),), bars, opens, waits),
                       (((4, follows[0][1]),), bars, opens, waits), ((follows[0][1],), bars, opens, waits), (None, bars, opens, waits), (((Ratio(0), follows[0][1]),), bars, opens, waits),
+                      (follows, bars + opens, (), waits), (follows, bars, waits + opens, ()), (follows, bars, (), waits + opens), ((), follows + bars, opens, waits),
                       (follows + ((3, opens[0][1]),), bars, (), waits), (((-4, follows[0][1]),), bars, opens, waits)):
             self.assertIs(shows_offers(FOOTED, SIDES, Offers(*parts)), False)
             self.assertIs(right_offers(FOOTED, SIDES, Offers(*parts)), False)

@@ -142,7 +142,8 @@ class CheckLinksTest(unittest.TestCase, Checks):
         bare = stand(Book([CORNER]))
         eyes = ((0, 0, 1), (0, 0, 2), (1, 0, 5), (0, 1, 5))
         for told, wanted in ((eyes, True), (eyes[::-1], True), (eyes[:3] + ((2, 0, 9),), False), (eyes[:3], False), (eyes + ((1, 1, 9),), False),
-                             (eyes[:3] + (eyes[0],), False), (eyes[:3] + ((0, 1, 1),), False), (eyes[:3] + ((0, 2, 4),), False)):
+                             (((1, 1, 9), (1, 2, 9), (1, 1, 10), (1, 0, 9)), False), (((1, 1, 9), (2, 1, 9), (1, 1, 10), (0, 1, 9)), False),
+                             (((1, 1, 9), (2, 1, 9), (1, 2, 9), (0, 1, 9)), False), (eyes[:3] + (eyes[0],), False), (eyes[:3] + ((0, 1, 1),), False), (eyes[:3] + ((0, 2, 4),), False)):
             self.assertIs(shows_lacks(bare, Lacks("one", 3, (), told)), wanted)
 
     def test_errors(self):

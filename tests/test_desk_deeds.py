@@ -5,7 +5,7 @@ import unittest
 
 from alleyes.books import Book
 from alleyes.desk_deeds import changed
-from alleyes.errors import BadBook, BadFact, BadPicture, BadText, NoFact, NoLabel, NoPicture, Nothing, TooMany, Twice
+from alleyes.errors import BadFact, BadPicture, BadText, NoFact, NoLabel, NoPicture, Nothing, TooMany, Twice
 from alleyes.facts import Far, Foot, InPlane, Null, SameWay, Tie, Upright
 from alleyes.lights import Light
 from alleyes.pictures import Picture
@@ -106,8 +106,10 @@ class DeedsTest(unittest.TestCase, Checks):
                 self.raised(NoLabel, {"name": "one.a"}, changed, (Picture("one", {"z": (0, 0)}),), FACTS, line)
                 if word != "put":
                     self.raised(Nothing, {}, changed, (), (), line)
-                self.bad(BadBook, "pictures", changed, (), FACTS, line)
+                    self.raised(Nothing, {}, changed, (), FACTS, line)
         self.raised(BadText, {"line": 0, "word": 1}, changed, (), (), "drop")
+        self.raised(NoLabel, {"name": "one.b"}, changed, (), FACTS, "put one : a 0 0")
+        self.assertEqual(changed((), FACTS, f"put {ONE}"), ((ONE,), FACTS, "1"))
         self.raised(BadText, {"line": 0, "word": 9}, changed, (), (), "put one : a 0 0 / b 0 0")
 
 

@@ -6,14 +6,16 @@ import unittest
 from alleyes.books import Book
 from alleyes.drawn import drawn, drawn_form
 from alleyes.errors import BadMark, BadStanding, BadStep, Impossible, NoLabel, NoPicture, NotJoined, Unsettled
-from alleyes.facts import Along, Tie
+from alleyes.facts import Along, Fact, Tie
 from alleyes.forms import form_of
 from alleyes.links import Apart, Joined, direction_in, drawn_in, form_in, map_between
 from alleyes.maps import map_back, map_behind
 from alleyes.papers import Denial, Paper
 from alleyes.pictures import Picture
+from alleyes.ranges import stretch
 from alleyes.ratios import Ratio
 from alleyes.rows import Row
+from alleyes.seconds import is_new_look, is_one_look
 from alleyes.shapes import tile_facts
 from alleyes.standing import home_form, stand, way_of
 from alleyes.steps import Mark, Step
@@ -191,6 +193,63 @@ class LinksTest(unittest.TestCase, Checks):
         self.assertEqual([map_between(apart, "one", "three").why, map_between(apart, "two", "three").why, map_between(apart, "one", "two").word],
                          ["few", "few", "joined"])
 
+    def test_depths_of_tied_points(self):
+        """Tied points are as deep in both pictures as they are in space, by the scale of the second one's map."""
+        source = random.Random(8)
+        for _ in range(6):
+            world, standing = linked_world(source, ("one", "two"))
+            heap = standing.heaps[0]
+            scale = factor_of(heap.maps["two"], true_map(world, "two", "one"))
+            for point in world.spots:
+                own, other = world.depths("one")[f"one.{point}"], world.depths("two")[f"two.{point}"]
+                found = stretch(heap.cone, Row({f"two.{point}": 1}), Row({f"one.{point}": 1}))
+                self.assertEqual([found.word, value_of(found.number)], ["even", other / scale / own])
+
+    def test_rings(self):
+        """Points tied in rings of three pictures; one that is drawn off its ray makes the book impossible."""
+        source, words = random.Random(9), {}
+        for _ in range(4):
+            world, standing = linked_world(source, ("one", "two", "three"))
+            ring = [Tie(f"three.{point}", f"one.{point}") for point in world.spots]
+            facts = [*standing.book.facts, *ring]
+            source.shuffle(facts)
+            book = Book(standing.book.pictures, facts)
+            ringed = stand(book)
+            self.assertTrue(ringed.is_possible)
+            for one in world.looks:
+                for other in world.looks:
+                    self.assertEqual(map_between(ringed, one, other), map_between(standing, one, other))
+            # The last corner is no more told to be one of a box, but its ties put it on its ray.
+            free = [fact for fact in facts if fact.word == "tie" or not any("three.h" in str(step) for step in fact.steps)]
+            self.assertTrue(stand(Book(book.pictures, free)).is_possible)
+            three = book.picture_of("three")
+            x, y = three.place_of("three.h")
+            places = {point: three.place_of(f"three.{point}") for point in three.names}
+            off = Picture("three", {**places, "h": (x + Ratio(1, 97), y)})
+            moved = [off if picture.name == "three" else picture for picture in book.pictures]
+            words[stand(Book(moved, free)).paper.word] = True
+            untied = [fact for fact in free if "three.h" not in str(fact)]
+            self.assertTrue(stand(Book(moved, untied)).is_possible)
+        self.assertEqual(list(words), ["noscene"])
+
+    def test_four_pairs_that_bar(self):
+        """A mirrored picture is apart no more, but impossible."""
+        source = random.Random(10)
+        world, standing = linked_world(source, ("one", "two"))
+        one, two = standing.book.pictures
+        barred = stand(Book([one, two.mirrored()], standing.book.facts))
+        self.assertEqual(barred.paper.word, "neverone")
+        self.raised(Impossible, {"word": "neverone"}, map_between, barred, "one", "two")
+
+    def test_copies(self):
+        """A picture moved, enlarged, turned by a quarter: the map between carries its sheet."""
+        copies = {"moved": AGAIN.moved(3, Ratio(-1, 2)), "enlarged": AGAIN.enlarged(3), "turned": AGAIN.turned()}
+        for word, copy in copies.items():
+            again = stand(Book([AGAIN, copy.renamed("six")], [*EDGES[2:], *[six_named(fact) for fact in EDGES[2:]], *[Tie(f"two.{point}", f"six.{point}") for point in "abco"]]))
+            wanted = {"moved": ((2, 0, 6), (0, 2, -1), (0, 0, 2)), "enlarged": ((3, 0, 0), (0, 3, 0), (0, 0, 1)), "turned": ((0, -1, 0), (1, 0, 0), (0, 0, 1))}[word]
+            self.assertEqual(map_between(again, "two", "six").lines, wanted)
+            self.assertEqual([is_one_look(again, "two", "six"), is_one_look(again, "six", "two"), is_new_look(again, "six")], [True, True, False])
+
     def test_order_of_errors(self):
         lost, gone = Step.between("one.x", "one.w"), Mark({"one.z": 2, "one.y": -1})
         away, mark = Step.right_of("six"), Mark.of_point("one.a")
@@ -198,6 +257,7 @@ class LinksTest(unittest.TestCase, Checks):
             for value in (*NO_NAMES, "six", "one.a"):
                 self.raised(NoPicture, {"name": value}, map_between, standing, value, value)
                 self.raised(NoPicture, {"name": value}, map_between, standing, "one", value)
+                self.raised(NoPicture, {"name": value}, map_between, standing, value, "one")
                 self.raised(NoPicture, {"name": value}, direction_in, standing, lost, value)
                 self.raised(NoPicture, {"name": value}, form_in, standing, gone, value)
                 self.raised(NoPicture, {"name": value}, drawn_in, standing, gone, value)
@@ -231,6 +291,11 @@ class LinksTest(unittest.TestCase, Checks):
         self.assertEqual(form_in(bare, between("a", "c"), "one"), form_of(ONE, between("a", "c")))
         self.assertEqual(drawn_in(BARE, Mark({"one.a": 2, "one.b": -1}), "one").word, "sometimes")
         self.assertEqual(map_between(stand(Book([Picture("one", {"a": (0, 0)})])), "one", "one"), Joined(SAME))
+
+
+def six_named(fact):
+    """A fact of the picture two told of the picture six."""
+    return Fact.read(str(fact).replace("two", "six"))
 
 
 def drawn_parts(standing, lines):

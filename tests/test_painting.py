@@ -112,6 +112,7 @@ class PaintingTest(unittest.TestCase, Checks):
         for value in NO_NAMES:
             self.raised(NoPicture, {"name": value}, ties_of, SLAB, value, value)
             self.raised(NoPicture, {"name": value}, ties_of, SLAB, "one", value)
+            self.raised(NoPicture, {"name": value}, ties_of, SLAB, value, "one")
         self.raised(Twice, {"name": "one"}, ties_of, SLAB, "one", "one")
         self.bad(BadSolid, "solid", ties_of, None, None, None)
 

@@ -221,6 +221,7 @@ class SecondsTest(unittest.TestCase, Checks):
                 for call in (look_rows, is_one_look):
                     self.raised(NoPicture, {"name": value}, call, standing, value, value)
                     self.raised(NoPicture, {"name": value}, call, standing, "one", value)
+                    self.raised(NoPicture, {"name": value}, call, standing, value, "one")
                 for call in (is_new_look, second_eye):
                     self.raised(NoPicture, {"name": value}, call, standing, value)
                 self.raised(NoPicture, {"name": value}, mate_eye, standing, eye, value, value)

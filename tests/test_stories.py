@@ -70,7 +70,7 @@ class StoriesTest(unittest.TestCase, Checks):
         self.assertEqual([list(found[0]), laters(found[0])], [["far one | 8"], []])
         self.assertEqual(merged(other, one)[1], (3,))
         self.assertEqual([merged(Desk(), one)[0] == one, merged(one, Desk())[0] == one, merged(one, one)[0].story], [True, True, one.story])
-        self.assertEqual(merged(told(PUT), told("put one : z 3 3", "tell far one | 9", "tell null one.z 1 one.a -1"))[1], (0, 2))
+        self.assertEqual(merged(told(PUT), told("put one : b 1 1 / z 3 3", "tell far one | 9", "tell null one.b 1 one.z -1"))[1], (0, 2))
         for desk, story in ((one, 4), (other, 7)):
             self.assertEqual(len(desk.story), story)
 

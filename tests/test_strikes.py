@@ -9,7 +9,7 @@ from alleyes.errors import BadBook, BadNumber, TooMany
 from alleyes.facts import Far, Foot, Null, Upright
 from alleyes.papers import Denial, Paper
 from alleyes.standing import Possible, stand
-from alleyes.strikes import NoStrike, Strikes, strikes
+from alleyes.strikes import NoStrike, Strikes, choices, strikes
 from tests.chosen import bent_book, full_book, mirrored_book
 from tests.right_choice import part, right_strikes, subsets
 from tests.support import NO_INTEGERS, Checks, Odd
@@ -72,6 +72,10 @@ class StrikesTest(unittest.TestCase, Checks):
         self.assertEqual(strikes(IMPOSSIBLE["neverone"].book, 1).numbers, (0,))
         self.assertEqual([strikes(IMPOSSIBLE[word].book, 1).numbers for word in ("noscene", "noeye")], [(1,), (1,)])
         self.assertEqual(strikes(Book([ONE], [Far("one", -1)]), 2).numbers, (0,))
+
+    def test_choices(self):
+        self.assertEqual([choices(3, many) for many in range(4)], [[()], [(0,), (1,), (2,)], [(0, 1), (0, 2), (1, 2)], [(0, 1, 2)]])
+        self.assertEqual([choices(0, 0), choices(0, 1), choices(1, 2)], [[()], [], []])
 
     def test_most_facts(self):
         book = full_book([ONE], [Null(TILE), Upright(AB, AD), Foot("one", 3, 3), Far("one", 27)], 12)
