@@ -8,12 +8,12 @@ from alleyes.errors import BadFact, BadNumber, NotJoined, TooMany
 from alleyes.facts import Far, Lengths, Upright
 from alleyes.fitting import names_in, use_of
 from alleyes.flats import EyeRow, row_at
+from alleyes.highest import RANK_OF_ONE
 from alleyes.papers import Denial, Paper
 from alleyes.ratios import Ratio, added, are_ratios
 from alleyes.standing import check_standing, check_stands, heap_among
 from alleyes.uses import eye_rows_of
 
-RANK_OF_ONE_EYE = 3
 MOST_OFFERED = 12
 
 
@@ -66,7 +66,7 @@ def cheapest(standing, offered, prices):
     if against is not None:
         return against
     whole = offer.flat.narrowed(offer.rows)
-    if whole.rank < RANK_OF_ONE_EYE:
+    if whole.rank < RANK_OF_ONE:
         return Short(whole.rank, eyes_around(whole)[:2])
     numbers = _base_of(offer)
     chosen = offer.flat.narrowed([offer.rows[number] for number in numbers])

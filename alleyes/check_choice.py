@@ -1,15 +1,15 @@
 """Whether papers of clashes, of the cheapest facts, of strikes and of offers are right."""
 
-from alleyes.bases import RANK_OF_ONE_EYE, Cheapest, Short, offer_asked, rows_to
+from alleyes.bases import Cheapest, Short, offer_asked, rows_to
 from alleyes.books import check_book
 from alleyes.bowl import NoEye
-from alleyes.check_eyes import adds_up, shows_sees
+from alleyes.check_eyes import adds_up, is_eye_in, shows_sees
 from alleyes.check_standing import shows_paper
 from alleyes.check_words import shows_word
 from alleyes.checks import is_integer, is_within
 from alleyes.clashes import Against, Clash, part_of
-from alleyes.eyes import is_over
-from alleyes.flats import Flat, are_zero_at, check_flat, row_at
+from alleyes.flats import Flat, check_flat, row_at
+from alleyes.highest import RANK_OF_ONE
 from alleyes.offers import Offers, check_offered
 from alleyes.ratios import added, ratios_of
 from alleyes.standing import stand
@@ -105,25 +105,16 @@ def _is_short(whole, value):
     if not isinstance(value.eyes, tuple) or len(value.eyes) != 2:
         return False
     one, other = value.eyes
-    return _is_eye(whole, one) and _is_eye(whole, other) and ratios_of(one, 3) != ratios_of(other, 3)
-
-
-def _is_eye(flat, value):
-    """Whether any value is the triple of an eye of the flat."""
-    numbers = ratios_of(value, 3)
-    if numbers is None:
-        return False
-    a, b, s = numbers
-    return is_over(a, b, s) and are_zero_at(flat, numbers)
+    return is_eye_in(whole, one) and is_eye_in(whole, other) and ratios_of(one, 3) != ratios_of(other, 3)
 
 
 def _is_enough(offer, value):
     """Whether the price and the eye of a Cheapest are right, and its axes show that there is no other eye."""
     if added([offer.prices[number] for number in value.numbers]) != value.price:
         return False
-    if not _is_eye(offer.flat.narrowed(offer.rows), value.eye):
+    if not is_eye_in(offer.flat.narrowed(offer.rows), value.eye):
         return False
-    if not isinstance(value.axes, tuple) or len(value.axes) != RANK_OF_ONE_EYE:
+    if not isinstance(value.axes, tuple) or len(value.axes) != RANK_OF_ONE:
         return False
     a, b, s = ratios_of(value.eye, 3)
     chosen = _chosen_flat(offer, value.numbers)
@@ -150,7 +141,7 @@ def _has_none_to_spare(offer, value):
         return False
     for number, eye in zip(value.numbers, value.apart):
         rest = _chosen_flat(offer, [other for other in value.numbers if other != number])
-        if not _is_eye(rest, eye) or row_at(offer.rows[number], ratios_of(eye, 3)) == 0:
+        if not is_eye_in(rest, eye) or row_at(offer.rows[number], ratios_of(eye, 3)) == 0:
             return False
     return True
 

@@ -11,7 +11,7 @@ def shows_sees(flat, value):
     """Whether value is a right Sees or NoEye."""
     check_flat(flat)
     if type(value) is Sees:
-        return _is_eye(flat, value.parts)
+        return is_eye_in(flat, value.parts)
     return type(value) is NoEye and _is_bar(flat, value.parts)
 
 
@@ -32,8 +32,28 @@ def shows_highest(flat, value):
     check_flat(flat)
     if type(value) is Highest:
         a, b, s, weights = value.parts
-        return _is_eye(flat, (a, b, s)) and adds_up(flat, weights, circle_row(a, b, -height_over(a, b, s)))
+        return is_eye_in(flat, (a, b, s)) and adds_up(flat, weights, circle_row(a, b, -height_over(a, b, s)))
     return type(value) is Upward and _is_upward(flat, value.parts)
+
+
+def is_eye_in(flat, value):
+    """Whether any value is the triple of an eye of the flat."""
+    numbers = ratios_of(value, 3)
+    if numbers is None:
+        return False
+    a, b, s = numbers
+    return is_over(a, b, s) and are_zero_at(flat, numbers)
+
+
+def adds_up(flat, weights, row):
+    """Whether the lines, times weights, add up to the row."""
+    ratios = ratios_of(weights, len(flat.lines))
+    if ratios is None:
+        return False
+    total = EyeRow(0, 0, 0, 0)
+    for line, ratio in zip(flat.lines, ratios):
+        total = total + line * ratio
+    return total == row
 
 
 def _is_upward(flat, foot):
@@ -45,18 +65,9 @@ def _is_upward(flat, foot):
     return are_zero_at(flat, (a, b, Ratio(0)))
 
 
-def _is_eye(flat, value):
-    """Whether any value is the triple of an eye of the flat."""
-    numbers = ratios_of(value, 3)
-    if numbers is None:
-        return False
-    a, b, s = numbers
-    return is_over(a, b, s) and are_zero_at(flat, numbers)
-
-
 def _are_eyes(flat, row, values, signs):
     """Whether values are triples of eyes of the flat, at which the row has these signs."""
-    if not all([_is_eye(flat, value) for value in values]):
+    if not all([is_eye_in(flat, value) for value in values]):
         return False
     return [row_at(row, ratios_of(value, 3)).sign for value in values] == signs
 
@@ -71,14 +82,3 @@ def _is_bar(flat, value):
     if ratios_of((a, b, t), 3) is None or Ratio.of(t).sign < 0:
         return False
     return adds_up(flat, weights, circle_row(a, b, t))
-
-
-def adds_up(flat, weights, row):
-    """Whether the lines, times weights, add up to the row."""
-    ratios = ratios_of(weights, len(flat.lines))
-    if ratios is None:
-        return False
-    total = EyeRow(0, 0, 0, 0)
-    for line, ratio in zip(flat.lines, ratios):
-        total = total + line * ratio
-    return total == row

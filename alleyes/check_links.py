@@ -1,10 +1,12 @@
 """Whether maps between pictures, marks drawn in others, their eyes, and what is lacking are right."""
 
 from alleyes.check_drawn import shows_drawn_form
+from alleyes.check_eyes import is_eye_in
 from alleyes.checks import is_integer, is_within
 from alleyes.eyes import is_over
 from alleyes.flats import EyeRow, Flat, are_zero_at
-from alleyes.lacks import LEAST_RANK_OF_ONE, Lacks
+from alleyes.highest import RANK_OF_ONE
+from alleyes.lacks import Lacks
 from alleyes.links import Joined, form_in, map_between
 from alleyes.maps import map_back
 from alleyes.ratios import ratios_of
@@ -34,7 +36,7 @@ def shows_second(standing, name, value):
     # The look rows and the mate of an eye of this picture, in the home, go by the map back.
     back = map_back(lines)
     if type(value) is SecondEye:
-        return flat.rank == LEAST_RANK_OF_ONE and _is_eye_of(back, flat, value.parts)
+        return flat.rank == RANK_OF_ONE and _is_eye_of(back, flat, value.parts)
     if type(value) is not Several or not all([_is_eye_of(back, flat, eye) for eye in value.parts]):
         return False
     return ratios_of(value.one, 3) != ratios_of(value.other, 3)
@@ -44,7 +46,7 @@ def shows_lacks(standing, value):
     """Whether value is a right Lacks of one of the heaps."""
     check_standing(standing)
     check_stands(standing)
-    if type(value) is not Lacks or not is_within(value.number, 0, LEAST_RANK_OF_ONE):
+    if type(value) is not Lacks or not is_within(value.number, 0, RANK_OF_ONE):
         return False
     flats = [heap.flat for heap in standing.heaps if heap.home == value.home]
     return len(flats) == 1 and _are_leads(flats[0], value) and _are_eyes_apart(flats[0], value)
@@ -72,7 +74,7 @@ def _is_eye_of(back, flat, value):
 def _are_leads(flat, value):
     """Whether the leads are as many different lines as the rank is, and their left sides have it."""
     leads = value.leads
-    if not isinstance(leads, tuple) or len(leads) != LEAST_RANK_OF_ONE - value.number:
+    if not isinstance(leads, tuple) or len(leads) != RANK_OF_ONE - value.number:
         return False
     if not all([is_within(lead, 0, len(flat.lines) - 1) for lead in leads]):
         return False
@@ -83,8 +85,7 @@ def _are_eyes_apart(flat, value):
     """Whether the eyes are one more than what is lacking, whose differences from the first one have this rank."""
     if not isinstance(value.eyes, tuple) or len(value.eyes) != value.number + 1:
         return False
-    eyes = [ratios_of(eye, 3) for eye in value.eyes]
-    if None in eyes or not all([is_over(a, b, s) and are_zero_at(flat, (a, b, s)) for a, b, s in eyes]):
+    if not all([is_eye_in(flat, eye) for eye in value.eyes]):
         return False
-    first_a, first_b, first_s = eyes[0]
-    return Flat([EyeRow(a - first_a, b - first_b, s - first_s, 0) for a, b, s in eyes[1:]]).rank == value.number
+    (first_a, first_b, first_s), *others = [ratios_of(eye, 3) for eye in value.eyes]
+    return Flat([EyeRow(a - first_a, b - first_b, s - first_s, 0) for a, b, s in others]).rank == value.number

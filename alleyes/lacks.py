@@ -3,11 +3,11 @@
 from alleyes.bowl import eyes_around
 from alleyes.errors import BadFact, TooMany
 from alleyes.facts import are_facts
+from alleyes.highest import RANK_OF_ONE
 from alleyes.papers import Paper
 from alleyes.standing import check_standing, check_stands, stand
 from alleyes.tables import leads_of
 
-LEAST_RANK_OF_ONE = 3
 MOST_ASKED = 12
 
 
@@ -40,7 +40,7 @@ def what_lowers(standing, facts):
 
 def number_lacking(heap):
     """How much a heap lacks."""
-    return LEAST_RANK_OF_ONE - heap.flat.rank
+    return RANK_OF_ONE - heap.flat.rank
 
 
 def _lacks_of(heap):
