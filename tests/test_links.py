@@ -238,7 +238,7 @@ class LinksTest(unittest.TestCase, Checks):
         world, standing = linked_world(source, ("one", "two"))
         one, two = standing.book.pictures
         barred = stand(Book([one, two.mirrored()], standing.book.facts))
-        self.assertEqual(barred.paper.word, "neverone")
+        self.assertEqual([barred.paper.word, barred.paper.ties], ["neverone", tuple((f"one.{point}", f"two.{point}") for point in "abce")])
         self.raised(Impossible, {"word": "neverone"}, map_between, barred, "one", "two")
 
     def test_copies(self):
