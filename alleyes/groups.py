@@ -3,7 +3,7 @@
 from alleyes.cones import Cone
 from alleyes.flats import Flat
 from alleyes.forms import form_of
-from alleyes.maps import columns_of, content_of, mapped
+from alleyes.maps import SAME, columns_of, content_of, mapped
 from alleyes.ratios import Ratio
 from alleyes.sheet import direction_of, meet_of
 from alleyes.steps import RIGHT, Mark
@@ -37,6 +37,8 @@ def home_form_in(book, maps, value):
     """The home form of a step or a mark: three rows, of right and up three integers."""
     lines = maps[value.picture_name]
     form = form_of(book.picture_of(value.picture_name), value)
+    if lines == SAME:
+        return form
     if is_side(value):
         return columns_of(lines)[0 if value.side == RIGHT else 1]
     return mapped(lines, form)
