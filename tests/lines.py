@@ -30,10 +30,13 @@ def ask_lines(source, world, many):
         one, other, third = [f"{name}.{point}" for point in source.sample(world.seen[name], 3)]
         away = f"{source.choice(list(world.looks))}.{world.seen[name][0]}"
         found.append(source.choice([
-            lambda: f"show {name}", lambda: f"fact {source.randint(0, 9)}", lambda: f"try {random_fact(source, world)}", lambda: f"word {random_saying(source, world)}",
+            lambda: f"show {name}", lambda: f"fact {source.randint(0, 9)}", lambda: f"try {random_fact(source, world)}",
+            lambda: f"word {random_saying(source, world)}",
             lambda: f"way {any_step(source, world)}", lambda: f"together {any_step(source, world)} | {random_step(source, world, name)}",
-            lambda: f"together {random_step(source, world, name)} | {random_step(source, world, name)}", lambda: f"depth {one} {other}", lambda: f"depth {one} {away}",
-            lambda: f"drawn {Mark({one: 1, other: 1, third: -1})}", lambda: f"drawn {Mark.of_point(one)}", lambda: f"eye {name}", lambda: f"times {one} {other} {third}"])())
+            lambda: f"together {random_step(source, world, name)} | {random_step(source, world, name)}",
+            lambda: f"depth {one} {other}", lambda: f"depth {one} {away}",
+            lambda: f"drawn {Mark({one: 1, other: 1, third: -1})}", lambda: f"drawn {Mark.of_point(one)}", lambda: f"eye {name}",
+            lambda: f"times {one} {other} {third}"])())
     return found
 
 

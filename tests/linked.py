@@ -37,10 +37,6 @@ def inverse(lines):
     return [[rows[column][row] / size for column in range(3)] for row in range(3)]
 
 
-def taken(lines, triple):
-    return tuple(sum((Fraction(number) * value_of(other) for number, other in zip(line, triple)), Fraction(0)) for line in lines)
-
-
 def multiplied(one, other):
     return [[sum(one[row][k] * other[k][column] for k in range(3)) for column in range(3)] for row in range(3)]
 

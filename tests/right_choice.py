@@ -110,7 +110,8 @@ def right_base(told, rows, prices, value):
     if not isinstance(value.apart, tuple) or len(value.apart) != len(numbers):
         return False
     for number, eye in zip(numbers, value.apart):
-        if not is_eye(Flat([*told, *[rows[other] for other in numbers if other != number]]), eye) or at(rows[number], numbers_of(eye, 3)) == 0:
+        if not is_eye(Flat([*told, *[rows[other] for other in numbers if other != number]]), eye) or at(rows[number],
+                numbers_of(eye, 3)) == 0:
             return False
     return True
 
@@ -123,7 +124,8 @@ def right_offers(standing, offered, value):
         if not all(isinstance(pair, tuple) and len(pair) == 2 and is_whole(pair[0]) and 0 <= pair[0] < len(offered) for pair in words):
             return False
         numbers = [number for number, _ in words]
-        if numbers != sorted(numbers) or not all(type(paper) is kind and right_word(standing, offered[number], paper) for number, paper in words):
+        if numbers != sorted(numbers) or not all(type(paper) is kind and right_word(standing, offered[number], paper) for number,
+                                                 paper in words):
             return False
         told += numbers
     return sorted(told) == list(range(len(offered)))

@@ -6,7 +6,7 @@ from alleyes.facts import Along, InPlane, Lengths, Null, SameWay, Upright
 from alleyes.flats import product_row
 from alleyes.ratios import Ratio
 from alleyes.rows import Row
-from alleyes.sayings import AtLeast, Before, Blunt, Deeper, Longer, OnSide, Sharp, Shorter
+from alleyes.sayings import AtLeast, Before, Blunt, Deeper, OnSide, Sharp, Shorter
 from alleyes.sheet import cross, meet_of
 from alleyes.standing import home_form, together, way_of
 from alleyes.steps import Mark, Step

@@ -67,7 +67,8 @@ class BasesTest(unittest.TestCase, Checks):
         self.assertEqual([paper.word, paper.numbers, paper.price, paper.eye, paper.axes, paper.closes, paper.apart, bool(paper)],
                          ["cheapest", (0,), 1, (0, 0, 1), (), ((),), ((1, 2, 9),), True])
         short = Short(rank=1, eyes=[[0, 0, 1]])
-        self.assertEqual([short.word, short.rank, short.eyes, short.parts, bool(short)], ["short", 1, ((0, 0, 1),), (1, ((0, 0, 1),)), False])
+        self.assertEqual([short.word, short.rank, short.eyes, short.parts, bool(short)],
+                         ["short", 1, ((0, 0, 1),), (1, ((0, 0, 1),)), False])
         self.assertTrue(isinstance(paper, Paper) and isinstance(short, Denial))
 
     def test_offered_rows(self):
@@ -77,9 +78,11 @@ class BasesTest(unittest.TestCase, Checks):
             world, standing = linked_world(source, ("one",) if number & 1 else ("one", "two"))
             if number % 3 == 0:
                 standing = stand(Book(standing.book.pictures, [fact for fact in standing.book.facts if type(fact) is not Tie]))
-            facts = offered_facts(source, world, 4) + [Lengths(between("a", "b"), Step.right_of("one")), Lengths(Step.up_of("one"), Step.up_of("one"))]
+            facts = offered_facts(source, world, 4) + [Lengths(between("a", "b"), Step.right_of("one")),
+                                                       Lengths(Step.up_of("one"), Step.up_of("one"))]
             if "two" in world.looks:
-                facts += [Upright(between("a", "b"), between("a", "e", "two")), Lengths(between("a", "c", "two"), between("a", "c")), Upright(UP, Step.up_of("two"))]
+                facts += [Upright(between("a", "b"), between("a", "e", "two")), Lengths(between("a", "c", "two"), between("a", "c")),
+                          Upright(UP, Step.up_of("two"))]
             for fact in facts:
                 newer = stand(standing.book.with_fact(fact))
                 if newer.is_possible:
@@ -186,8 +189,10 @@ class BasesTest(unittest.TestCase, Checks):
             self.raised(Impossible, {"word": word}, offered_row, standing, far)
             self.raised(Impossible, {"word": word}, cheapest, standing, [far] * 13, [0] * 13)
         turned = Upright(UP, Step.up_of("two"))
-        for facts, one, other in (([Upright(between("a", "c", "two"), UP)], "two", "one"), ([far, turned], "one", "two"), ([turned], "one", "two"),
-                                  ([Far("two", 1), turned, far], "two", "one"), ([far, Upright(between("a", "d"), between("b", "c")), turned] * 5, "one", "two")):
+        for facts, one, other in (([Upright(between("a", "c", "two"), UP)], "two", "one"), ([far, turned], "one", "two"),
+                                  ([turned], "one", "two"),
+                                  ([Far("two", 1), turned, far], "two", "one"),
+                                  ([far, Upright(between("a", "d"), between("b", "c")), turned] * 5, "one", "two")):
             self.raised(NotJoined, {"one": one, "other": other}, cheapest, two, facts, [1] * len(facts))
         self.assertIsNone(offered_row(two, turned))
         waiting = Upright(between("d", "e"), UP)

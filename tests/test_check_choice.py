@@ -66,10 +66,14 @@ class CheckChoiceTest(unittest.TestCase, Checks):
         bar = part(BENT, [0, 1, 2]).paper
         spared = [part(BENT, [number]).paper for number in (2, 1)]
         small = part(BENT, [1, 2]).paper
-        for numbers, paper, told, wanted in (((1, 2), small, spared, True), ([1, 2], small, spared[::-1], False), ((2, 1), small, spared[::-1], False),
+        for numbers, paper, told, wanted in (((1, 2), small, spared, True), ([1, 2], small, spared[::-1], False),
+                                             ((2, 1), small, spared[::-1], False),
                                              ((0, 1, 2), bar, [part(BENT, [1, 2]).paper, *spared], False), ((1,), small, spared[:1], False),
-                                             ((1, 2), spared[0], spared, False), ((1, 2), small, spared[:1], False), ((1, 2), small, (), False),
-                                             ((0,), part(BENT, [0]).paper, [part(BENT, []).paper], False), ((True, 2), small, spared, False), ((1, Ratio(2)), small, spared, False), ((1, 3), small, spared, False),
+                                             ((1, 2), spared[0], spared, False), ((1, 2), small, spared[:1], False),
+                                             ((1, 2), small, (), False),
+                                             ((0,), part(BENT, [0]).paper, [part(BENT, []).paper], False),
+                                             ((True, 2), small, spared, False), ((1, Ratio(2)), small, spared, False),
+                                             ((1, 3), small, spared, False),
                                              ((1, 2), bar, spared, True), ((1, 2), None, spared, False), ((), Possible([], []), (), False),
                                              ((1, 1, 2), small, [small, small, small], False), ((1, 2), small, [small, small], False)):
             self.assertIs(right_clash(BENT, Clash(numbers, paper, told)), wanted, numbers)
@@ -96,13 +100,15 @@ class CheckChoiceTest(unittest.TestCase, Checks):
 
     def test_against(self):
         source, taken = random.Random(2), 0
-        flats = [Flat([EyeRow(0, 0, 1, -18), EyeRow(0, 1, 0, -3), EyeRow(0, 1, 0, 0)]), Flat([EyeRow(1, 0, 0, 0), EyeRow(0, 0, 1, 4), EyeRow(0, 0, 1, 0)]),
+        flats = [Flat([EyeRow(0, 0, 1, -18), EyeRow(0, 1, 0, -3), EyeRow(0, 1, 0, 0)]),
+                 Flat([EyeRow(1, 0, 0, 0), EyeRow(0, 0, 1, 4), EyeRow(0, 0, 1, 0)]),
                  Flat([EyeRow(1, 0, 0, 0), EyeRow(0, 1, 0, 0), EyeRow(0, 0, 1, -4), EyeRow(1, 1, 1, -5)])]
         for flat in flats:
             found = fewest_lines(flat)
             self.assertIs(shows_against(flat=flat, value=found), True)
             papers = [found, Against(range(len(flat)), None), *[fewest_lines(other) for other in flats]]
-            taken += self.check(lambda value: shows_against(flat, value), lambda value: right_against((), flat.lines, value), papers, source, 120)
+            taken += self.check(lambda value: shows_against(flat, value), lambda value: right_against((), flat.lines, value), papers,
+                                source, 120)
         self.assertGreater(taken, 3)
         # Any indices that leave no eye are right, not the fewest alone.
         longer = Against((0, 1, 2), NoEye((0, Ratio(-1, 3), Ratio(1, 3)), None, None, None))
@@ -115,13 +121,16 @@ class CheckChoiceTest(unittest.TestCase, Checks):
     def test_cheapest(self):
         source, taken = random.Random(3), {}
         half = stand(Book([ONE], [Null(TILE), Far("one", 27), Far("one", 27)]))
-        for standing, offered, prices in ((PLAIN, OFFERS, [1, 2, 4, 2]), (PLAIN, OFFERS, [1, 2, 4, 9]), (PLAIN, OFFERS[:2], [0, 0]), (half, OFFERS, [1, 2, 1, 0]),
-                                          (PLAIN, OFFERS * 2, [0, 1, 1, 1, 1, 0, 1, Ratio(1, 2)]), (half, [Far("one", 26), *OFFERS], [0] * 5),
+        for standing, offered, prices in ((PLAIN, OFFERS, [1, 2, 4, 2]), (PLAIN, OFFERS, [1, 2, 4, 9]), (PLAIN, OFFERS[:2], [0, 0]),
+                                          (half, OFFERS, [1, 2, 1, 0]),
+                                          (PLAIN, OFFERS * 2, [0, 1, 1, 1, 1, 0, 1, Ratio(1, 2)]),
+                                          (half, [Far("one", 26), *OFFERS], [0] * 5),
                                           (PLAIN, [Far("one", 26), Upright(AB, AD), Far("one", 27)], [0, 0, 0])):
             found = cheapest(standing, offered, prices)
             self.assertIs(shows_cheapest(standing=standing, offered=offered, prices=prices, value=found), True)
             papers = [found, *[cheapest(PLAIN, OFFERS, told) for told in ([1, 2, 4, 2], [1, 2, 4, 9])], cheapest(PLAIN, OFFERS[:2], [0, 0])]
-            many = self.check(lambda value: shows_cheapest(standing, offered, prices, value), lambda value: right_cheapest(standing, offered, prices, value),
+            many = self.check(lambda value: shows_cheapest(standing, offered, prices, value),
+                              lambda value: right_cheapest(standing, offered, prices, value),
                               papers, source, 200)
             taken[found.word] = taken.get(found.word, 0) + many
         self.assertTrue(all(taken[word] > 3 for word in ("cheapest", "short", "against")), taken)
@@ -130,22 +139,30 @@ class CheckChoiceTest(unittest.TestCase, Checks):
         found = cheapest(PLAIN, OFFERS, [1, 2, 4, 2])
         parts = dict(zip(("numbers", "price", "eye", "axes", "closes", "apart"), found.parts))
         sixth = Ratio(1, 6)
-        for name, value, wanted in (("numbers", (0, 3, 1), False), ("numbers", (0, 1), False), ("price", 5, True), ("price", 4, False), ("price", True, False),
-                                    ("price", 5.0, False), ("eye", (3, 3, 27), True), ("eye", (3, 3, 28), False), ("eye", (3, 3), False), ("eye", None, False),
-                                    ("axes", found.axes[:2], False), ("axes", found.axes[::-1], False), ("axes", (*found.axes, (0, 0, 1)), False),
+        for name, value, wanted in (("numbers", (0, 3, 1), False), ("numbers", (0, 1), False), ("price", 5, True), ("price", 4, False),
+                                    ("price", True, False),
+                                    ("price", 5.0, False), ("eye", (3, 3, 27), True), ("eye", (3, 3, 28), False),
+                                    ("eye", (3, 3), False), ("eye", None, False),
+                                    ("axes", found.axes[:2], False), ("axes", found.axes[::-1], False),
+                                    ("axes", (*found.axes, (0, 0, 1)), False),
                                     ("closes", ((-1, -sixth, -sixth),), True), ("closes", (), False), ("closes", ((-1, -sixth, 0),), False),
-                                    ("apart", ((2, 4, 27), (3, 0, 27), (3, Ratio(19, 6), 28)), True), ("apart", ((2, 4, 27), (3, 0, 27)), False),
-                                    ("apart", ((2, 4, 27), (3, 3, 27), (3, Ratio(19, 6), 28)), False), ("apart", ((3, 0, 27), (2, 4, 27), (3, Ratio(19, 6), 28)), False),
+                                    ("apart", ((2, 4, 27), (3, 0, 27), (3, Ratio(19, 6), 28)), True),
+                                    ("apart", ((2, 4, 27), (3, 0, 27)), False),
+                                    ("apart", ((2, 4, 27), (3, 3, 27), (3, Ratio(19, 6), 28)), False),
+                                    ("apart", ((3, 0, 27), (2, 4, 27), (3, Ratio(19, 6), 28)), False),
                                     ("apart", ((1, 5, 27), (3, 1, 27), (3, Ratio(10, 3), 29)), True)):
             bent = Cheapest(**{**parts, name: value})
             self.assertIs(shows_cheapest(PLAIN, OFFERS, [1, 2, 4, 2], bent), wanted, (name, value))
             self.assertIs(right_cheapest(PLAIN, OFFERS, [1, 2, 4, 2], bent), wanted, (name, value))
         # A paper of other prices is right if it is as cheap, and its closes need nothing dearer.
-        self.assertIs(shows_cheapest(PLAIN, OFFERS, [2, 2, 1, 2], Cheapest(*[5 if name == "price" else part for name, part in parts.items()])), False)
+        self.assertIs(shows_cheapest(PLAIN, OFFERS, [2, 2, 1, 2], Cheapest(*[5 if name == "price" else part for name,
+                part in parts.items()])), False)
         self.assertIs(shows_cheapest(PLAIN, OFFERS, [1, 2, 2, 2], found), True)
         self.assertIs(shows_cheapest(PLAIN, OFFERS, [1, 2, Ratio(3, 2), 2], found), False)
-        for eyes, wanted in ((((3, 3, 27), (3, 4, 33)), True), (((3, 3, 27), (3, 3, 27)), False), (((3, 3, 27), (3, 3, Ratio(27))), False), (((3, 3, 27),), False),
-                             (((3, 3, 27), (3, 7, 51)), False), (((3, 3, 27), (2, 3, 27)), False), (None, False), (((3, 3, 27), (3, 4, 33), (3, 2, 21)), False)):
+        for eyes, wanted in ((((3, 3, 27), (3, 4, 33)), True), (((3, 3, 27), (3, 3, 27)), False),
+                             (((3, 3, 27), (3, 3, Ratio(27))), False), (((3, 3, 27),), False),
+                             (((3, 3, 27), (3, 7, 51)), False), (((3, 3, 27), (2, 3, 27)), False), (None, False),
+                             (((3, 3, 27), (3, 4, 33), (3, 2, 21)), False)):
             self.assertIs(shows_cheapest(PLAIN, OFFERS[:2], [0, 0], Short(2, eyes)), wanted, eyes)
         for rank in (1, 3, True, Ratio(2), "2", None):
             self.assertIs(shows_cheapest(PLAIN, OFFERS[:2], [0, 0], Short(rank, ((3, 3, 27), (3, 4, 33)))), False)
@@ -157,7 +174,8 @@ class CheckChoiceTest(unittest.TestCase, Checks):
                 found = strikes(book, most)
                 self.assertIs(shows_strikes(book=book, most=most, value=found), True)
                 papers = [found, *[strikes(TWICE, other) for other in range(3)], *[strikes(book, other) for other in range(3)]]
-                taken += self.check(lambda value: shows_strikes(book, most, value), lambda value: right_strikes(book, most, value), papers, source, 5)
+                taken += self.check(lambda value: shows_strikes(book, most, value), lambda value: right_strikes(book, most, value),
+                                    papers, source, 5)
         self.assertGreater(taken, 3)
 
     def test_strikes_as_told(self):
@@ -167,14 +185,20 @@ class CheckChoiceTest(unittest.TestCase, Checks):
                                     (2, Strikes((1, 3), left[1, 3], pairs), True), (1, Strikes((0, 2), left[0, 2], pairs[:2]), False),
                                     (2, Strikes((0, 2), left[0, 2], pairs[:1]), False), (2, Strikes((0, 2), left[0, 2], pairs[2:]), False),
                                     (2, Strikes((0, 2), left[0, 2], ()), False), (2, Strikes((2, 0), left[0, 2], pairs[:2]), False),
-                                    (2, Strikes((0, 2), left[1, 3], pairs[:2]), right_strikes(TWICE, 2, Strikes((0, 2), left[1, 3], pairs[:2]))),
+                                    (2, Strikes((0, 2), left[1, 3], pairs[:2]),
+                                     right_strikes(TWICE, 2, Strikes((0, 2), left[1, 3], pairs[:2]))),
                                     (2, Strikes((0, 1), left[0, 1], pairs[:2]), False), (2, Strikes((1,), left[1,], pairs[:1]), False),
                                     (2, Strikes((0, 2), left[0, 2], [pairs[0], ((3, 2), pairs[1][1])]), False),
-                                    (2, Strikes((0, 2), left[0, 2], [pairs[0], ((0, 2), left[1, 3])]), False), (2, Strikes((0, 2), left[0, 2], [pairs[0], pairs[1][0]]), False),
-                                    (1, NoStrike(1, pairs[:2]), True), (1, NoStrike(True, pairs[:2]), False), (1, NoStrike(Ratio(1), pairs[:2]), False),
-                                    (1, NoStrike(0, pairs[:2]), False), (1, NoStrike(2, pairs[:2]), False), (0, NoStrike(0, pairs[:1]), True),
-                                    (0, NoStrike(0, ()), False), (1, NoStrike(1, pairs[2:]), False), (2, NoStrike(2, pairs), False), (0, NoStrike(0, pairs[3:]), True),
-                                    (0, NoStrike(False, pairs[:1]), False), (1, NoStrike(1, [pairs[0], pairs[0]]), False), (1, NoStrike(1, [pairs[0], ((2,), part(TWICE, [2]).paper)]), False), (1, NoStrike(1, None), False)):
+                                    (2, Strikes((0, 2), left[0, 2], [pairs[0], ((0, 2), left[1, 3])]), False),
+                                    (2, Strikes((0, 2), left[0, 2], [pairs[0], pairs[1][0]]), False),
+                                    (1, NoStrike(1, pairs[:2]), True), (1, NoStrike(True, pairs[:2]), False),
+                                    (1, NoStrike(Ratio(1), pairs[:2]), False),
+                                    (1, NoStrike(0, pairs[:2]), False), (1, NoStrike(2, pairs[:2]), False),
+                                    (0, NoStrike(0, pairs[:1]), True),
+                                    (0, NoStrike(0, ()), False), (1, NoStrike(1, pairs[2:]), False), (2, NoStrike(2, pairs), False),
+                                    (0, NoStrike(0, pairs[3:]), True),
+                                    (0, NoStrike(False, pairs[:1]), False), (1, NoStrike(1, [pairs[0], pairs[0]]), False),
+                                    (1, NoStrike(1, [pairs[0], ((2,), part(TWICE, [2]).paper)]), False), (1, NoStrike(1, None), False)):
             self.assertIs(shows_strikes(TWICE, most, value), wanted, value.parts)
             self.assertIs(right_strikes(TWICE, most, value), wanted, value.parts)
         one = Book([ONE], [Far("one", -1)])
@@ -186,20 +210,26 @@ class CheckChoiceTest(unittest.TestCase, Checks):
 
     def test_offers(self):
         source, taken = random.Random(5), 0
-        for standing, offered in ((FOOTED, SIDES), (PLAIN, SIDES), (FOOTED, SIDES[:1]), (FOOTED, [Null(TILE), *SIDES, SIDES[0]]), (PLAIN, [])):
+        for standing, offered in ((FOOTED, SIDES), (PLAIN, SIDES), (FOOTED, SIDES[:1]), (FOOTED, [Null(TILE), *SIDES, SIDES[0]]),
+                                  (PLAIN, [])):
             found = sorted_offers(standing, offered)
             self.assertIs(shows_offers(standing=standing, offered=offered, value=found), True)
             papers = [found, sorted_offers(FOOTED, SIDES), sorted_offers(PLAIN, SIDES)]
-            taken += self.check(lambda value: shows_offers(standing, offered, value), lambda value: right_offers(standing, offered, value), papers, source, 150)
+            taken += self.check(lambda value: shows_offers(standing, offered, value),
+                                lambda value: right_offers(standing, offered, value), papers, source, 150)
         self.assertGreater(taken, 3)
         self.assertIs(shows_offers(PLAIN, [], Offers([], (), [], ())), True)
 
     def test_offers_as_told(self):
         follows, bars, opens, waits = sorted_offers(FOOTED, SIDES).parts
-        for parts in (((), bars, opens, waits), (follows + follows, bars, opens, waits), (bars, follows, opens, waits), (follows, bars, waits, opens),
-                      (((True, follows[0][1]),), bars, opens, waits), (((0, Always(())),), bars, opens, waits), (((0, Never(follows[0][1].papers)),), bars, opens, waits),
-                      (((4, follows[0][1]),), bars, opens, waits), ((follows[0][1],), bars, opens, waits), (None, bars, opens, waits), (((Ratio(0), follows[0][1]),), bars, opens, waits),
-                      (follows, bars + opens, (), waits), (follows, bars, waits + opens, ()), (follows, bars, (), waits + opens), ((), follows + bars, opens, waits),
+        for parts in (((), bars, opens, waits), (follows + follows, bars, opens, waits), (bars, follows, opens, waits),
+                      (follows, bars, waits, opens),
+                      (((True, follows[0][1]),), bars, opens, waits), (((0, Always(())),), bars, opens, waits),
+                      (((0, Never(follows[0][1].papers)),), bars, opens, waits),
+                      (((4, follows[0][1]),), bars, opens, waits), ((follows[0][1],), bars, opens, waits), (None, bars, opens, waits),
+                      (((Ratio(0), follows[0][1]),), bars, opens, waits),
+                      (follows, bars + opens, (), waits), (follows, bars, waits + opens, ()), (follows, bars, (), waits + opens),
+                      ((), follows + bars, opens, waits),
                       (follows + ((3, opens[0][1]),), bars, (), waits), (((-4, follows[0][1]),), bars, opens, waits)):
             self.assertIs(shows_offers(FOOTED, SIDES, Offers(*parts)), False)
             self.assertIs(right_offers(FOOTED, SIDES, Offers(*parts)), False)

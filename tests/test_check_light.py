@@ -36,16 +36,19 @@ class CheckLightTest(unittest.TestCase, Checks):
         self.assertIs(shows_shadow(LOOSE, *NAMES, Waits([post, mate])), True)
         self.assertIs(shows_shadow(standing=LOOSE, top="one.u", foot="one.d", lit_top="one.t", lit_foot="one.a", lit_end="one.b",
                                    value=Waits((post, mate))), True)
-        for value in (*NO_PAPERS, str(mark), mark.terms, Mark.of_point("one.a"), Mark({"one.a": -1, "one.b": 2}), Waits([post, mate]), Waits(()),
+        for value in (*NO_PAPERS, str(mark), mark.terms, Mark.of_point("one.a"), Mark({"one.a": -1, "one.b": 2}), Waits([post, mate]),
+                      Waits(()),
                       Step({"one.a": -1, "one.b": 1})):
             self.assertIs(shows_shadow(HERE, *NAMES, value), False)
-        for value in (*NO_PAPERS, mark, Waits([mate, post]), Waits([post]), Waits([mate]), Waits([post, mate, post]), Waits([str(post), str(mate)]),
+        for value in (*NO_PAPERS, mark, Waits([mate, post]), Waits([post]), Waits([mate]), Waits([post, mate, post]),
+                      Waits([str(post), str(mate)]),
                       Always([post, mate]), Waits(()), Waits(None)):
             self.assertIs(shows_shadow(LOOSE, *NAMES, value), False)
 
     def test_times(self):
         source, taken = random.Random(1), 0
-        for standing, labels in ((LIT, ("one.a", "one.b", "one.e")), (LIT, ("one.b", "one.a", "one.e")), (FLAT, ("one.b", "one.b", "one.a"))):
+        for standing, labels in ((LIT, ("one.a", "one.b", "one.e")), (LIT, ("one.b", "one.a", "one.e")),
+                                 (FLAT, ("one.b", "one.b", "one.a"))):
             paper = lamp_times(standing, *labels)
             self.assertIs(shows_times(standing, *labels, paper), True)
             cone = standing.heaps[0].cone
@@ -63,7 +66,8 @@ class CheckLightTest(unittest.TestCase, Checks):
     def test_slid_and_mirrored(self):
         source, taken, words = random.Random(2), 0, {}
         cone = HERE.heaps[0].cone
-        for mark, ray in ((Mark.of_point("one.t"), UP), (Mark.of_point("one.u"), between("t", "b")), (Mark.of_point("one.c"), between("t", "b")),
+        for mark, ray in ((Mark.of_point("one.t"), UP), (Mark.of_point("one.u"), between("t", "b")),
+                          (Mark.of_point("one.c"), between("t", "b")),
                           (Mark({"one.t": 3, "one.b": -2}), UP), (Mark({"one.u": -1, "one.a": 2}), between("t", "a"))):
             for form_of, place_of, shows in ((slid, slid_place, shows_slid), (mirrored, mirrored_place, shows_mirrored)):
                 form, paper = form_of(HERE, mark, *GROUND, ray), place_of(HERE, mark, *GROUND, ray)
@@ -81,8 +85,10 @@ class CheckLightTest(unittest.TestCase, Checks):
         self.assertGreater(taken, 3)
         self.assertGreater(len(words), 1)
         one, other = GROUND[1:]
-        self.assertIs(shows_slid(standing=HERE, mark=Mark.of_point("one.t"), base="one.a", one=one, other=other, ray=UP, value=Odd()), False)
-        self.assertIs(shows_mirrored(standing=HERE, mark=Mark.of_point("one.t"), base="one.a", one=one, other=other, upright=UP, value=1), False)
+        self.assertIs(shows_slid(standing=HERE, mark=Mark.of_point("one.t"), base="one.a", one=one, other=other, ray=UP, value=Odd()),
+                      False)
+        self.assertIs(shows_mirrored(standing=HERE, mark=Mark.of_point("one.t"), base="one.a", one=one, other=other, upright=UP,
+                                     value=1), False)
 
     def test_errors(self):
         two = stand(Book([CORNER, AGAIN], EDGES))

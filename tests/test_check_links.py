@@ -33,10 +33,14 @@ class CheckLinksTest(unittest.TestCase, Checks):
         self.assertIs(shows_link(JOINED, "one", "two", map_between(JOINED, "one", "two")), True)
         self.assertIs(shows_link(standing=JOINED, one="one", other="two", value=Joined([list(line) for line in lines])), True)
         self.assertIs(shows_link(JOINED, "two", "two", Joined(SAME)), True)
-        for value in (*NO_PAPERS, Joined(SAME), Joined(tuple(tuple(2 * number for number in line) for line in lines)), Joined(lines[::-1]), Joined(()),
-                      Joined(((True, 0, 0), (0, 1, 0), (1, 0, 1))), Joined(((1, False, 0), (0, 1, 0), (1, 0, 1))), Joined(None), Joined((1, 2, 3)),
-                      Joined(((1.0, 0, 0), (0, 1, 0), (1, 0, 1))), Joined(((Ratio(1), 0, 0), (0, 1, 0), (1, 0, 1))), Joined(lines + lines[:1]),
-                      Joined(lines[:2]), Joined(((1, 0, 0, 0), (0, 1, 0), (1, 0, 1))), Paper("joined", lines), Apart("few"), Apart("plane"), lines):
+        for value in (*NO_PAPERS, Joined(SAME), Joined(tuple(tuple(2 * number for number in line) for line in lines)),
+                      Joined(lines[::-1]), Joined(()),
+                      Joined(((True, 0, 0), (0, 1, 0), (1, 0, 1))), Joined(((1, False, 0), (0, 1, 0), (1, 0, 1))), Joined(None),
+                      Joined((1, 2, 3)),
+                      Joined(((1.0, 0, 0), (0, 1, 0), (1, 0, 1))), Joined(((Ratio(1), 0, 0), (0, 1, 0), (1, 0, 1))),
+                      Joined(lines + lines[:1]),
+                      Joined(lines[:2]), Joined(((1, 0, 0, 0), (0, 1, 0), (1, 0, 1))), Paper("joined", lines), Apart("few"),
+                      Apart("plane"), lines):
             self.assertIs(shows_link(JOINED, "one", "two", value), False)
         for facts, why in ((EDGES + TIES[1:], "few"), (TIES, "waits")):
             standing = stand(Book([CORNER, AGAIN], facts))
@@ -60,7 +64,8 @@ class CheckLinksTest(unittest.TestCase, Checks):
         source, taken, words = random.Random(2), 0, {}
         _, standing = half_seen(source)
         cone = standing.heaps[0].cone
-        for mark in (Mark.of_point("one.g"), Mark.of_point("two.d"), Mark({"one.a": 2, "one.b": -1}), Mark({"one.a": 30, "one.b": -29}), Mark({"two.a": -40, "two.c": 41})):
+        for mark in (Mark.of_point("one.g"), Mark.of_point("two.d"), Mark({"one.a": 2, "one.b": -1}),
+                     Mark({"one.a": 30, "one.b": -29}), Mark({"two.a": -40, "two.c": 41})):
             for name in ("one", "two"):
                 form, paper = form_in(standing, mark, name), drawn_in(standing, mark, name)
                 words[paper.word] = True
@@ -95,18 +100,24 @@ class CheckLinksTest(unittest.TestCase, Checks):
         self.assertTrue({("SecondEye", True), ("SecondEye", False), ("Several", True), ("Several", False)} <= set(seen))
 
     def test_seconds_as_told(self):
-        for value, wanted in ((SecondEye(1, 2, 9), True), (SecondEye(Ratio(1), 2, Ratio(9)), True), (SecondEye(True, 2, 9), False), (SecondEye(1, 2, 8), False),
-                              (Several((1, 2, 9), (1, 2, 9)), False), (Several((1, 2, 9), (1, 2, 10)), False), (Paper("secondeye", 1, 2, 9), False),
+        for value, wanted in ((SecondEye(1, 2, 9), True), (SecondEye(Ratio(1), 2, Ratio(9)), True), (SecondEye(True, 2, 9), False),
+                              (SecondEye(1, 2, 8), False),
+                              (Several((1, 2, 9), (1, 2, 9)), False), (Several((1, 2, 9), (1, 2, 10)), False),
+                              (Paper("secondeye", 1, 2, 9), False),
                               (SecondEye((1, 2, 9), None, None), False), (SecondEye("1", 2, 9), False)):
             self.assertIs(shows_second(stand(Book([CORNER, AGAIN], [Foot("two", 1, 2), Far("two", 9)])), "two", value), wanted)
         eye = (Ratio(1, 2), 0, 1)
-        for value, wanted in ((SecondEye(*eye), False), (Several(eye, (0, 0, 1)), True), (Several(eye, eye), False), (Several((0, 0, 1), [0, 0, Ratio(1)]), False),
-                              (Several((0, 0, 1), (0, 0, 2)), True), (Several((0, 0, 1), (1, 0, 1)), False), (Several((0, 0, 1), (0, False, 2)), False),
-                              (Several((0, 0, 0), (0, 0, 2)), False), (Several((0, 0, 1), (0, 0, 2, 3)), False), (Several(None, None), False)):
+        for value, wanted in ((SecondEye(*eye), False), (Several(eye, (0, 0, 1)), True), (Several(eye, eye), False),
+                              (Several((0, 0, 1), [0, 0, Ratio(1)]), False),
+                              (Several((0, 0, 1), (0, 0, 2)), True), (Several((0, 0, 1), (1, 0, 1)), False),
+                              (Several((0, 0, 1), (0, False, 2)), False),
+                              (Several((0, 0, 0), (0, 0, 2)), False), (Several((0, 0, 1), (0, 0, 2, 3)), False),
+                              (Several(None, None), False)):
             self.assertIs(shows_second(LOOSELY, "one", value), wanted)
         # At an eye at which a look row is not 0 there is no mate.
         for value, wanted in ((Several((1, 0, 2), (Ratio(3, 2), 0, 3)), True), (Several((1, 0, 2), (Ratio(3, 2), 0, 4)), False),
-                              (Several((1, 0, 2), (Ratio(3, 2), 1, 5)), False), (Several((2, 0, 4), (1, 0, 2)), False), (Several((2, 0, 5), (1, 0, 2)), False)):
+                              (Several((1, 0, 2), (Ratio(3, 2), 1, 5)), False), (Several((2, 0, 4), (1, 0, 2)), False),
+                              (Several((2, 0, 5), (1, 0, 2)), False)):
             self.assertIs(shows_second(JOINED, "two", value), right_second(JOINED, "two", value))
             self.assertIs(shows_second(JOINED, "two", value), wanted, value.parts)
 
@@ -120,7 +131,8 @@ class CheckLinksTest(unittest.TestCase, Checks):
                 self.assertIs(shows_lacks(standing, paper), True)
                 others = [lack for here in (JOINED, LOOSELY, NARROWED, fixed) for lack in lacking(here)]
                 bends = [Lacks(*parts_bent(paper.parts, source)) for _ in range(250)]
-                bends += [Lacks(paper.home, paper.number, tuple(source.sample(range(len(standing.heap_of(paper.home).flat)), 3 - paper.number)), paper.eyes)
+                bends += [Lacks(paper.home, paper.number, tuple(source.sample(range(len(standing.heap_of(paper.home).flat)),
+                        3 - paper.number)), paper.eyes)
                           for _ in range(20)]
                 for value in (*others, *bends, *NO_PAPERS):
                     wanted = right_lacks(standing, value)
@@ -131,19 +143,28 @@ class CheckLinksTest(unittest.TestCase, Checks):
     def test_lacks_as_told(self):
         fixed = stand(Book([CORNER], [Foot("one", 1, 2), Far("one", 9), Foot("one", 1, 2)]))
         eye = (1, 2, 9)
-        for parts, wanted in ((("one", 0, (0, 1, 2), (eye,)), True), (("one", 0, (2, 4, 3), (eye,)), True), (("one", 0, (0, 3, 2), (eye,)), False),
-                              (("one", 0, (0, 0, 2), (eye,)), False), (("one", 0, (0, 1), (eye,)), False), (("one", 0, (0, 1, 2, 3), (eye,)), False),
-                              (("one", 0, (0, 1, -3), (eye,)), False), (("one", 0, (0, 1, 5), (eye,)), False), (("one", 0, (0, True, 2), (eye,)), False),
-                              (("one", False, (0, 1, 2), (eye,)), False), (("one", Ratio(0), (0, 1, 2), (eye,)), False), (("one", 0, (0, 1, Ratio(2)), (eye,)), False),
-                              (("two", 0, (0, 1, 2), (eye,)), False), ((None, 0, (0, 1, 2), (eye,)), False), (("one", 0, (0, 1, 2), (eye, eye)), False),
-                              (("one", 0, (0, 1, 2), ()), False), (("one", 0, (0, 1, 2), eye), False), (("one", 1, (0, 1), (eye, (1, 2, 8))), False),
-                              (("one", 0, None, (eye,)), False), (("one", 0, (0, 1, 2), ((1, 2, 10),)), False), (("one", -1, (0, 1, 2, 3), ()), False)):
+        for parts, wanted in ((("one", 0, (0, 1, 2), (eye,)), True), (("one", 0, (2, 4, 3), (eye,)), True),
+                              (("one", 0, (0, 3, 2), (eye,)), False),
+                              (("one", 0, (0, 0, 2), (eye,)), False), (("one", 0, (0, 1), (eye,)), False),
+                              (("one", 0, (0, 1, 2, 3), (eye,)), False),
+                              (("one", 0, (0, 1, -3), (eye,)), False), (("one", 0, (0, 1, 5), (eye,)), False),
+                              (("one", 0, (0, True, 2), (eye,)), False),
+                              (("one", False, (0, 1, 2), (eye,)), False), (("one", Ratio(0), (0, 1, 2), (eye,)), False),
+                              (("one", 0, (0, 1, Ratio(2)), (eye,)), False),
+                              (("two", 0, (0, 1, 2), (eye,)), False), ((None, 0, (0, 1, 2), (eye,)), False),
+                              (("one", 0, (0, 1, 2), (eye, eye)), False),
+                              (("one", 0, (0, 1, 2), ()), False), (("one", 0, (0, 1, 2), eye), False),
+                              (("one", 1, (0, 1), (eye, (1, 2, 8))), False),
+                              (("one", 0, None, (eye,)), False), (("one", 0, (0, 1, 2), ((1, 2, 10),)), False),
+                              (("one", -1, (0, 1, 2, 3), ()), False)):
             self.assertIs(shows_lacks(fixed, Lacks(*parts)), wanted, parts)
         bare = stand(Book([CORNER]))
         eyes = ((0, 0, 1), (0, 0, 2), (1, 0, 5), (0, 1, 5))
-        for told, wanted in ((eyes, True), (eyes[::-1], True), (eyes[:3] + ((2, 0, 9),), False), (eyes[:3], False), (eyes + ((1, 1, 9),), False),
+        for told, wanted in ((eyes, True), (eyes[::-1], True), (eyes[:3] + ((2, 0, 9),), False), (eyes[:3], False),
+                             (eyes + ((1, 1, 9),), False),
                              (((1, 1, 9), (1, 2, 9), (1, 1, 10), (1, 0, 9)), False), (((1, 1, 9), (2, 1, 9), (1, 1, 10), (0, 1, 9)), False),
-                             (((1, 1, 9), (2, 1, 9), (1, 2, 9), (0, 1, 9)), False), (eyes[:3] + (eyes[0],), False), (eyes[:3] + ((0, 1, 1),), False), (eyes[:3] + ((0, 2, 4),), False)):
+                             (((1, 1, 9), (2, 1, 9), (1, 2, 9), (0, 1, 9)), False), (eyes[:3] + (eyes[0],), False),
+                             (eyes[:3] + ((0, 1, 1),), False), (eyes[:3] + ((0, 2, 4),), False)):
             self.assertIs(shows_lacks(bare, Lacks("one", 3, (), told)), wanted)
 
     def test_errors(self):

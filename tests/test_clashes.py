@@ -64,7 +64,8 @@ class ClashesTest(unittest.TestCase, Checks):
         """A clash is one of all those that there are."""
         source, words = random.Random(1), {}
         for number in range(16):
-            book = mirrored_book(source) if number % 5 == 0 else bent_book(source, ("one",) if number & 1 else ("one", "two"), source.randint(1, 3), 8)
+            book = mirrored_book(source) if number % 5 == 0 else bent_book(source, ("one",) if number & 1 else ("one", "two"),
+                    source.randint(1, 3), 8)
             book = Book(book.pictures, book.facts[:9])
             found = clash(book=book)
             if stand(book).is_possible:
@@ -87,7 +88,8 @@ class ClashesTest(unittest.TestCase, Checks):
             found = clash(standing.book)
             self.assertEqual(found.paper.word, word)
             self.assertTrue(right_clash(standing.book, found))
-        self.assertEqual([clash(IMPOSSIBLE["noscene"].book).numbers, clash(IMPOSSIBLE["neverone"].book).numbers], [(1,), (0, 1, 2, 3, 4, 5, 6, 7)])
+        self.assertEqual([clash(IMPOSSIBLE["noscene"].book).numbers, clash(IMPOSSIBLE["neverone"].book).numbers],
+                         [(1,), (0, 1, 2, 3, 4, 5, 6, 7)])
         alone = Book([ONE], [SameWay(AB, AD), Far("one", -1)])
         self.assertEqual([clash(alone).numbers, len(clash(alone).spared)], [(1,), 1])
 
@@ -119,7 +121,8 @@ class ClashesTest(unittest.TestCase, Checks):
                 # Lines that hold at some eye, and one more.
                 a, b = source.randint(-2, 2), source.randint(-2, 2)
                 s = a * a + b * b + source.randint(0, 1)
-                lines = [EyeRow(p, q, r, -(p * a + q * b + r * s)) for p, q, r in [[source.randint(-2, 2) for _ in range(3)] for _ in range(6)]]
+                lines = [EyeRow(p, q, r, -(p * a + q * b + r * s)) for p, q,
+                         r in [[source.randint(-2, 2) for _ in range(3)] for _ in range(6)]]
                 lines += [EyeRow(*[source.randint(-2, 2) for _ in range(4)])]
             flat = Flat(lines)
             found = fewest_lines(flat=flat)
@@ -145,7 +148,8 @@ class ClashesTest(unittest.TestCase, Checks):
             self.assertIsNone(fewest_lines(Flat(chosen)))
 
     def test_one_line(self):
-        for line, wanted in ((EyeRow(0, 0, 0, 0), None), (EyeRow(0, 0, 0, 1), (0,)), (circle_row(1, 2, 0), (0,)), (circle_row(1, 2, Ratio(-1, 9)), None)):
+        for line, wanted in ((EyeRow(0, 0, 0, 0), None), (EyeRow(0, 0, 0, 1), (0,)), (circle_row(1, 2, 0), (0,)),
+                             (circle_row(1, 2, Ratio(-1, 9)), None)):
             found = fewest_lines(Flat([line]))
             self.assertEqual(found and found.numbers or (found.numbers if found is not None else None), wanted)
         self.assertIsNone(fewest_lines(Flat([])))

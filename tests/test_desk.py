@@ -65,7 +65,8 @@ class DeskTest(unittest.TestCase, Checks):
     def test_empty(self):
         desk = Desk()
         self.assertEqual(state(desk), ((), (), (), None, 0, []))
-        self.assertEqual([desk.told(), desk.tried(), desk("names"), desk("facts"), desk == Desk(), bool(Desk() != Desk())], [(), (), "-", "0", True, False])
+        self.assertEqual([desk.told(), desk.tried(), desk("names"), desk("facts"), desk == Desk(), bool(Desk() != Desk())],
+                         [(), (), "-", "0", True, False])
         self.raised(Nothing, {}, desk.undo)
         self.raised(Nothing, {}, desk.redo)
         self.refused(desk, 0, Nothing, {}, "book")
@@ -111,7 +112,8 @@ class DeskTest(unittest.TestCase, Checks):
     def test_undo_and_redo(self):
         desk = tiled()
         desk.told("tell far one | 20", "strike 0")
-        self.assertEqual([desk.undo(), desk.facts, desk.undo(), desk.facts], ["strike 0", (Null(TILE), Far("one", 20)), "tell far one | 20", (Null(TILE),)])
+        self.assertEqual([desk.undo(), desk.facts, desk.undo(), desk.facts],
+                         ["strike 0", (Null(TILE), Far("one", 20)), "tell far one | 20", (Null(TILE),)])
         # Lines that ask, are refused or tried leave what can be done again.
         desk.told("facts", "book")
         desk("lacking")
@@ -119,13 +121,15 @@ class DeskTest(unittest.TestCase, Checks):
         self.refused(desk, 1, NoFact, {"number": 9}, "tell far one | 5", "strike 9")
         self.raised(NoFact, {"number": 9}, desk, "strike 9")
         self.assertEqual([laters(desk), desk.redo(), laters(desk)], [["tell far one | 20", "strike 0"], "tell far one | 20", ["strike 0"]])
-        self.assertEqual([desk.redo(), desk.facts, desk.story], ["strike 0", (Far("one", 20),), (PUT, TELL, "tell far one | 20", "strike 0")])
+        self.assertEqual([desk.redo(), desk.facts, desk.story], ["strike 0", (Far("one", 20),),
+                (PUT, TELL, "tell far one | 20", "strike 0")])
         self.raised(Nothing, {}, desk.redo)
         desk.undo()
         # A deed done takes away what could be done again; a refused one does not.
         desk("tell far one | 20")
         self.raised(Nothing, {}, desk.redo)
-        self.assertEqual([desk.undo(), desk.undo(), desk.undo(), desk.undo(), state(desk)], ["tell far one | 20", "tell far one | 20", TELL, PUT, state(Desk())])
+        self.assertEqual([desk.undo(), desk.undo(), desk.undo(), desk.undo(), state(desk)],
+                         ["tell far one | 20", "tell far one | 20", TELL, PUT, state(Desk())])
         self.raised(Nothing, {}, desk.undo)
         self.assertEqual(laters(desk), [PUT, TELL, "tell far one | 20", "tell far one | 20"])
         desk.told("names")
@@ -148,7 +152,8 @@ class DeskTest(unittest.TestCase, Checks):
         twin("tell far one | 9")
         self.assertEqual([desk.facts, laters(desk), desk.story, len(twin), twin == desk], [(), [TELL], (PUT,), 2, False])
         desk("drop one")
-        self.assertEqual([twin("names"), twin.undo(), twin.undo(), twin.undo(), desk.story], ["one", "tell far one | 9", TELL, PUT, (PUT, "drop one")])
+        self.assertEqual([twin("names"), twin.undo(), twin.undo(), twin.undo(), desk.story],
+                         ["one", "tell far one | 9", TELL, PUT, (PUT, "drop one")])
 
     def test_equality(self):
         one, other = tiled(), Desk()
@@ -170,8 +175,10 @@ class DeskTest(unittest.TestCase, Checks):
         source, seen = random.Random(1), {}
         for number in range(5):
             world, standing = linked_world(source, ("one", "two") if number & 1 else ("one",))
-            facts = source.sample(standing.book.facts, min(len(standing.book.facts), 8)) + [random_fact(source, world) for _ in range(3)] + [false_fact(source, world)]
-            lines = deed_lines(world, facts) + ask_lines(source, world, 14) + ["strike 3", "strike 0 99", "drop two", "fact 2", "put one : a 0 0", "tell far six | 1"]
+            facts = source.sample(standing.book.facts, min(len(standing.book.facts), 8)) + [random_fact(source,
+                    world) for _ in range(3)] + [false_fact(source, world)]
+            lines = deed_lines(world, facts) + ask_lines(source, world, 14) + ["strike 3", "strike 0 99", "drop two", "fact 2",
+                    "put one : a 0 0", "tell far six | 1"]
             for _ in range(2):
                 source.shuffle(lines)
                 desk, pictures, kept, story = Desk(), (), (), []

@@ -36,14 +36,18 @@ class AsksTest(unittest.TestCase, Checks):
     def test_answers(self):
         self.assertEqual(told(HERE, "names", "show one", "fact 2", "facts", "book", "used", "waiting", "lacking", "clash", "eye one"),
                          ["one", str(ONE), "lengths one.a -1 one.b 1 | right one | 1 | 1", "3", "possible", "0 1", "2", "2", "-", "open"])
-        self.assertEqual(told(JOINED, "names", "lacking", "eye two", "together one.a 1 one.o -1 | two.a 1 two.o -1", "together right one | up one", "together right one | up two",
-                              "depth one.a two.a", "way right two", "word sharp right one | right two"), ["one two", "1", "open", "1", "1", "waits", "1/2", "1 0 -1", "both"])
+        self.assertEqual(told(JOINED, "names", "lacking", "eye two", "together one.a 1 one.o -1 | two.a 1 two.o -1",
+                              "together right one | up one", "together right one | up two",
+                              "depth one.a two.a", "way right two", "word sharp right one | right two"),
+                              ["one two", "1", "open", "1", "1", "waits", "1/2", "1 0 -1", "both"])
         self.assertEqual(told(NARROWED, "eye one", "eye two", "lacking", "waiting"), ["-1/2 0 1", "1/2 0 1", "0", "-"])
         self.assertEqual(told(LIT, "times one.a one.b one.e", "times one.b one.a one.e"), ["3", "1/3"])
         self.assertEqual(answer_of(pictures=[ONE], facts=[], line="used"), "-")
         bare = stand(Book([ONE]))
-        self.assertEqual(told(bare, "depth one.a one.b", "depth one.a one.a", "drawn one.a -1 one.b 2", "drawn one.a 1/2 one.b 1/2", "way one.a -1 one.b 1", "way up one",
-                              "try null one.a 1 one.b -1 one.c 1 one.d -1", "try far one | -1", "word along one.a -1 one.b 1 | one.c -1 one.d 1"),
+        self.assertEqual(told(bare, "depth one.a one.b", "depth one.a one.a", "drawn one.a -1 one.b 2", "drawn one.a 1/2 one.b 1/2",
+                              "way one.a -1 one.b 1", "way up one",
+                              "try null one.a 1 one.b -1 one.c 1 one.d -1", "try far one | -1",
+                              "word along one.a -1 one.b 1 | one.c -1 one.d 1"),
                          ["0 -", "1", "sometimes", "spread", "waits", "0 1 0", "possible", "noeye", "both"])
 
     def test_impossible_books(self):
@@ -51,10 +55,12 @@ class AsksTest(unittest.TestCase, Checks):
             pictures, facts = standing.book.pictures, standing.book.facts
             self.assertEqual(answer_of(pictures, facts, "book"), word)
             self.assertEqual(answer_of(pictures, facts, "try far one | 9"), word)
-            for line in ("used", "waiting", "lacking", "word deeper one.a | one.b", "way up one", "together up one | up one", "depth one.a one.b", "drawn one.a 1", "eye one",
+            for line in ("used", "waiting", "lacking", "word deeper one.a | one.b", "way up one", "together up one | up one",
+                         "depth one.a one.b", "drawn one.a 1", "eye one",
                          "times one.a one.b one.c"):
                 self.raised(Impossible, {"word": word}, answer_of, pictures, facts, line)
-        self.assertEqual(told(stand(BENT), "clash", "names", "facts", "fact 1", "show one"), ["1 2", "one", "3", "foot one | 3 | 3", str(ONE)])
+        self.assertEqual(told(stand(BENT), "clash", "names", "facts", "fact 1", "show one"),
+                         ["1 2", "one", "3", "foot one | 3 | 3", str(ONE)])
 
     def test_beside_functions(self):
         """Each answer is that of the functions; what they raise is raised."""
@@ -92,13 +98,20 @@ class AsksTest(unittest.TestCase, Checks):
 
     def test_errors(self):
         pictures = (CORNER, AGAIN)
-        for line, error, fields in (("show three", NoPicture, {"name": "three"}), ("eye three", NoPicture, {"name": "three"}), ("fact 4", NoFact, {"number": 4}),
-                                    ("try far three | 1", NoPicture, {"name": "three"}), ("try null one.y 1 one.z -1", NoLabel, {"name": "one.y"}),
-                                    ("word deeper one.z | one.y", NoLabel, {"name": "one.z"}), ("way one.y 1 one.z -1", NoLabel, {"name": "one.y"}), ("way up six", NoPicture, {"name": "six"}),
-                                    ("together up one | up six", NoPicture, {"name": "six"}), ("depth one.z six.a", NoLabel, {"name": "one.z"}), ("depth one.a six.a", NoLabel, {"name": "six.a"}),
-                                    ("depth one.a two.b", NotJoined, {"one": "one", "other": "two"}), ("depth two.b one.a", NotJoined, {"one": "two", "other": "one"}),
-                                    ("drawn one.z 1", NoLabel, {"name": "one.z"}), ("times one.a one.b two.c", TwoPictures, {"one": "one", "other": "two"}),
-                                    ("times one.a one.z two.c", NoLabel, {"name": "one.z"}), ("times one.a one.b one.b", BadStep, {"part": "sum"}),
+        for line, error, fields in (("show three", NoPicture, {"name": "three"}), ("eye three", NoPicture, {"name": "three"}),
+                                    ("fact 4", NoFact, {"number": 4}),
+                                    ("try far three | 1", NoPicture, {"name": "three"}),
+                                    ("try null one.y 1 one.z -1", NoLabel, {"name": "one.y"}),
+                                    ("word deeper one.z | one.y", NoLabel, {"name": "one.z"}),
+                                    ("way one.y 1 one.z -1", NoLabel, {"name": "one.y"}), ("way up six", NoPicture, {"name": "six"}),
+                                    ("together up one | up six", NoPicture, {"name": "six"}),
+                                    ("depth one.z six.a", NoLabel, {"name": "one.z"}), ("depth one.a six.a", NoLabel, {"name": "six.a"}),
+                                    ("depth one.a two.b", NotJoined, {"one": "one", "other": "two"}),
+                                    ("depth two.b one.a", NotJoined, {"one": "two", "other": "one"}),
+                                    ("drawn one.z 1", NoLabel, {"name": "one.z"}),
+                                    ("times one.a one.b two.c", TwoPictures, {"one": "one", "other": "two"}),
+                                    ("times one.a one.z two.c", NoLabel, {"name": "one.z"}),
+                                    ("times one.a one.b one.b", BadStep, {"part": "sum"}),
                                     ("times one.a one.b one.o", Unsettled, {"part": "end"})):
             self.raised(error, fields, answer_of, pictures, EDGES, line)
         barred = IMPOSSIBLE["neverone"].book

@@ -50,8 +50,10 @@ class DeedsTest(unittest.TestCase, Checks):
         self.assertEqual(changed((ONE,), [Far("one", 1)] * 59, "tell far one | 1")[2], "59")
 
     def test_light(self):
-        for text, many in (("sun one.a one.b", 0), ("sun one.a one.b / one.d one.c / one.b one.c", 2), ("lamp right one | up one | one.a | one.b one.c", 3),
-                           ("water one.a | right one | up one | up one | one.b one.c", 2), ("mirror one.a | right one | up one | one.b one.c / one.a one.d", 5)):
+        for text, many in (("sun one.a one.b", 0), ("sun one.a one.b / one.d one.c / one.b one.c", 2),
+                           ("lamp right one | up one | one.a | one.b one.c", 3),
+                           ("water one.a | right one | up one | up one | one.b one.c", 2),
+                           ("mirror one.a | right one | up one | one.b one.c / one.a one.d", 5)):
             light = Light.read(text)
             self.assertEqual(len(light.facts), many)
             self.assertEqual(changed((ONE,), FACTS, f"light {text}"), ((ONE,), (*FACTS, *light.facts), str(3 + many)))
@@ -61,7 +63,8 @@ class DeedsTest(unittest.TestCase, Checks):
 
     def test_strike(self):
         facts = (*FACTS, Upright(AB, AD), Far("one", 3))
-        for line, kept in (("strike 0", facts[1:]), ("strike 4", facts[:4]), ("strike 3 1", (facts[0], facts[2], facts[4])), ("strike 4 0 3 1 2", ())):
+        for line, kept in (("strike 0", facts[1:]), ("strike 4", facts[:4]), ("strike 3 1", (facts[0], facts[2], facts[4])),
+                           ("strike 4 0 3 1 2", ())):
             self.assertEqual(changed((ONE,), facts, line), ((ONE,), kept, str(len(kept))))
         for line, number in (("strike 5", 5), ("strike 0 0 7 9", 7), ("strike 100", 100)):
             self.raised(NoFact, {"number": number}, changed, (ONE,), facts, line)
@@ -70,7 +73,8 @@ class DeedsTest(unittest.TestCase, Checks):
 
     def test_drop(self):
         """Goes with each fact that names a label of the picture, its right or up, or itself."""
-        facts = (*TIES, Far("two", 9), Far("one", 9), InPlane(AB, Step.right_of("two"), Step.up_of("one")), SameWay(AB, Step.up_of("one")), Foot("two", 1, 1))
+        facts = (*TIES, Far("two", 9), Far("one", 9), InPlane(AB, Step.right_of("two"), Step.up_of("one")),
+                 SameWay(AB, Step.up_of("one")), Foot("two", 1, 1))
         self.assertEqual(changed((CORNER, AGAIN), facts, "drop two"), ((CORNER,), (facts[5], facts[7]), "2"))
         self.assertEqual(changed([CORNER, AGAIN], facts, "drop one"), ((AGAIN,), (facts[4], facts[8]), "2"))
         self.assertEqual(changed((ONE,), FACTS, "drop one"), ((), (), "0"))
@@ -83,7 +87,8 @@ class DeedsTest(unittest.TestCase, Checks):
             for name in world.looks:
                 pictures, kept, answer = changed(standing.book.pictures, facts, f"drop {name}")
                 self.assertEqual(kept, tuple(fact for fact in facts if name not in names_of(fact)))
-                self.assertEqual([tuple(picture.name for picture in pictures), answer], [tuple(other for other in world.looks if other != name), str(len(kept))])
+                self.assertEqual([tuple(picture.name for picture in pictures), answer],
+                                 [tuple(other for other in world.looks if other != name), str(len(kept))])
                 self.assertEqual(Book(pictures, kept).facts, kept)
 
     def test_order_of_errors(self):

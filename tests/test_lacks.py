@@ -30,7 +30,8 @@ class LacksTest(unittest.TestCase, Checks):
 
     def test_paper(self):
         lacks = Lacks(home="one", number=2, leads=[3], eyes=[[0, 0, 1]])
-        self.assertEqual([lacks.word, lacks.home, lacks.number, lacks.leads, lacks.eyes, bool(lacks)], ["lacks", "one", 2, (3,), ((0, 0, 1),), True])
+        self.assertEqual([lacks.word, lacks.home, lacks.number, lacks.leads, lacks.eyes, bool(lacks)],
+                         ["lacks", "one", 2, (3,), ((0, 0, 1),), True])
         self.assertIsInstance(lacks, Paper)
 
     def test_lacking(self):
@@ -92,7 +93,8 @@ class LacksTest(unittest.TestCase, Checks):
                 elif len(book.facts) in newer.waiting:
                     wanted = ("waits", 0)
                 else:
-                    sums = [sum(3 - rank([four(line)[:3] for line in heap.flat.lines]) for heap in here.heaps) for here in (standing, newer)]
+                    sums = [sum(3 - rank([four(line)[:3] for line in heap.flat.lines]) for heap in here.heaps) for here in (standing,
+                            newer)]
                     wanted = ("used", sums[0] - sums[1])
                 self.assertEqual(pair, wanted)
                 seen[pair] = True

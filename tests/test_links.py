@@ -19,7 +19,7 @@ from alleyes.seconds import is_new_look, is_one_look
 from alleyes.shapes import tile_facts
 from alleyes.standing import home_form, stand, way_of
 from alleyes.steps import Mark, Step
-from tests.linked import factor_of, form_in_world, half_seen, inverse, linked_world, taken, true_map
+from tests.linked import factor_of, form_in_world, half_seen, linked_world, true_map
 from tests.painting import direction, minus, plus, random_step, times
 from tests.support import NO_NAMES, Checks, Odd, total_of, value_of
 from tests.test_drawn import BARE
@@ -38,7 +38,8 @@ def scene_of_heap(standing, name):
 
 class LinksTest(unittest.TestCase, Checks):
     def test_example(self):
-        self.assertEqual([map_between(JOINED, "two", "one").lines, map_between(JOINED, "one", "two").lines, map_between(LOOSELY, "one", "two").why],
+        self.assertEqual([map_between(JOINED, "two", "one").lines, map_between(JOINED, "one", "two").lines,
+                          map_between(LOOSELY, "one", "two").why],
                          [((1, 0, 0), (0, 1, 0), (-1, 0, 1)), ((1, 0, 0), (0, 1, 0), (1, 0, 1)), "few"])
         found = drawn_in(JOINED, Mark.of_point("one.d"), "two")
         self.assertEqual([direction_in(JOINED, OA, "two"), direction_in(JOINED, Step.right_of("two"), "one"), found.word, found.x, found.y],
@@ -131,9 +132,6 @@ class LinksTest(unittest.TestCase, Checks):
             for value in (Mark.of_point(f"{name}.b"), Mark({f"{name}.a": 3, f"{name}.c": -2}), between("a", "d", name)):
                 self.assertEqual(form_in(here, value, name), form_of(picture, value))
         self.assertEqual(form_in(JOINED, between("o", "a", "two"), "one"), home_form(JOINED, between("o", "a", "two")))
-        lines = standing.heaps[0].maps["two"]
-        self.assertEqual(taken(inverse(lines), (1, 0, 0)), tuple(row.ratio_of("one.a") and value_of(row.ratio_of("one.a"))
-                         for row in drawn_parts(standing, lines)))
 
     def test_drawn_in(self):
         """A point of one picture is drawn in the other one where it is seen there, tied or not."""
@@ -162,7 +160,8 @@ class LinksTest(unittest.TestCase, Checks):
         for facts, why in (([], "few"), ([a, b, c], "few"), ([a, b, c, d], "waits"), (ties, "waits"), ([*tiles, a, b, o], "few"),
                            ([*tiles, a, b, d, o], "plane"), ([*tiles, a, b, c, o], "waits"), ([*tiles, *ties], "plane"),
                            ([tiles[0], a, b, d, o], "waits"), ([*EDGES, a, b, c], "few"), ([*EDGES[:3], *ties], "plane"),
-                           ([*EDGES[:2], *ties], "waits"), ([*EDGES[:2], EDGES[3], *ties], "plane"), ([EDGES[0], EDGES[3], *ties], "waits"), ([*EDGES, a, b, d, o], "plane")):
+                           ([*EDGES[:2], *ties], "waits"), ([*EDGES[:2], EDGES[3], *ties], "plane"),
+                           ([EDGES[0], EDGES[3], *ties], "waits"), ([*EDGES, a, b, d, o], "plane")):
             standing = stand(Book([CORNER, AGAIN], facts))
             for one, other in (("one", "two"), ("two", "one")):
                 self.assertEqual(map_between(standing, one, other), Apart(why), [str(fact) for fact in facts])
@@ -190,7 +189,8 @@ class LinksTest(unittest.TestCase, Checks):
         self.assertEqual(map_between(stand(book), "one", "three").word, "joined")
         few = [fact for fact in facts if not (fact.word == "tie" and fact.one in ("two.b", "two.c", "two.d", "two.e"))]
         apart = stand(Book(standing.book.pictures, few))
-        self.assertEqual([map_between(apart, "one", "three").why, map_between(apart, "two", "three").why, map_between(apart, "one", "two").word],
+        self.assertEqual([map_between(apart, "one", "three").why, map_between(apart, "two", "three").why,
+                          map_between(apart, "one", "two").word],
                          ["few", "few", "joined"])
 
     def test_depths_of_tied_points(self):
@@ -245,10 +245,13 @@ class LinksTest(unittest.TestCase, Checks):
         """A picture moved, enlarged, turned by a quarter: the map between carries its sheet."""
         copies = {"moved": AGAIN.moved(3, Ratio(-1, 2)), "enlarged": AGAIN.enlarged(3), "turned": AGAIN.turned()}
         for word, copy in copies.items():
-            again = stand(Book([AGAIN, copy.renamed("six")], [*EDGES[2:], *[six_named(fact) for fact in EDGES[2:]], *[Tie(f"two.{point}", f"six.{point}") for point in "abco"]]))
-            wanted = {"moved": ((2, 0, 6), (0, 2, -1), (0, 0, 2)), "enlarged": ((3, 0, 0), (0, 3, 0), (0, 0, 1)), "turned": ((0, -1, 0), (1, 0, 0), (0, 0, 1))}[word]
+            again = stand(Book([AGAIN, copy.renamed("six")], [*EDGES[2:], *[six_named(fact) for fact in EDGES[2:]],
+                    *[Tie(f"two.{point}", f"six.{point}") for point in "abco"]]))
+            wanted = {"moved": ((2, 0, 6), (0, 2, -1), (0, 0, 2)), "enlarged": ((3, 0, 0), (0, 3, 0), (0, 0, 1)),
+                      "turned": ((0, -1, 0), (1, 0, 0), (0, 0, 1))}[word]
             self.assertEqual(map_between(again, "two", "six").lines, wanted)
-            self.assertEqual([is_one_look(again, "two", "six"), is_one_look(again, "six", "two"), is_new_look(again, "six")], [True, True, False])
+            self.assertEqual([is_one_look(again, "two", "six"), is_one_look(again, "six", "two"), is_new_look(again, "six")],
+                             [True, True, False])
 
     def test_order_of_errors(self):
         lost, gone = Step.between("one.x", "one.w"), Mark({"one.z": 2, "one.y": -1})
@@ -277,7 +280,8 @@ class LinksTest(unittest.TestCase, Checks):
                 for name in standing.book.names:
                     self.raised(Impossible, {"word": word}, call, standing, value, name)
             self.raised(Impossible, {"word": word}, map_between, standing, "one", "one")
-        for call, value in ((direction_in, between("a", "b")), (direction_in, Step.up_of("one")), (form_in, between("a", "b")), (form_in, mark), (drawn_in, mark)):
+        for call, value in ((direction_in, between("a", "b")), (direction_in, Step.up_of("one")), (form_in, between("a", "b")),
+                            (form_in, mark), (drawn_in, mark)):
             self.raised(NotJoined, {"one": "one", "other": "two"}, call, LOOSELY, value, "two")
         self.raised(NotJoined, {"one": "two", "other": "one"}, drawn_in, LOOSELY, Mark.of_point("two.a"), "one")
         self.bad(Unsettled, "step", direction_in, stand(Book([CORNER])), OA, "one")
@@ -296,12 +300,6 @@ class LinksTest(unittest.TestCase, Checks):
 def six_named(fact):
     """A fact of the picture two told of the picture six."""
     return Fact.read(str(fact).replace("two", "six"))
-
-
-def drawn_parts(standing, lines):
-    """What the inverse itself of a map makes of the form (a, 0, 0), as rows, by a step of the home along right."""
-    from alleyes.links import _taken_back
-    return _taken_back(lines, (Row({"one.a": 1}), Row({}), Row({})))
 
 
 if __name__ == "__main__":

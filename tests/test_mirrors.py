@@ -11,6 +11,7 @@ from alleyes.mirrors import mirrored, mirrored_place, slid, slid_place
 from alleyes.rows import Row
 from alleyes.standing import stand, way_of
 from alleyes.steps import Mark, Step
+from tests.linked import factor_of, true_map
 from tests.painting import box_nulls, cube_world, det, dot, minus, times, true_ties
 from tests.support import NO_LABELS, Checks, Odd, value_of
 from tests.test_standing import AGAIN, CORNER, EDGES, IMPOSSIBLE, JOINED, between
@@ -86,12 +87,11 @@ class MirrorsTest(unittest.TestCase, Checks):
     def depths_of(self, world, standing, name):
         """The painted depths of the picture, and those of others of its heap as its scale tells them."""
         from tests.painting import ratio_of
-        from tests.test_standing import stretch_of
         heap = standing.heap_of(name)
-        scale = stretch_of(world, heap.home, name, heap.maps[name])
+        scale = factor_of(heap.maps[name], true_map(world, name, heap.home))
         depths = {}
         for other in heap.names:
-            own = stretch_of(world, heap.home, other, heap.maps[other])
+            own = factor_of(heap.maps[other], true_map(world, other, heap.home))
             depths.update({label: ratio_of(depth * scale / own) for label, depth in world.depths(other).items()})
         return depths
 

@@ -30,7 +30,8 @@ def random_saying(source, world):
     name = source.choice(list(world.looks))
     one, other = source.sample(world.seen[name], 2)
     labels = [f"{name}.{one}", f"{name}.{other}"]
-    return source.choice([lambda: Deeper(*labels), lambda: Before(Mark({labels[0]: 3, labels[1]: -2})), lambda: Sharp(any_step(source, world), any_step(source, world)),
+    return source.choice([lambda: Deeper(*labels), lambda: Before(Mark({labels[0]: 3, labels[1]: -2})),
+                          lambda: Sharp(any_step(source, world), any_step(source, world)),
                           lambda: Longer(random_step(source, world, name), random_step(source, world, name), source.randint(1, 4), 2),
                           lambda: Upright(any_step(source, world), any_step(source, world)),
                           lambda: AtLeast(f"{name}.a", *labels, Ratio(1, 2), any_step(source, world), any_step(source, world))])()
@@ -44,7 +45,8 @@ class OffersTest(unittest.TestCase, Checks):
 
     def test_papers(self):
         paper, after = Offers(follows=[[1, None]], bars=[], opens=(), waits=[]), Next(number=1, counts=[None, 2])
-        self.assertEqual([paper.word, paper.follows, paper.bars, paper.opens, paper.waits, bool(paper)], ["offers", ((1, None),), (), (), (), True])
+        self.assertEqual([paper.word, paper.follows, paper.bars, paper.opens, paper.waits, bool(paper)],
+                         ["offers", ((1, None),), (), (), (), True])
         self.assertEqual([after.word, after.number, after.counts, bool(after)], ["next", 1, (None, 2), True])
         self.assertTrue(isinstance(paper, Paper) and isinstance(after, Paper))
 
@@ -54,11 +56,13 @@ class OffersTest(unittest.TestCase, Checks):
             world, standing = linked_world(source, ("one",) if number & 1 else ("one", "two"))
             if number % 3 == 0:
                 standing = stand(Book(standing.book.pictures, [fact for fact in standing.book.facts if type(fact) is not Tie]))
-            offered = [fact for fact in [false_fact(source, world) if at & 1 else random_fact(source, world) for at in range(12)] if type(fact) not in (Foot, Far, Tie)]
+            offered = [fact for fact in [false_fact(source, world) if at & 1 else random_fact(source,
+                    world) for at in range(12)] if type(fact) not in (Foot, Far, Tie)]
             found = sorted_offers(standing=standing, offered=offered)
             self.assertIs(type(found), Offers)
             for kind, words in zip((Always, Never, Both, Waits), found.parts):
-                self.assertEqual(words, tuple((at, word_of(standing, fact)) for at, fact in enumerate(offered) if type(word_of(standing, fact)) is kind))
+                self.assertEqual(words, tuple((at, word_of(standing, fact)) for at,
+                                              fact in enumerate(offered) if type(word_of(standing, fact)) is kind))
                 seen[kind] = seen.get(kind, 0) + len(words)
             self.assertTrue(right_offers(standing, offered, found))
             self.assertIs(shows_offers(standing, offered, found), True)
@@ -118,8 +122,10 @@ class OffersTest(unittest.TestCase, Checks):
             self.raised(NoLabel, {"name": "one.w"}, next_measure, standing, [lost, away], [deeper])
             self.raised(NoPicture, {"name": "six"}, next_measure, standing, [away, lost] * 8, [deeper] * 13)
             self.raised(NoLabel, {"name": "one.z"}, next_measure, standing, [Far("one", 1)] * 13, [Deeper("one.a", "one.b"), deeper])
-            self.raised(NoPicture, {"name": "six"}, next_measure, standing, [Far("one", 1)] * 13, [InPlane(AB, AD, Step.up_of("six")), deeper])
-        self.raised(Twice, {"name": "one.b"}, next_measure, JOINED, [Far("one", 1), Tie("one.b", "two.c")] * 7, [Deeper("one.a", "one.b")] * 13)
+            self.raised(NoPicture, {"name": "six"}, next_measure, standing, [Far("one", 1)] * 13,
+                        [InPlane(AB, AD, Step.up_of("six")), deeper])
+        self.raised(Twice, {"name": "one.b"}, next_measure, JOINED, [Far("one", 1), Tie("one.b", "two.c")] * 7,
+                    [Deeper("one.a", "one.b")] * 13)
         full = stand(Book([ONE], [Null(TILE)] * 60))
         self.raised(TooMany, {"what": "facts", "most": 60}, next_measure, full, [Far("one", 1)], [])
         for word, standing in IMPOSSIBLE.items():

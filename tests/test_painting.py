@@ -44,7 +44,8 @@ def views_of(world):
 
 class PaintingTest(unittest.TestCase, Checks):
     def test_example(self):
-        self.assertEqual([painted(SLAB, LEVEL, "one") == ONE, str(scene_of(SLAB, LEVEL, "one")), str(eye_of(LEVEL)), LEVEL.numbers_of((3, -3, 9))],
+        self.assertEqual([painted(SLAB, LEVEL, "one") == ONE, str(scene_of(SLAB, LEVEL, "one")), str(eye_of(LEVEL)),
+                          LEVEL.numbers_of((3, -3, 9))],
                          [True, "one.a 1 one.b 1 one.c 3 one.d 3", "3 3 27", (3, -3, 9)])
 
     def test_painted(self):
@@ -77,9 +78,11 @@ class PaintingTest(unittest.TestCase, Checks):
             (a, b), distance = view.foot, view.distance
             u, v, m = Ratio(source.randint(-9, 9), 2), source.randint(-3, 3), Ratio(source.randint(1, 9), source.randint(1, 4))
             moved = view.framed((a + u, b + v), distance)
-            self.assertEqual([painted(solid, moved, "one"), scene_of(solid, moved, "one"), eye_of(moved)], [picture.moved(u, v), scene, eye_of(view).moved(u, v)])
+            self.assertEqual([painted(solid, moved, "one"), scene_of(solid, moved, "one"), eye_of(moved)],
+                             [picture.moved(u, v), scene, eye_of(view).moved(u, v)])
             larger = view.framed((a * m, b * m), distance * m)
-            self.assertEqual([painted(solid, larger, "one"), scene_of(solid, larger, "one") * m, eye_of(larger)], [picture.enlarged(m), scene, eye_of(view).enlarged(m)])
+            self.assertEqual([painted(solid, larger, "one"), scene_of(solid, larger, "one") * m, eye_of(larger)],
+                             [picture.enlarged(m), scene, eye_of(view).enlarged(m)])
             by = ratios([Fraction(source.randint(-9, 9), 3) for _ in range(3)])
             self.assertEqual(painted(solid.moved(by), view.moved(by), "one"), picture)
             self.assertEqual(painted(solid.enlarged(view.place, m), view, "one"), picture)
@@ -88,7 +91,8 @@ class PaintingTest(unittest.TestCase, Checks):
             self.assertEqual(painted(solid.portion(names), view, "one"), picture.portion(names))
 
     def test_behind(self):
-        for spots, name in (({"a": (0, 0, 1), "b": (0, 0, 0), "c": (0, 1, -1)}, "b"), ({"a": (0, 0, 1), "b": (0, 1, 1), "c": (0, 1, -1)}, "c"), ({"a": (5, 5, 0)}, "a")):
+        for spots, name in (({"a": (0, 0, 1), "b": (0, 0, 0), "c": (0, 1, -1)}, "b"),
+                            ({"a": (0, 0, 1), "b": (0, 1, 1), "c": (0, 1, -1)}, "c"), ({"a": (5, 5, 0)}, "a")):
             for call in (painted, scene_of):
                 self.raised(Behind, {"name": name}, call, Solid(spots), LEVEL, "one")
         # SLANTED looks along (1, -2, 2) from (1, 2, 3).
@@ -178,7 +182,8 @@ class PaintingTest(unittest.TestCase, Checks):
         self.raised(Behind, {"name": "a"}, book_of, lost, {"one": LEVEL}, gone)
         self.raised(NoLabel, {"name": "one.y"}, book_of, SLAB, {"one": LEVEL}, gone)
         self.raised(NoPicture, {"name": "six"}, book_of, SLAB, {"one": LEVEL}, [Foot("six", 1, 2)])
-        self.raised(Behind, {"name": "c"}, book_of, SLAB, {"two": LEVEL, "three": View((0, 0, 5), (0, 1, 0), (1, 0, 0), (0, 0, -1), (0, 0), 1)}, gone)
+        self.raised(Behind, {"name": "c"}, book_of, SLAB, {"two": LEVEL,
+                                                           "three": View((0, 0, 5), (0, 1, 0), (1, 0, 0), (0, 0, -1), (0, 0), 1)}, gone)
         many = {name: LEVEL for name in ("a", "b", "c", "d", "e")}
         self.raised(TooMany, {"what": "pictures", "most": 4}, book_of, SLAB, many)
         self.assertEqual(len(book_of(SLAB, {name: LEVEL for name in "abcd"}).facts), 12)

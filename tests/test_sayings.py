@@ -6,7 +6,7 @@ from alleyes.errors import BadMark, BadNumber, BadStep, NoLabel, Twice, TwoPictu
 from alleyes.facts import Fact, Far, Foot, Null, Tie, Upright
 from alleyes.ratios import Ratio
 from alleyes.sayings import AtLeast, Before, Blunt, Deeper, Longer, OnSide, Saying, Sharp, Shorter, is_saying
-from alleyes.steps import Mark, Step
+from alleyes.steps import Mark
 from tests.support import NO_LABELS, NO_RATIOS, NO_TEXTS, Checks, Odd
 from tests.test_facts import AB, AD, ALL, NO_STEPS, RIGHT, TEXTS, UP
 

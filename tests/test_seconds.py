@@ -135,7 +135,8 @@ class SecondsTest(unittest.TestCase, Checks):
         for _ in range(10):
             world, standing = linked_world(source, ("one", "two"))
             axes = [look.axes[2] for look in world.looks.values()]
-            parallel = not any(a * d - b * c for a, b, c, d in [(axes[0][i], axes[0][j], axes[1][i], axes[1][j]) for i, j in ((0, 1), (1, 2), (0, 2))])
+            parallel = not any(a * d - b * c for a, b, c, d in [(axes[0][i], axes[0][j], axes[1][i], axes[1][j]) for i,
+                    j in ((0, 1), (1, 2), (0, 2))])
             for one, other in (("one", "two"), ("two", "one")):
                 self.assertIs(is_one_look(standing, one, other), parallel and standing.heaps[0].flat.rank == 0)
                 self.assertIs(is_one_look(standing, one, one), True)

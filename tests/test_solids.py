@@ -18,13 +18,16 @@ class SolidsTest(unittest.TestCase, Checks):
         solid = Solid(corners=told)
         told["z"] = (1, 1, 1)
         told["b"][0] = 7
-        self.assertEqual([solid.names, solid.corners], [("a", "a1", "b"), (("a", (0, 0, 0)), ("a1", (0, 0, 0)), ("b", (1, Ratio(1, 2), -3)))])
-        self.assertTrue(all(type(part) is tuple for part in (solid.names, solid.corners, *solid.corners, *[spot for _, spot in solid.corners])))
+        self.assertEqual([solid.names, solid.corners], [("a", "a1", "b"),
+                                                        (("a", (0, 0, 0)), ("a1", (0, 0, 0)), ("b", (1, Ratio(1, 2), -3)))])
+        self.assertTrue(all(type(part) is tuple for part in (solid.names, solid.corners, *solid.corners,
+                *[spot for _, spot in solid.corners])))
         for _, spot in solid.corners:
             self.all_ratios(spot)
         self.assertEqual([solid.spot_of(name="b"), solid.spot_of("a")], [(1, Ratio(1, 2), -3), (0, 0, 0)])
         self.all_ratios(solid.spot_of("b"))
-        self.assertEqual([len(solid), list(solid), list(iter(solid)), "a" in solid, "z" in solid], [3, ["a", "a1", "b"], ["a", "a1", "b"], True, False])
+        self.assertEqual([len(solid), list(solid), list(iter(solid)), "a" in solid, "z" in solid],
+                         [3, ["a", "a1", "b"], ["a", "a1", "b"], True, False])
         for value in (*NO_NAMES, ("a",), 1.5):
             self.assertIs(value in solid, False)
             self.raised(NoName, {"name": value}, solid.spot_of, value)
@@ -33,7 +36,8 @@ class SolidsTest(unittest.TestCase, Checks):
     def test_equality(self):
         again = Solid({"d": [-3, -3, 9], "c": (Ratio(3), -3, 9), "b": (3, -3, 3), "a": (-3, -3, 3)})
         self.assertTrue(again == SLAB and not again != SLAB)
-        for other in (Solid({**dict(SLAB.corners), "a": (-3, -3, 4)}), Solid({**dict(SLAB.corners), "e": (0, 0, 0)}), SLAB.portion(["a", "b"]),
+        for other in (Solid({**dict(SLAB.corners), "a": (-3, -3, 4)}), Solid({**dict(SLAB.corners), "e": (0, 0, 0)}),
+                      SLAB.portion(["a", "b"]),
                       SLAB.corners, dict(SLAB.corners), None, Odd(), "a"):
             self.assertTrue(SLAB != other and not SLAB == other)
 
@@ -66,9 +70,11 @@ class SolidsTest(unittest.TestCase, Checks):
     def test_enlarged(self):
         """Each corner lies m times as far from the place, the same way."""
         for place, m in (((0, 0, 0), 2), ((1, 2, Fraction(1, 2)), Fraction(2, 3)), ((-3, -3, 3), 5), ((7, 7, 7), 1)):
-            made = SLAB.enlarged(place=[Ratio(Fraction(part).numerator, Fraction(part).denominator) for part in place], m=Ratio(Fraction(m).numerator, Fraction(m).denominator))
+            made = SLAB.enlarged(place=[Ratio(Fraction(part).numerator, Fraction(part).denominator) for part in place],
+                                 m=Ratio(Fraction(m).numerator, Fraction(m).denominator))
             for name, spot in made.corners:
-                self.assertEqual([value_of(part) for part in spot], [at + (value_of(own) - at) * m for own, at in zip(SLAB.spot_of(name), place)])
+                self.assertEqual([value_of(part) for part in spot], [at + (value_of(own) - at) * m for own,
+                        at in zip(SLAB.spot_of(name), place)])
         self.assertEqual(SLAB.enlarged((7, 7, 7), 1), SLAB)
         for value in NO_PLACES:
             self.bad(BadNumber, "place", SLAB.enlarged, value, None)

@@ -25,11 +25,12 @@ from alleyes.sheet import meet_of
 from alleyes.spans import reduced, rest_of
 from alleyes.standing import Heap, NeverOne, Possible, Standing, home_form, place_in, stand, together, way_of
 from alleyes.steps import Mark, Step
-from tests.painting import LETTERS, Look, World, box_nulls, cross, cube_world, det, direction, dot, random_step, random_world
+from tests.linked import factor_of, true_map
+from tests.painting import LETTERS, Look, World, box_nulls, cube_world, direction, dot, random_step, random_world
 from tests.painting import ratio_of, true_facts, true_ties
 from tests.right_standing import right_paper
 from tests.right_words import reading
-from tests.support import NO_LABELS, NO_NAMES, Checks, Odd, value_of
+from tests.support import NO_NAMES, Checks, Odd, value_of
 
 ONE = Picture("one", {"a": (0, 0), "b": (6, 0), "c": (4, 2), "d": (2, 2)})
 AB, AD, DC = Step.between("one.a", "one.b"), Step.between("one.a", "one.d"), Step.between("one.d", "one.c")
@@ -56,29 +57,6 @@ def box_world(names=("one",), looks=None):
     """The corners of the cube of side 1, named by their bits; each picture has a look of its own."""
     spots = {LETTERS[number]: tuple(Fraction(number >> bit & 1) for bit in range(3)) for number in range(8)}
     return World(spots, dict(zip(names, looks or [SIX])), {name: list(spots) for name in names})
-
-
-def inverse(lines):
-    size = det(*lines)
-    rows = (cross(lines[1], lines[2]), cross(lines[2], lines[0]), cross(lines[0], lines[1]))
-    return [[rows[column][row] / size for column in range(3)] for row in range(3)]
-
-
-def space_lines(look):
-    """The rows that make of a vector in space the form of its step."""
-    columns = [look.form(axis) for axis in ((1, 0, 0), (0, 1, 0), (0, 0, 1))]
-    return [[column[row] for column in columns] for row in range(3)]
-
-
-def stretch_of(world, home, name, lines):
-    """How many times the map told the true one is, None unless it is one such number above 0."""
-    there, back = space_lines(world.looks[home]), inverse(space_lines(world.looks[name]))
-    true = [[sum(there[row][k] * back[k][column] for k in range(3)) for column in range(3)] for row in range(3)]
-    pairs = [(Fraction(number), other) for line, wanted in zip(lines, true) for number, other in zip(line, wanted)]
-    if any(bool(number) != bool(other) for number, other in pairs):
-        return None
-    found = {number / other for number, other in pairs if other}
-    return found.pop() if len(found) == 1 and min(found) > 0 else None
 
 
 class StandingTest(unittest.TestCase, Checks):
@@ -407,7 +385,7 @@ class StandingTest(unittest.TestCase, Checks):
         """The painted depths, in the scale that the map of each picture tells."""
         depths = {}
         for name in heap.names:
-            times = stretch_of(world, heap.home, name, heap.maps[name])
+            times = factor_of(heap.maps[name], true_map(world, name, heap.home))
             self.assertIsNotNone(times)
             depths.update({label: ratio_of(depth / times) for label, depth in world.depths(name).items()})
         return depths

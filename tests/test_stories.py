@@ -30,7 +30,8 @@ class StoriesTest(unittest.TestCase, Checks):
     def test_example(self):
         desk = tiled()
         fork = desk.twin()
-        self.assertEqual([fork("strike 0"), parting(desk, fork), merged(desk, fork)[0] == fork, replay(fork.story) == fork], ["0", 2, True, True])
+        self.assertEqual([fork("strike 0"), parting(desk, fork), merged(desk, fork)[0] == fork, replay(fork.story) == fork],
+                         ["0", 2, True, True])
 
     def test_replay(self):
         desk = replay(lines=[PUT, TELL, "tell far one | 9", "strike 0"])
@@ -46,14 +47,19 @@ class StoriesTest(unittest.TestCase, Checks):
             if word in ASKS:
                 for told_line in (line, line + " ?", word, word + " "):
                     self.line_refused(1, BadText, {"line": 0, "word": 0}, [PUT, told_line, TELL])
-        for lines, index, error, fields in ((["names"], 0, BadText, {"line": 0, "word": 0}), ([TELL], 0, Nothing, {}), ([PUT, TELL, PUT], 2, Twice, {"name": "one"}),
-                                            ([PUT, "strike 0"], 1, NoFact, {"number": 0}), ([PUT, "tell"], 1, BadText, {"line": 0, "word": 1}), ([PUT, "", "names"], 1, BadText, {"line": 0, "word": 0}),
-                                            ([PUT, "tell far one | 9", "tell null one.y 1 one.z -1", "names"], 2, NoLabel, {"name": "one.y"})):
+        for lines, index, error, fields in ((["names"], 0, BadText, {"line": 0, "word": 0}), ([TELL], 0, Nothing, {}),
+                                            ([PUT, TELL, PUT], 2, Twice, {"name": "one"}),
+                                            ([PUT, "strike 0"], 1, NoFact, {"number": 0}),
+                                            ([PUT, "tell"], 1, BadText, {"line": 0, "word": 1}),
+                                            ([PUT, "", "names"], 1, BadText, {"line": 0, "word": 0}),
+                                            ([PUT, "tell far one | 9", "tell null one.y 1 one.z -1", "names"], 2, NoLabel,
+                                             {"name": "one.y"})):
             self.line_refused(index, error, fields, lines)
 
     def test_parting(self):
         one = told(PUT, TELL, "tell far one | 9")
-        for lines, shared in (((), 0), ((PUT,), 1), ((PUT, TELL), 2), ((PUT, TELL, "tell far one | 8"), 2), ((PUT, "tell far one | 9", TELL), 1), (one.story, 3),
+        for lines, shared in (((), 0), ((PUT,), 1), ((PUT, TELL), 2), ((PUT, TELL, "tell far one | 8"), 2),
+                              ((PUT, "tell far one | 9", TELL), 1), (one.story, 3),
                               ((*one.story, "strike 0"), 3), (("put two : a 0 0", PUT), 0)):
             self.assertEqual([parting(one=one, other=told(*lines)), parting(told(*lines), one)], [shared, shared])
         self.assertEqual(parting(one, one), 3)
@@ -66,7 +72,8 @@ class StoriesTest(unittest.TestCase, Checks):
         found = merged(one=one, other=other)
         self.assertEqual([type(found), type(found[0]), found[1]], [tuple, Desk, (3,)])
         # strike 0 takes out what the new desk keeps there; the second picture is refused, what is told of two stands.
-        self.assertEqual(found[0].story, (PUT, TELL, "tell far one | 9", "put two : a 0 0", "strike 0", "tell far two | 3", "tell far one | 8", "strike 1 0"))
+        self.assertEqual(found[0].story, (PUT, TELL, "tell far one | 9", "put two : a 0 0", "strike 0", "tell far two | 3",
+                                          "tell far one | 8", "strike 1 0"))
         self.assertEqual([list(found[0]), laters(found[0])], [["far one | 8"], []])
         self.assertEqual(merged(other, one)[1], (3,))
         self.assertEqual([merged(Desk(), one)[0] == one, merged(one, Desk())[0] == one, merged(one, one)[0].story], [True, True, one.story])
@@ -84,7 +91,8 @@ class StoriesTest(unittest.TestCase, Checks):
             for _ in range(2):
                 desk = told(*shared)
                 for _ in range(7):
-                    line = source.choice([f"tell {random_fact(source, world)}", "strike 0", f"strike {source.randint(0, 7)}", "drop two", "put two : a 0 0", "put three : a 0 0",
+                    line = source.choice([f"tell {random_fact(source, world)}", "strike 0", f"strike {source.randint(0, 7)}",
+                                          "drop two", "put two : a 0 0", "put three : a 0 0",
                                           "tell far three | 9"])
                     try:
                         desk(line)

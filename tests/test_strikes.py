@@ -33,7 +33,8 @@ class StrikesTest(unittest.TestCase, Checks):
 
     def test_papers(self):
         paper, denial = Strikes(numbers=[1], paper=None, clashes=[[[1, 2], None]]), NoStrike(most=1, clashes=[])
-        self.assertEqual([paper.word, paper.numbers, paper.paper, paper.clashes, bool(paper)], ["strikes", (1,), None, (((1, 2), None),), True])
+        self.assertEqual([paper.word, paper.numbers, paper.paper, paper.clashes, bool(paper)],
+                         ["strikes", (1,), None, (((1, 2), None),), True])
         self.assertEqual([denial.word, denial.most, denial.clashes, bool(denial)], ["nostrike", 1, (), False])
         self.assertTrue(isinstance(paper, Paper) and isinstance(denial, Denial))
 
@@ -41,7 +42,8 @@ class StrikesTest(unittest.TestCase, Checks):
         """Beside all choices of facts, for each bound."""
         source, seen = random.Random(1), {}
         for number in range(10):
-            book = mirrored_book(source) if number % 8 == 0 else bent_book(source, ("one",) if number & 1 else ("one", "two"), source.randint(1, 4), 8)
+            book = mirrored_book(source) if number % 8 == 0 else bent_book(source, ("one",) if number & 1 else ("one", "two"),
+                    source.randint(1, 4), 8)
             for most in range(3):
                 found = strikes(book=book, most=most)
                 wanted = fewest(book, most)

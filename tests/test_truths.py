@@ -33,12 +33,15 @@ class TruthsTest(unittest.TestCase, Checks):
         return is_true(SPREAD, VIEWS, fact)
 
     def test_example(self):
-        held = [Along(RIM, HIND), Lengths(RIM, HIND), Upright(RIM, INWARD), Lengths(RIM, INWARD), Upright(HIND, INWARD), Lengths(HIND, INWARD)]
-        self.assertEqual((true_facts(SLAB, {"one": LEVEL}, [RIM, HIND, INWARD]) == held, is_true(SLAB, {"one": LEVEL}, SameWay(RIM, HIND))), (True, False))
+        held = [Along(RIM, HIND), Lengths(RIM, HIND), Upright(RIM, INWARD), Lengths(RIM, INWARD), Upright(HIND, INWARD),
+                Lengths(HIND, INWARD)]
+        self.assertEqual((true_facts(SLAB, {"one": LEVEL}, [RIM, HIND, INWARD]) == held,
+                          is_true(SLAB, {"one": LEVEL}, SameWay(RIM, HIND))), (True, False))
 
     def test_led_by(self):
         self.assertEqual(led_by(solid=SLAB, views=VIEWS, step=INWARD), (0, 0, 6))
-        self.assertEqual([led_by(SLAB, VIEWS, Step.right_of("two")), led_by(SLAB, VIEWS, Step.up_of("two")), led_by(SLAB, VIEWS, Step.up_of("one"))],
+        self.assertEqual([led_by(SLAB, VIEWS, Step.right_of("two")), led_by(SLAB, VIEWS, Step.up_of("two")),
+                          led_by(SLAB, VIEWS, Step.up_of("one"))],
                          [(2, 2, 1), (-2, 1, 2), (0, 1, 0)])
         self.assertEqual(led_by(SPREAD, VIEWS, between("o", "q", "two")), (0, 0, 0))
         self.assertEqual(led_by(SPREAD, VIEWS, Step({"one.p": Ratio(1, 2), "one.r": Ratio(3, 4), "one.o": Ratio(-5, 4)})), (1, 3, 0))
@@ -71,21 +74,30 @@ class TruthsTest(unittest.TestCase, Checks):
     def test_steps_that_lead_nowhere(self):
         nowhere, right, up = between("o", "q"), Step.right_of("one"), Step.up_of("one")
         across, aside = between("o", "p"), between("o", "r")
-        for fact, wanted in ((Null(nowhere), True), (Null(across), False), (Along(nowhere, across), True), (Along(nowhere, right), True), (Along(nowhere, nowhere), True),
+        for fact, wanted in ((Null(nowhere), True), (Null(across), False), (Along(nowhere, across), True),
+                             (Along(nowhere, right), True), (Along(nowhere, nowhere), True),
                              (SameWay(nowhere, nowhere), False), (SameWay(nowhere, across), False), (SameWay(across, nowhere), False),
-                             (InPlane(nowhere, across, aside), True), (InPlane(across, nowhere, aside), False), (InPlane(across, aside, nowhere), False),
-                             (InPlane(across, aside, across), True), (InPlane(across, across, across), False), (InPlane(nowhere, right, up), True),
-                             (Upright(nowhere, across), False), (Upright(across, nowhere), False), (Upright(nowhere, right), False), (Upright(nowhere, nowhere), False),
-                             (Lengths(nowhere, nowhere), False), (Lengths(nowhere, across), False), (Lengths(across, nowhere), False), (Lengths(across, across), True)):
+                             (InPlane(nowhere, across, aside), True), (InPlane(across, nowhere, aside), False),
+                             (InPlane(across, aside, nowhere), False),
+                             (InPlane(across, aside, across), True), (InPlane(across, across, across), False),
+                             (InPlane(nowhere, right, up), True),
+                             (Upright(nowhere, across), False), (Upright(across, nowhere), False), (Upright(nowhere, right), False),
+                             (Upright(nowhere, nowhere), False),
+                             (Lengths(nowhere, nowhere), False), (Lengths(nowhere, across), False), (Lengths(across, nowhere), False),
+                             (Lengths(across, across), True)):
             self.assertIs(self.true(fact), wanted, str(fact))
 
     def test_ways(self):
         across, back, long = between("o", "p"), between("o", "s"), between("s", "p")
-        for fact, wanted in ((SameWay(across, long), True), (SameWay(across, back), False), (Along(across, back), True), (SameWay(back, back), True),
-                             (SameWay(across, Step.right_of("one")), True), (SameWay(Step.right_of("one"), back), False), (SameWay(across, Step.right_of("two")), False),
+        for fact, wanted in ((SameWay(across, long), True), (SameWay(across, back), False), (Along(across, back), True),
+                             (SameWay(back, back), True),
+                             (SameWay(across, Step.right_of("one")), True), (SameWay(Step.right_of("one"), back), False),
+                             (SameWay(across, Step.right_of("two")), False),
                              (Along(Step.up_of("one"), between("o", "r")), True), (Along(between("o", "v"), across), False),
-                             (InPlane(between("o", "u"), across, between("o", "r")), False), (InPlane(between("o", "t"), across, between("o", "r")), True),
-                             (InPlane(between("p", "r"), Step.right_of("one"), Step.up_of("one")), True), (InPlane(between("o", "v"), Step.right_of("two"), Step.up_of("two")), False)):
+                             (InPlane(between("o", "u"), across, between("o", "r")), False),
+                             (InPlane(between("o", "t"), across, between("o", "r")), True),
+                             (InPlane(between("p", "r"), Step.right_of("one"), Step.up_of("one")), True),
+                             (InPlane(between("o", "v"), Step.right_of("two"), Step.up_of("two")), False)):
             self.assertIs(self.true(fact), wanted, str(fact))
 
     def test_right_and_up(self):
@@ -93,16 +105,22 @@ class TruthsTest(unittest.TestCase, Checks):
         right, up = Step.right_of("one"), Step.up_of("one")
         there, high = Step.right_of("two"), Step.up_of("two")
         unit = between("s", "o")
-        for fact, wanted in ((Lengths(right, up), True), (Lengths(up, right, 3, 3), True), (Lengths(right, right), True), (Lengths(right, up, 2, 1), False),
-                             (Lengths(right, there), False), (Lengths(there, high), True), (Lengths(there, up, 9, 1), False), (Lengths(right, unit), False), (Lengths(unit, up), False),
-                             (Lengths(unit, unit), True), (Upright(right, up), True), (Upright(there, high), True), (Upright(right, there), False), (Upright(unit, up), True),
-                             (Upright(unit, right), False), (Upright(Step.up_of("one"), between("o", "u")), True), (Lengths(between("o", "p"), between("o", "r"), 1, 4), True),
+        for fact, wanted in ((Lengths(right, up), True), (Lengths(up, right, 3, 3), True), (Lengths(right, right), True),
+                             (Lengths(right, up, 2, 1), False),
+                             (Lengths(right, there), False), (Lengths(there, high), True), (Lengths(there, up, 9, 1), False),
+                             (Lengths(right, unit), False), (Lengths(unit, up), False),
+                             (Lengths(unit, unit), True), (Upright(right, up), True), (Upright(there, high), True),
+                             (Upright(right, there), False), (Upright(unit, up), True),
+                             (Upright(unit, right), False), (Upright(Step.up_of("one"), between("o", "u")), True),
+                             (Lengths(between("o", "p"), between("o", "r"), 1, 4), True),
                              (Lengths(between("o", "p"), between("o", "r"), 4, 1), False), (Lengths(between("o", "v"), unit, 3, 1), True)):
             self.assertIs(self.true(fact), wanted, str(fact))
 
     def test_eyes_and_ties(self):
-        for fact, wanted in ((Foot("one", 3, 3), True), (Foot("one", 3, 2), False), (Foot("one", 2, 3), False), (Foot("two", Ratio(1, 2), -1), True), (Far("one", 27), True),
-                             (Far("one", 26), False), (Far("two", Ratio(15, 2)), True), (Far("two", Ratio(25, 4)), False), (Tie("one.o", "two.q"), True), (Tie("two.p", "one.p"), True),
+        for fact, wanted in ((Foot("one", 3, 3), True), (Foot("one", 3, 2), False), (Foot("one", 2, 3), False),
+                             (Foot("two", Ratio(1, 2), -1), True), (Far("one", 27), True),
+                             (Far("one", 26), False), (Far("two", Ratio(15, 2)), True), (Far("two", Ratio(25, 4)), False),
+                             (Tie("one.o", "two.q"), True), (Tie("two.p", "one.p"), True),
                              (Tie("one.o", "two.p"), False)):
             self.assertIs(self.true(fact), wanted, str(fact))
 
@@ -124,7 +142,8 @@ class TruthsTest(unittest.TestCase, Checks):
                         wanted.append(SameWay(one, other) if dot(v, w) > 0 else Along(one, other))
                     if dot(v, w) == 0:
                         wanted.append(Upright(one, other))
-                    if (dot(v, v) == dot(w, w)) if one.terms and other.terms else (not one.terms and not other.terms and one.picture_name == other.picture_name):
+                    if (dot(v, v) == dot(w,
+                                         w)) if one.terms and other.terms else (not one.terms and not other.terms and one.picture_name == other.picture_name):
                         wanted.append(Lengths(one, other))
             found = true_facts(solid=solid, views=views, steps=steps)
             self.assertIs(type(found), list)
@@ -151,12 +170,14 @@ class TruthsTest(unittest.TestCase, Checks):
             self.bad(BadStep, "steps", true_facts, SLAB, VIEWS, value)
         for value in (None, RIM, Deeper("one.a", "one.b"), "far one | 1", Odd()):
             self.bad(BadFact, "fact", is_true, SLAB, VIEWS, value)
-        for step, error, name in ((lost, NoLabel, "one.w"), (away, NoPicture, "six"), (far_off, NoPicture, "six"), (Step({"one.b": 1, "one.e": -1}), NoLabel, "one.e")):
+        for step, error, name in ((lost, NoLabel, "one.w"), (away, NoPicture, "six"), (far_off, NoPicture, "six"),
+                                  (Step({"one.b": 1, "one.e": -1}), NoLabel, "one.e")):
             self.raised(error, {"name": name}, led_by, SLAB, VIEWS, step)
             self.raised(error, {"name": name}, true_facts, SLAB, VIEWS, [RIM, step, Step.up_of("five")])
             self.raised(error, {"name": name}, is_true, SLAB, VIEWS, Upright(step, Step.up_of("five")))
             self.raised(error, {"name": name}, is_true, SLAB, VIEWS, InPlane(RIM, Step.up_of("one"), step))
-        for fact, error, name in ((Tie("one.x", "six.a"), NoLabel, "one.x"), (Tie("six.x", "one.x"), NoPicture, "six"), (Tie("one.a", "two.z"), NoLabel, "two.z"),
+        for fact, error, name in ((Tie("one.x", "six.a"), NoLabel, "one.x"), (Tie("six.x", "one.x"), NoPicture, "six"),
+                                  (Tie("one.a", "two.z"), NoLabel, "two.z"),
                                   (Foot("six", 1, 2), NoPicture, "six"), (Far("six", 1), NoPicture, "six")):
             self.raised(error, {"name": name}, is_true, SLAB, VIEWS, fact)
 

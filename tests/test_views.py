@@ -37,7 +37,8 @@ class ViewsTest(unittest.TestCase, Checks):
         self.assertTrue(View(*PARTS) == SLANTED and not View(*PARTS) != SLANTED)
         turned = View((1, 2, 3), (-2, 1, 2), (-2, -2, -1), (1, -2, 2), (Ratio(1, 2), -1), Ratio(5, 2))
         longer = View((1, 2, 3), (4, 4, 2), (-4, 2, 4), (2, -4, 4), (Ratio(1, 2), -1), Ratio(5, 2))
-        for other in (LEVEL, turned, longer, SLANTED.moved((0, 0, 1)), SLANTED.framed((0, -1), Ratio(5, 2)), SLANTED.framed((Ratio(1, 2), -1), 2),
+        for other in (LEVEL, turned, longer, SLANTED.moved((0, 0, 1)), SLANTED.framed((0, -1), Ratio(5, 2)),
+                      SLANTED.framed((Ratio(1, 2), -1), 2),
                       parts_of(SLANTED), None, Odd()):
             self.assertTrue(SLANTED != other and not SLANTED == other)
 
@@ -55,11 +56,16 @@ class ViewsTest(unittest.TestCase, Checks):
 
     def test_axes(self):
         zero = (0, 0, 0)
-        for right, up, ahead, part in (((1, 0, 0), (1, 1, 0), (0, 0, 1), "axes"), ((1, 0, 0), (0, 1, 0), (1, 0, 1), "axes"), ((1, 0, 0), (0, 1, 0), (0, 1, 1), "axes"),
-                                       ((2, 0, 0), (0, 1, 0), (0, 0, 1), "axes"), ((1, 0, 0), (0, 1, 0), (0, 0, 2), "axes"), ((1, 0, 0), (0, 2, 0), (0, 0, 1), "axes"),
-                                       (zero, zero, zero, "axes"), ((1, 0, 0), (1, 0, 0), (1, 0, 0), "axes"), (zero, (0, 1, 0), (0, 0, 1), "axes"),
-                                       ((1, 0, 0), (0, 1, 0), (0, 0, -1), "ahead"), ((0, 1, 0), (1, 0, 0), (0, 0, 1), "ahead"), ((-2, -2, -1), (-2, 1, 2), (1, -2, 2), "ahead"),
-                                       ((1, 0, 0), (0, -1, 0), (0, 0, 1), "ahead"), ((Ratio(-1, 2), 0, 0), (0, Ratio(1, 2), 0), (0, 0, Ratio(1, 2)), "ahead")):
+        for right, up, ahead, part in (((1, 0, 0), (1, 1, 0), (0, 0, 1), "axes"), ((1, 0, 0), (0, 1, 0), (1, 0, 1), "axes"),
+                                       ((1, 0, 0), (0, 1, 0), (0, 1, 1), "axes"),
+                                       ((2, 0, 0), (0, 1, 0), (0, 0, 1), "axes"), ((1, 0, 0), (0, 1, 0), (0, 0, 2), "axes"),
+                                       ((1, 0, 0), (0, 2, 0), (0, 0, 1), "axes"),
+                                       (zero, zero, zero, "axes"), ((1, 0, 0), (1, 0, 0), (1, 0, 0), "axes"),
+                                       (zero, (0, 1, 0), (0, 0, 1), "axes"),
+                                       ((1, 0, 0), (0, 1, 0), (0, 0, -1), "ahead"), ((0, 1, 0), (1, 0, 0), (0, 0, 1), "ahead"),
+                                       ((-2, -2, -1), (-2, 1, 2), (1, -2, 2), "ahead"),
+                                       ((1, 0, 0), (0, -1, 0), (0, 0, 1), "ahead"),
+                                       ((Ratio(-1, 2), 0, 0), (0, Ratio(1, 2), 0), (0, 0, Ratio(1, 2)), "ahead")):
             self.bad(BadView, part, View, (0, 0, 0), right, up, ahead, (0, 0), 1)
         source = random.Random(1)
         for _ in range(30):

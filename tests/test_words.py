@@ -19,7 +19,7 @@ from tests.painting import any_step, box_nulls, cube_world, det, dot, holds, min
 from tests.painting import true_facts, true_ties
 from tests.right_words import right_word
 from tests.support import Checks, Odd
-from tests.test_standing import AB, AD, AGAIN, CORNER, DC, EDGES, IMPOSSIBLE, JOINED, ONE, RIGHT, TILE, UP, between, box_world
+from tests.test_standing import AB, AD, AGAIN, CORNER, DC, EDGES, IMPOSSIBLE, JOINED, ONE, RIGHT, TILE, UP, between
 
 LOOSE, PLAIN = stand(Book([ONE], [])), stand(Book([ONE], [Null(TILE)]))
 FOOTED = stand(Book([ONE], [Null(TILE), Foot("one", 3, 0)]))
