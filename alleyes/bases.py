@@ -72,7 +72,8 @@ def cheapest(standing, offered, prices):
     chosen = offer.flat.narrowed([offer.rows[number] for number in numbers])
     a, b, s = eyes_around(chosen)[0]
     axes = [chosen.weights_of(row) for row in rows_to(a, b, s)]
-    closes = [_closing(offer, numbers, number) for number in range(len(offer.rows)) if number not in numbers]
+    # The chosen rows bring each of them something new, so dearer ones than a row have no part in its sum.
+    closes = [chosen.weights_of(row) for number, row in enumerate(offer.rows) if number not in numbers]
     price = added([offer.prices[number] for number in numbers])
     return Cheapest(numbers, price, (a, b, s), axes, closes, [_eye_apart(offer, numbers, number) for number in numbers])
 
@@ -131,15 +132,6 @@ def _base_of(offer):
 def _key_of(prices, price):
     """How many of the prices are below a price."""
     return len([other for other in prices if other.is_below(price)])
-
-
-def _closing(offer, numbers, number):
-    """Weights of told lines and of rows at no greater price, with which they add up to the row of a number."""
-    at_most = [other for other in numbers if not offer.prices[number].is_below(offer.prices[other])]
-    weights = offer.flat.narrowed([offer.rows[other] for other in at_most]).weights_of(offer.rows[number])
-    many = len(offer.flat.lines)
-    behind = dict(zip(at_most, weights[many:]))
-    return (*weights[:many], *[behind.get(other, Ratio(0)) for other in numbers])
 
 
 def _eye_apart(offer, numbers, number):
