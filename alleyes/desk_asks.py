@@ -25,7 +25,7 @@ def answer_of(pictures, facts, line):
     check_kept(pictures, facts)
     if first_word(line) in DEEDS:
         raise BadText(0, 0)
-    ask, *parts = read_line(line)
+    ask, *parts = list(read_line(line))
     book = book_kept(pictures, facts)
     if ask == "names":
         return _listed([picture.name for picture in pictures])

@@ -9,17 +9,15 @@ from alleyes.fitting import names_in
 from alleyes.pictures import Picture
 from alleyes.reader import ASKS, first_word, read_line
 
-PUT = "put"
-
 
 def changed(pictures, facts, line):
     """The pictures and the facts behind a deed line, and the answer to it."""
     check_kept(pictures, facts)
     if first_word(line) in ASKS:
         raise BadText(0, 0)
-    deed, *parts = read_line(line)
+    deed, *parts = list(read_line(line))
     book = book_kept(pictures, facts)
-    if deed == PUT:
+    if deed == "put":
         newer = Book([*pictures, *parts], facts)
         return newer.pictures, newer.facts, str(len(newer.pictures))
     if book is None:
